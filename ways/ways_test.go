@@ -17,7 +17,8 @@ import (
 // leans is, package by package, what the section 'Ways' names.
 func leans() map[string]string {
 	return map[string]string{
-		"spot": "range-function array-compared closure",
+		"spot":   "range-function array-compared closure",
+		"digits": "range-function range-integer errors.As",
 	}
 }
 
