@@ -20,6 +20,7 @@ func leans() map[string]string {
 		"spot":   "range-function array-compared closure",
 		"digits": "range-function range-integer errors.As",
 		"token":  "interface interface-call panic recover defer closure",
+		"ident":  "method-value array map range-function",
 	}
 }
 
