@@ -21,6 +21,7 @@ func leans() map[string]string {
 		"digits": "range-function range-integer errors.As",
 		"token":  "interface interface-call panic recover defer closure",
 		"ident":  "method-value array map range-function",
+		"table":  "map method-value range-function-two",
 	}
 }
 
