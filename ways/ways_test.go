@@ -22,6 +22,7 @@ func leans() map[string]string {
 		"token":  "interface interface-call panic recover defer closure",
 		"ident":  "method-value array map range-function",
 		"table":  "map method-value range-function-two",
+		"net":    "map array panic recover defer range-function",
 	}
 }
 
