@@ -23,6 +23,7 @@ func leans() map[string]string {
 		"ident":  "method-value array map range-function",
 		"table":  "map method-value range-function-two",
 		"net":    "map array panic recover defer range-function",
+		"order":  "container/heap.Pop map delete range-function",
 	}
 }
 
