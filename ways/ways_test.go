@@ -24,6 +24,7 @@ func leans() map[string]string {
 		"table":  "map method-value range-function-two",
 		"net":    "map array panic recover defer range-function",
 		"order":  "container/heap.Pop map delete range-function",
+		"step":   "fallthrough map range-function-two function-field",
 	}
 }
 
