@@ -25,6 +25,7 @@ func leans() map[string]string {
 		"net":    "map array panic recover defer range-function",
 		"order":  "container/heap.Pop map delete range-function",
 		"step":   "fallthrough map range-function-two function-field",
+		"aig":    "map array-keys embedding promoted method-value range-function",
 	}
 }
 
