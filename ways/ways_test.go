@@ -26,6 +26,7 @@ func leans() map[string]string {
 		"order":  "container/heap.Pop map delete range-function",
 		"step":   "fallthrough map range-function-two function-field",
 		"aig":    "map array-keys embedding promoted method-value range-function",
+		"cover":  "range-function closure panic recover defer",
 	}
 }
 
