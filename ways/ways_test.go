@@ -26,7 +26,8 @@ func leans() map[string]string {
 		"order":  "container/heap.Pop map delete range-function",
 		"step":   "fallthrough map range-function-two function-field",
 		"aig":    "map array-keys embedding promoted method-value range-function",
-		"cover":  "range-function closure panic recover defer",
+		"cover":  "range-function array-compared closure panic recover defer",
+		"lower":  "map method-expression panic recover defer closure",
 	}
 }
 
