@@ -28,6 +28,7 @@ func leans() map[string]string {
 		"aig":    "map array-keys embedding promoted method-value range-function",
 		"cover":  "range-function array-compared closure panic recover defer",
 		"lower":  "map method-expression panic recover defer closure",
+		"raise":  "map interface interface-call function-field",
 	}
 }
 
