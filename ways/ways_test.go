@@ -29,6 +29,7 @@ func leans() map[string]string {
 		"cover":  "range-function array-compared closure panic recover defer",
 		"lower":  "map method-expression panic recover defer closure",
 		"raise":  "map interface interface-call function-field",
+		"aiger":  "panic recover defer array method-value variadic",
 	}
 }
 
