@@ -30,6 +30,7 @@ func leans() map[string]string {
 		"lower":  "map method-expression panic recover defer closure",
 		"raise":  "map interface interface-call function-field",
 		"aiger":  "panic recover defer array method-value variadic",
+		"packed": "panic recover defer range-function-two three-index",
 	}
 }
 
