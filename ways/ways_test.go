@@ -31,6 +31,7 @@ func leans() map[string]string {
 		"raise":  "map interface interface-call function-field",
 		"aiger":  "panic recover defer array method-value variadic",
 		"packed": "panic recover defer range-function-two three-index",
+		"blif":   "map method-expression panic recover defer range-function",
 	}
 }
 
