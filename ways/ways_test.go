@@ -32,6 +32,7 @@ func leans() map[string]string {
 		"aiger":  "panic recover defer array method-value variadic",
 		"packed": "panic recover defer range-function-two three-index",
 		"blif":   "map method-expression panic recover defer range-function",
+		"bench":  "map generic-function panic recover defer method-value",
 	}
 }
 
