@@ -34,6 +34,7 @@ func leans() map[string]string {
 		"blif":    "map method-expression panic recover defer range-function",
 		"bench":   "map generic-function panic recover defer method-value",
 		"verilog": "map panic recover defer method-value",
+		"trans":   "function-field array errors.As",
 	}
 }
 
