@@ -35,6 +35,7 @@ func leans() map[string]string {
 		"bench":   "map generic-function panic recover defer method-value",
 		"verilog": "map panic recover defer method-value",
 		"trans":   "function-field array errors.As",
+		"cnf":     "embedding promoted variadic method-value",
 	}
 }
 
