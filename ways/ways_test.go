@@ -36,6 +36,7 @@ func leans() map[string]string {
 		"verilog": "map panic recover defer method-value",
 		"trans":   "function-field array errors.As",
 		"cnf":     "embedding promoted variadic method-value",
+		"proof":   "map range-function closure",
 	}
 }
 
