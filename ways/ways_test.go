@@ -37,6 +37,7 @@ func leans() map[string]string {
 		"trans":   "function-field array errors.As",
 		"cnf":     "embedding promoted variadic method-value",
 		"proof":   "map range-function closure",
+		"solve":   "container/heap.Pop map panic recover defer range-function",
 	}
 }
 
