@@ -38,6 +38,7 @@ func leans() map[string]string {
 		"cnf":     "embedding promoted variadic method-value",
 		"proof":   "map range-function closure",
 		"solve":   "container/heap.Pop map panic recover defer range-function",
+		"witness": "range-string panic recover defer generic-function",
 	}
 }
 
