@@ -39,6 +39,7 @@ func leans() map[string]string {
 		"proof":   "map range-function closure",
 		"solve":   "container/heap.Pop map panic recover defer range-function",
 		"witness": "range-string panic recover defer generic-function",
+		"inv":     "range-function map function-field",
 	}
 }
 
