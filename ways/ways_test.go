@@ -40,6 +40,7 @@ func leans() map[string]string {
 		"solve":   "container/heap.Pop map panic recover defer range-function",
 		"witness": "range-string panic recover defer generic-function",
 		"inv":     "range-function map function-field",
+		"cross":   "range-function map closure embedding promoted",
 	}
 }
 

@@ -1,0 +1,400 @@
+package cross
+
+import (
+	"math"
+	"math/rand"
+	"slices"
+	"strconv"
+	"testing"
+
+	"patchbay/aig"
+	"patchbay/api"
+	"patchbay/lower"
+)
+
+// two models of the inputs a and b, of a latch q that both have, and of the outputs y and z.
+func two() (api.Model, api.Model) {
+	first := api.Model{
+		Graph:  api.Graph{Ins: 2, Next: []int{10, 6}, Init: []int{2, 0}, Ands: [][2]int{{6, 4}, {2, 2}}, Outs: []int{10, 11}},
+		Inputs: []string{"a", "b"}, Latches: []string{"q", "p"}, Outputs: []string{"y", "z"},
+	}
+	second := api.Model{
+		Graph:  api.Graph{Ins: 2, Next: []int{8, 13}, Init: []int{2, 1}, Ands: [][2]int{{8, 2}, {5, 3}}, Outs: []int{13, 10}},
+		Inputs: []string{"b", "a"}, Latches: []string{"r", "q"}, Outputs: []string{"z", "y"},
+	}
+	return first, second
+}
+
+func TestJoin(t *testing.T) {
+	a, b := two()
+	m, match, e := Join(a, b)
+	// a's inputs 1 and 2; q and p are 3 and 4, r and b's q 5 and 6; a's and is 7, b's are 8 and 9.
+	want := Miter{
+		Graph: api.Graph{
+			Ins: 2, Next: []int{14, 6, 12, 19}, Init: []int{1, 0, 2, 1},
+			Ands: [][2]int{{6, 4}, {12, 4}, {3, 5}, {17, 14}, {16, 15}, {23, 21}, {18, 15}, {19, 14}, {29, 27}},
+			Outs: []int{25, 31},
+		},
+		Begin: []int{1, 0, 2, 1}, Pairs: [][2]int{{3, 6}},
+	}
+	if !aig.Same(m.Graph, want.Graph) || !slices.Equal(m.Begin, want.Begin) || !slices.Equal(m.Pairs, want.Pairs) || !match || e != api.OK {
+		t.Error(m, match, e)
+	}
+	m.Begin[0] = 9
+	if m.Graph.Init[0] == 9 || a.Graph.Init[0] == 9 {
+		t.Error("Begin shares memory")
+	}
+	m, match, e = Join(b, a)
+	if !slices.Equal(m.Begin, []int{2, 1, 1, 0}) || !slices.Equal(m.Pairs, [][2]int{{4, 5}}) || !match || e != api.OK {
+		t.Error(m, match, e)
+	}
+	a.Graph.Init[0] = 0
+	m, match, e = Join(a, b)
+	if !slices.Equal(m.Begin, []int{0, 0, 2, 1}) || !slices.Equal(m.Graph.Init, m.Begin) || match || e != api.OK {
+		t.Error(m, match, e)
+	}
+	if x, e := Cross(a, b, 40, 1000); !Same(x, Answer{}) || e != api.OK {
+		t.Error(x, e)
+	}
+	b.Graph.Init[1] = 2
+	m, match, e = Join(a, b)
+	if !slices.Equal(m.Begin, []int{0, 0, 2, 0}) || !match || e != api.OK {
+		t.Error(m, match, e)
+	}
+	if m, match, e = Join(api.Model{}, api.Model{}); !aig.Same(m.Graph, api.Graph{}) || !match || e != api.OK {
+		t.Error(m, match, e)
+	}
+}
+
+func TestWrong(t *testing.T) {
+	wide := func(n int) api.Model {
+		m := api.Model{Graph: api.Graph{Ins: n}}
+		for i := range n {
+			m.Inputs = append(m.Inputs, "i"+strconv.Itoa(i))
+		}
+		return m
+	}
+	half := func(n, out int) api.Model {
+		m := wide(2)
+		last := 2
+		for i := range n {
+			m.Graph.Ands = append(m.Graph.Ands, [2]int{last + i%2, 4})
+			last = 2 * (2 + len(m.Graph.Ands))
+		}
+		m.Outputs, m.Graph.Outs = []string{"z"}, []int{last + out}
+		return m
+	}
+	for i, x := range []struct {
+		change func(a, b *api.Model)
+		e      api.Errno
+	}{
+		{func(a, b *api.Model) { a.Outputs[0] = ""; b.Graph.Ins = -1 }, api.ErrName},
+		{func(a, b *api.Model) { b.Graph.Ins = -1; b.Inputs = nil }, api.ErrLimit},
+		{func(a, b *api.Model) { a.Inputs[0] = "c" }, api.ErrUnknown},
+		{func(a, b *api.Model) { b.Outputs[0] = "c" }, api.ErrUnknown},
+		{func(a, b *api.Model) { *b = wide(2) }, api.ErrUnknown},
+		{func(a, b *api.Model) { *a, *b = wide(4000), wide(4000) }, api.OK},
+		{func(a, b *api.Model) { *a, *b = half(1997, 0), half(1998, 1) }, api.OK},
+		{func(a, b *api.Model) { *a, *b = half(1998, 0), half(1998, 1) }, api.ErrLimit},
+		{func(a, b *api.Model) { *a, *b = half(1999, 0), half(2000, 0) }, api.ErrLimit},
+	} {
+		a, b := two()
+		x.change(&a, &b)
+		m, match, e := Join(a, b)
+		if e != x.e || e != api.OK && (match || !aig.Same(m.Graph, api.Graph{}) || m.Begin != nil || m.Pairs != nil) {
+			t.Error(i, e, x.e)
+		}
+		if e == api.OK {
+			continue
+		}
+		if y, e := Cross(a, b, 99, 10); !Same(y, Answer{}) || e != x.e {
+			t.Error(i, y, e)
+		}
+		if v, e := Replay(a, b, Answer{Out: -1}); v || e != x.e {
+			t.Error(i, v, e)
+		}
+	}
+	a, b := two()
+	for _, k := range []int{-1, 41, math.MinInt, math.MaxInt} {
+		if y, e := Cross(a, b, k, 10); !Same(y, Answer{}) || e != api.ErrLimit {
+			t.Error(k, y, e)
+		}
+	}
+}
+
+func TestCross(t *testing.T) {
+	a, b := two()
+	x, e := Cross(a, b, 0, 10)
+	if !Same(x, Answer{}) || e != api.OK {
+		t.Error(x, e)
+	}
+	x, e = Cross(a, b, 3, 1000)
+	if x.Res != 1 || e != api.OK || len(x.Seq) != 1 || len(x.A) != 2 || len(x.B) != 2 || !x.A[0] || x.A[1] || !x.B[1] {
+		t.Error(x, e)
+	}
+	if v, e := Replay(a, b, x); !v || e != api.OK {
+		t.Error(v, e)
+	}
+	if x, e := Cross(a, a, 10, 1000); x.Res != 0 || e != api.OK {
+		t.Error(x, e)
+	}
+	if x, e := Cross(api.Model{}, api.Model{}, 40, 0); !Same(x, Answer{}) || e != api.OK {
+		t.Error(x, e)
+	}
+}
+
+func TestFirstOutputThatDiffers(t *testing.T) {
+	a := api.Model{Graph: api.Graph{Ins: 1, Outs: []int{2, 0, 1, 3}}, Inputs: []string{"i"}, Outputs: []string{"w", "x", "y", "z"}}
+	b := api.Model{Graph: api.Graph{Ins: 1, Outs: []int{0, 1, 2, 1}}, Inputs: []string{"i"}, Outputs: []string{"z", "y", "w", "x"}}
+	x, e := Cross(a, b, 5, 10)
+	if x.Res != 1 || x.Out != 1 || len(x.Seq) != 1 || e != api.OK {
+		t.Error(x, e)
+	}
+	if v, e := Replay(a, b, x); !v || e != api.OK {
+		t.Error(v, e)
+	}
+}
+
+func TestReplay(t *testing.T) {
+	a, b := two()
+	good, _ := Cross(a, b, 1, 100)
+	for i, change := range []func(x *Answer){
+		func(x *Answer) { x.Out = 2 },
+		func(x *Answer) { x.Out = -1 },
+		func(x *Answer) { x.Seq = nil },
+		func(x *Answer) { x.Seq = slices.Repeat(x.Seq, 41) },
+		func(x *Answer) { x.Seq = append(slices.Clone(x.Seq), []bool{true}) },
+		func(x *Answer) { x.A = x.A[1:] },
+		func(x *Answer) { x.B = append(slices.Clone(x.B), true) },
+	} {
+		x := good
+		change(&x)
+		if v, e := Replay(a, b, x); v || e != api.ErrArg {
+			t.Error(i, v, e)
+		}
+	}
+	// y of the first one is q and b; of the second one q and b, too; z is that turned, and a or b.
+	for i, x := range []struct {
+		x    Answer
+		want bool
+	}{
+		{Answer{Out: 0, A: []bool{true, false}, B: []bool{true, true}, Seq: [][]bool{{true, true}}}, false},
+		{Answer{Out: 1, A: []bool{true, false}, B: []bool{true, true}, Seq: [][]bool{{true, true}}}, true},
+		{Answer{Out: 1, A: []bool{true, false}, B: []bool{false, true}, Seq: [][]bool{{true, true}}}, true},
+		{Answer{Out: 1, A: []bool{true, false}, B: []bool{true, true}, Seq: [][]bool{{true, false}}}, false},
+		{Answer{Out: 1, A: []bool{true, false}, B: []bool{true, true}, Seq: [][]bool{{false, false}}}, true},
+		{Answer{Out: 1, A: []bool{false, false}, B: []bool{true, true}, Seq: [][]bool{{true, true}}}, false},
+		{Answer{Out: 1, A: []bool{true, true}, B: []bool{true, true}, Seq: [][]bool{{true, true}}}, false},
+		{Answer{Out: 1, A: []bool{false, false}, B: []bool{true, false}, Seq: [][]bool{{false, false}}}, false},
+	} {
+		if v, e := Replay(a, b, x.x); v != x.want || e != api.OK {
+			t.Error(i, v, e)
+		}
+	}
+}
+
+func bitsOf(x, n int) []bool {
+	l := make([]bool, n)
+	for i := range l {
+		l[i] = x>>i&1 == 1
+	}
+	return l
+}
+
+func randomModel(r *rand.Rand) api.Model {
+	var m api.Model
+	g := &m.Graph
+	g.Ins = 1
+	for _, i := range r.Perm(1) {
+		m.Inputs = append(m.Inputs, "in"+strconv.Itoa(i))
+	}
+	for _, i := range r.Perm(4)[:r.Intn(4)] {
+		m.Latches = append(m.Latches, "q"+strconv.Itoa(i))
+		g.Next, g.Init = append(g.Next, 0), append(g.Init, r.Intn(3))
+	}
+	numbers := 1 + g.Ins + len(g.Next)
+	for range r.Intn(8) {
+		g.Ands = append(g.Ands, [2]int{r.Intn(2 * numbers), r.Intn(2 * numbers)})
+		numbers++
+	}
+	for i := range g.Next {
+		g.Next[i] = r.Intn(2 * numbers)
+	}
+	for _, i := range r.Perm(2) {
+		m.Outputs, g.Outs = append(m.Outputs, "z"+strconv.Itoa(i)), append(g.Outs, r.Intn(2*numbers))
+	}
+	return m
+}
+
+// differAt is the least number of steps in which two machines may differ; 0, if they do not in k.
+func differAt(a, b api.Model, k int) int {
+	for n := 1; n <= k; n++ {
+		for x := range 1 << (len(a.Latches) + len(b.Latches)) {
+			stateA, stateB := bitsOf(x, len(a.Latches)), bitsOf(x>>len(a.Latches), len(b.Latches))
+			for y := range 1 << n {
+				var seq [][]bool
+				for i := range n {
+					seq = append(seq, []bool{y>>i&1 == 1})
+				}
+				for out := range a.Outputs {
+					if v, _ := Replay(a, b, Answer{Out: out, A: stateA, B: stateB, Seq: seq}); v {
+						return n
+					}
+				}
+			}
+		}
+	}
+	return 0
+}
+
+func TestOneOfThree(t *testing.T) {
+	r := rand.New(rand.NewSource(23))
+	var seen [3]int
+	for range 700 {
+		a, b := randomModel(r), randomModel(r)
+		switch r.Intn(3) {
+		case 0:
+			b = a
+			b.Graph.Next = slices.Clone(a.Graph.Next)
+			for i := range b.Graph.Next {
+				if r.Intn(3) == 0 {
+					b.Graph.Next[i] ^= 1
+				}
+			}
+		case 1:
+			b.Graph.Outs = []int{a.Graph.Outs[0] % 4, a.Graph.Outs[1] % 4}
+			a.Graph.Outs = slices.Clone(b.Graph.Outs)
+			b.Outputs = a.Outputs
+		}
+		if lower.Check(a) != api.OK || lower.Check(b) != api.OK {
+			t.Fatal(a, b)
+		}
+		const k = 3
+		want := differAt(a, b, k)
+		x, e := Cross(a, b, k, 100000)
+		if e != api.OK || (x.Res == 1) != (want > 0) || x.Res == 2 || len(x.Seq) != want {
+			t.Fatal(a, b, x, want, e)
+		}
+		if x.Res == 1 {
+			checkDiffer(t, a, b, x)
+		}
+		seen[x.Res]++
+		for budget := range min(x.Conflicts+2, 4) {
+			y, e := Cross(a, b, k, budget)
+			if e != api.OK || y.Conflicts > budget || y.Res != x.Res && (y.Res != 2 || y.Conflicts != budget) || y.Res == x.Res && !Same(x, y) {
+				t.Fatal(a, b, x, y, budget)
+			}
+			if y.Res == 2 {
+				seen[2]++
+				if y.A != nil || y.B != nil || y.Seq != nil || y.Out != 0 {
+					t.Fatal(y)
+				}
+			}
+		}
+	}
+	for i, n := range seen {
+		if n < 10 {
+			t.Error("too few of one kind:", i, seen)
+		}
+	}
+}
+
+// checkDiffer looks whether what is told is replayed, and whether it is the first output that is not the same.
+func checkDiffer(t *testing.T, a, b api.Model, x Answer) {
+	for out := range x.Out + 1 {
+		y := x
+		y.Out = out
+		if v, e := Replay(a, b, y); v != (out == x.Out) || e != api.OK {
+			t.Fatal(a, b, x, out)
+		}
+	}
+}
+
+// parity is the exclusive or of n inputs, in one order or the other.
+func parity(n int, back bool) api.Model {
+	m := api.Model{Graph: api.Graph{Ins: n}, Outputs: []string{"z"}}
+	var order []int
+	for i := range n {
+		m.Inputs = append(m.Inputs, "i"+strconv.Itoa(i))
+		order = append(order, 2*(1+i))
+	}
+	if back {
+		slices.Reverse(order)
+	}
+	last := order[0]
+	for _, lit := range order[1:] {
+		g, out, _ := differ(m.Graph, last, lit)
+		m.Graph, last = g, out
+	}
+	m.Graph.Outs = []int{last}
+	return m
+}
+
+func TestUnknown(t *testing.T) {
+	a, b := parity(9, false), parity(9, true)
+	x, e := Cross(a, b, 4, 7)
+	if x.Res != 2 || x.Conflicts != 7 || x.Seq != nil || e != api.OK {
+		t.Error(x, e)
+	}
+	x, e = Cross(a, b, 1, 1000000)
+	if x.Res != 0 || x.Conflicts <= 7 || e != api.OK {
+		t.Error(x, e)
+	}
+	// All conflicts of the first step are spent, so that nothing is left for the second one.
+	y, e := Cross(a, b, 2, x.Conflicts)
+	if y.Res != 2 || y.Conflicts != x.Conflicts || e != api.OK {
+		t.Error(y, e)
+	}
+	if x, e := Cross(a, b, 2, -5); x.Res != 2 || x.Conflicts != 0 || e != api.OK {
+		t.Error(x, e)
+	}
+}
+
+func TestTooManyVariables(t *testing.T) {
+	m := api.Model{Graph: api.Graph{Ins: 3990}}
+	for i := range 3990 {
+		m.Inputs = append(m.Inputs, "i"+strconv.Itoa(i))
+	}
+	m.Outputs, m.Graph.Outs = []string{"i0"}, []int{2}
+	if x, e := Cross(m, m, 5, 10); x.Res != 0 || e != api.OK {
+		t.Error(x, e)
+	}
+	if x, e := Cross(m, m, 6, 10); !Same(x, Answer{}) || e != api.ErrLimit {
+		t.Error(x, e)
+	}
+}
+
+func TestSame(t *testing.T) {
+	a := func() Answer {
+		return Answer{Res: 1, Out: 1, A: []bool{true}, B: []bool{false}, Seq: [][]bool{{true}}, Conflicts: 3}
+	}
+	if !Same(a(), a()) || !Same(Answer{}, Answer{A: []bool{}, Seq: [][]bool{}}) {
+		t.Error("alike, and told not to be")
+	}
+	for i, change := range []func(x *Answer){
+		func(x *Answer) { x.Res = 0 },
+		func(x *Answer) { x.Out = 0 },
+		func(x *Answer) { x.A[0] = false },
+		func(x *Answer) { x.B = nil },
+		func(x *Answer) { x.Seq[0][0] = false },
+		func(x *Answer) { x.Seq = nil },
+		func(x *Answer) { x.Conflicts = 4 },
+	} {
+		x := a()
+		change(&x)
+		if Same(a(), x) || Same(x, a()) {
+			t.Error(i)
+		}
+	}
+}
+
+func TestStepsCanBeLeft(t *testing.T) {
+	for n := range steps(9) {
+		if n == 2 {
+			break
+		}
+		if n > 2 {
+			t.Error(n)
+		}
+	}
+}
