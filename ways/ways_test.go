@@ -41,6 +41,7 @@ func leans() map[string]string {
 		"witness": "range-string panic recover defer generic-function",
 		"inv":     "range-function map function-field",
 		"cross":   "range-function map closure embedding promoted",
+		"hub":     "array method-value go sync.WaitGroup errors.As",
 	}
 }
 
