@@ -1,4 +1,4 @@
-package aig
+package aig_test
 
 import (
 	"math"
@@ -6,6 +6,7 @@ import (
 	"slices"
 	"testing"
 
+	"patchbay/aig"
 	"patchbay/api"
 )
 
@@ -48,25 +49,25 @@ func TestCheck(t *testing.T) {
 		{api.Graph{Next: []int{4}, Init: []int{0}}, api.ErrArg},
 		{api.Graph{Next: []int{-1}, Init: []int{0}}, api.ErrArg},
 	} {
-		if e := Check(x.g); e != x.e {
+		if e := aig.Check(x.g); e != x.e {
 			t.Error(i, e, x.e)
 		}
 		if x.e == api.OK {
 			continue
 		}
-		if g, lit, e := And(x.g, 0, -5); !Same(g, api.Graph{}) || lit != 0 || e != x.e {
+		if g, lit, e := aig.And(x.g, 0, -5); !aig.Same(g, api.Graph{}) || lit != 0 || e != x.e {
 			t.Error("And", i, g, lit, e)
 		}
-		if g, e := Normal(x.g); !Same(g, api.Graph{}) || e != x.e {
+		if g, e := aig.Normal(x.g); !aig.Same(g, api.Graph{}) || e != x.e {
 			t.Error("Normal", i, g, e)
 		}
-		if l, e := Values(x.g, nil, make([]bool, 7)); l != nil || e != x.e {
+		if l, e := aig.Values(x.g, nil, make([]bool, 7)); l != nil || e != x.e {
 			t.Error("Values", i, l, e)
 		}
-		if l, m, e := Step(x.g, nil, make([]bool, 7)); l != nil || m != nil || e != x.e {
+		if l, m, e := aig.Step(x.g, nil, make([]bool, 7)); l != nil || m != nil || e != x.e {
 			t.Error("Step", i, l, m, e)
 		}
-		if Strict(x.g) {
+		if aig.Strict(x.g) {
 			t.Error("Strict", i)
 		}
 	}
@@ -79,21 +80,21 @@ func TestAnd(t *testing.T) {
 		{5, 2, 6}, {4, 3, 8}, {9, 7, 10},
 	} {
 		for _, y := range [][2]int{{x.a, x.b}, {x.b, x.a}} {
-			if h, lit, e := And(g, y[0], y[1]); !Same(g, h) || lit != x.lit || e != api.OK {
+			if h, lit, e := aig.And(g, y[0], y[1]); !aig.Same(g, h) || lit != x.lit || e != api.OK {
 				t.Error(y, h, lit, e)
 			}
 		}
 	}
 	for _, y := range [][2]int{{4, 2}, {2, 4}, {11, 3}} {
-		h, lit, e := And(g, y[0], y[1])
+		h, lit, e := aig.And(g, y[0], y[1])
 		want := toggle()
 		want.Ands = append(want.Ands, [2]int{max(y[0], y[1]), min(y[0], y[1])})
-		if !Same(h, want) || lit != 12 || e != api.OK {
+		if !aig.Same(h, want) || lit != 12 || e != api.OK {
 			t.Error(y, h, lit, e)
 		}
 	}
 	for _, y := range [][2]int{{12, 0}, {0, 12}, {-1, 0}, {0, -1}, {math.MaxInt, 2}, {math.MinInt, 2}} {
-		if h, lit, e := And(g, y[0], y[1]); !Same(h, api.Graph{}) || lit != 0 || e != api.ErrArg {
+		if h, lit, e := aig.And(g, y[0], y[1]); !aig.Same(h, api.Graph{}) || lit != 0 || e != api.ErrArg {
 			t.Error(y, h, lit, e)
 		}
 	}
@@ -101,24 +102,24 @@ func TestAnd(t *testing.T) {
 
 func TestAndFindsOnlyThisOrder(t *testing.T) {
 	g := api.Graph{Ins: 2, Ands: [][2]int{{2, 4}, {4, 2}, {4, 2}}}
-	if _, lit, _ := And(g, 2, 4); lit != 8 {
+	if _, lit, _ := aig.And(g, 2, 4); lit != 8 {
 		t.Error(lit)
 	}
 	g.Ands = g.Ands[:1]
-	if h, lit, _ := And(g, 2, 4); lit != 8 || len(h.Ands) != 2 {
+	if h, lit, _ := aig.And(g, 2, 4); lit != 8 || len(h.Ands) != 2 {
 		t.Error(h, lit)
 	}
 }
 
 func TestAndOfFull(t *testing.T) {
 	g := api.Graph{Ins: 3999, Ands: [][2]int{{4, 2}}}
-	if h, lit, e := And(g, 6, 2); !Same(h, api.Graph{}) || lit != 0 || e != api.ErrLimit {
+	if h, lit, e := aig.And(g, 6, 2); !aig.Same(h, api.Graph{}) || lit != 0 || e != api.ErrLimit {
 		t.Error(lit, e)
 	}
-	if _, lit, e := And(g, 4, 2); lit != 8000 || e != api.OK {
+	if _, lit, e := aig.And(g, 4, 2); lit != 8000 || e != api.OK {
 		t.Error(lit, e)
 	}
-	if _, lit, e := And(g, 5, 4); lit != 0 || e != api.OK {
+	if _, lit, e := aig.And(g, 5, 4); lit != 0 || e != api.OK {
 		t.Error(lit, e)
 	}
 }
@@ -126,10 +127,10 @@ func TestAndOfFull(t *testing.T) {
 func TestAndSharesNothing(t *testing.T) {
 	g := toggle()
 	g.Ands = append(make([][2]int, 0, 10), g.Ands...)
-	h, _, _ := And(g, 4, 2)
-	i, _, _ := And(g, 5, 3)
+	h, _, _ := aig.And(g, 4, 2)
+	i, _, _ := aig.And(g, 5, 3)
 	h.Next[0], h.Init[0], h.Outs[0], h.Ands[0][0] = 0, 0, 0, 0
-	if h.Ands[3] != [2]int{4, 2} || i.Ands[3] != [2]int{5, 3} || !Same(g, toggle()) {
+	if h.Ands[3] != [2]int{4, 2} || i.Ands[3] != [2]int{5, 3} || !aig.Same(g, toggle()) {
 		t.Error(g, h, i)
 	}
 }
@@ -150,11 +151,21 @@ func TestNormal(t *testing.T) {
 			api.Graph{Ins: 1, Next: []int{9, 5}, Init: []int{1, 2}, Ands: [][2]int{{4, 2}}},
 		},
 	} {
-		h, e := Normal(x.g)
-		if !Same(h, x.want) || e != api.OK {
+		h, e := aig.Normal(x.g)
+		if !aig.Same(h, x.want) || e != api.OK {
 			t.Error(i, h, e)
 		}
 	}
+}
+
+// topOf is the greatest number of a graph, andsFrom the number that the first and has.
+func topOf(g api.Graph) int { return g.Ins + len(g.Next) + len(g.Ands) }
+
+func andsFrom(g api.Graph) int { return 1 + g.Ins + len(g.Next) }
+
+func copied(g api.Graph) api.Graph {
+	g.Next, g.Init, g.Ands, g.Outs = slices.Clone(g.Next), slices.Clone(g.Init), slices.Clone(g.Ands), slices.Clone(g.Outs)
+	return g
 }
 
 // randomGraph has some ands of any literals that may be.
@@ -165,14 +176,14 @@ func randomGraph(r *rand.Rand) api.Graph {
 		g.Init = append(g.Init, r.Intn(3))
 	}
 	for range r.Intn(12) {
-		top := 2 + 2*greatest(g)
+		top := 2 + 2*topOf(g)
 		g.Ands = append(g.Ands, [2]int{r.Intn(top), r.Intn(top)})
 	}
 	for i := range g.Next {
-		g.Next[i] = r.Intn(2 + 2*greatest(g))
+		g.Next[i] = r.Intn(2 + 2*topOf(g))
 	}
 	for range r.Intn(4) {
-		g.Outs = append(g.Outs, r.Intn(2+2*greatest(g)))
+		g.Outs = append(g.Outs, r.Intn(2+2*topOf(g)))
 	}
 	return g
 }
@@ -181,13 +192,13 @@ func randomGraph(r *rand.Rand) api.Graph {
 func normalSlowly(g api.Graph) api.Graph {
 	h := api.Graph{Ins: g.Ins, Next: make([]int, len(g.Next)), Init: g.Init}
 	var to []int
-	for n := range firstAnd(g) {
+	for n := range andsFrom(g) {
 		to = append(to, 2*n)
 	}
 	at := func(lit int) int { return to[lit/2] ^ lit&1 }
 	for _, and := range g.Ands {
 		var lit int
-		h, lit, _ = And(h, at(and[0]), at(and[1]))
+		h, lit, _ = aig.And(h, at(and[0]), at(and[1]))
 		to = append(to, lit)
 	}
 	for i, lit := range g.Next {
@@ -197,7 +208,7 @@ func normalSlowly(g api.Graph) api.Graph {
 		h.Outs = append(h.Outs, at(lit))
 	}
 	for i := len(h.Ands) - 1; i >= 0; i-- {
-		n := firstAnd(h) + i
+		n := andsFrom(h) + i
 		used := func(lit int) bool { return lit/2 == n }
 		if slices.ContainsFunc(h.Next, used) || slices.ContainsFunc(h.Outs, used) || slices.ContainsFunc(h.Ands, func(a [2]int) bool { return used(a[0]) || used(a[1]) }) {
 			continue
@@ -234,21 +245,21 @@ func TestNormalHolds(t *testing.T) {
 	r := rand.New(rand.NewSource(2))
 	for range 2000 {
 		g := randomGraph(r)
-		was := clone(g)
-		h, e := Normal(g)
-		if e != api.OK || !Strict(h) || !Same(g, was) || !Same(h, normalSlowly(g)) {
+		was := copied(g)
+		h, e := aig.Normal(g)
+		if e != api.OK || !aig.Strict(h) || !aig.Same(g, was) || !aig.Same(h, normalSlowly(g)) {
 			t.Fatal(g, h, e, normalSlowly(g))
 		}
-		if again, _ := Normal(h); !Same(h, again) {
+		if again, _ := aig.Normal(h); !aig.Same(h, again) {
 			t.Fatal(h, again)
 		}
-		if Strict(g) != Same(g, h) {
+		if aig.Strict(g) != aig.Same(g, h) {
 			t.Fatal("Strict", g, h)
 		}
 		for x := range 1 << (g.Ins + len(g.Next)) {
 			ins, state := bitsOf(x, g.Ins), bitsOf(x>>g.Ins, len(g.Next))
-			a, m, _ := Step(g, state, ins)
-			b, n, _ := Step(h, state, ins)
+			a, m, _ := aig.Step(g, state, ins)
+			b, n, _ := aig.Step(h, state, ins)
 			if !slices.Equal(a, b) || !slices.Equal(m, n) {
 				t.Fatal(g, h, state, ins)
 			}
@@ -258,9 +269,9 @@ func TestNormalHolds(t *testing.T) {
 
 func TestNormalSharesNothing(t *testing.T) {
 	g := toggle()
-	h, _ := Normal(g)
+	h, _ := aig.Normal(g)
 	h.Next[0], h.Init[0], h.Outs[0], h.Ands[0][0] = 0, 0, 0, 0
-	if !Same(g, toggle()) {
+	if !aig.Same(g, toggle()) {
 		t.Error(g)
 	}
 }
@@ -284,7 +295,7 @@ func TestStrict(t *testing.T) {
 		{api.Graph{Ins: 2, Ands: [][2]int{{4, 2}, {6, 5}}, Outs: []int{9}}, true},
 		{api.Graph{Ins: 2, Ands: [][2]int{{4, 2}, {5, 3}}, Outs: []int{6}}, false},
 	} {
-		if Strict(x.g) != x.want {
+		if aig.Strict(x.g) != x.want {
 			t.Error(i, x.g)
 		}
 	}
@@ -294,27 +305,27 @@ func TestValuesAndStep(t *testing.T) {
 	g := toggle()
 	for x := range 4 {
 		in, q := x&1 == 1, x>>1 == 1
-		l, e := Values(g, []bool{q}, []bool{in})
+		l, e := aig.Values(g, []bool{q}, []bool{in})
 		if !slices.Equal(l, []bool{false, in, q, !q && in, q && !in, in == q}) || e != api.OK {
 			t.Error(in, q, l, e)
 		}
-		outs, next, e := Step(g, []bool{q}, []bool{in})
+		outs, next, e := aig.Step(g, []bool{q}, []bool{in})
 		if !slices.Equal(outs, []bool{q, in == q, true}) || !slices.Equal(next, []bool{in != q}) || e != api.OK {
 			t.Error(in, q, outs, next, e)
 		}
 	}
 	for _, x := range [][2][]bool{{nil, {true}}, {{true}, nil}, {{true, true}, {true}}, {{true}, {true, true}}} {
-		if l, e := Values(g, x[0], x[1]); l != nil || e != api.ErrState {
+		if l, e := aig.Values(g, x[0], x[1]); l != nil || e != api.ErrState {
 			t.Error(l, e)
 		}
-		if l, m, e := Step(g, x[0], x[1]); l != nil || m != nil || e != api.ErrState {
+		if l, m, e := aig.Step(g, x[0], x[1]); l != nil || m != nil || e != api.ErrState {
 			t.Error(l, m, e)
 		}
 	}
 }
 
 func TestSame(t *testing.T) {
-	if !Same(toggle(), toggle()) || !Same(api.Graph{}, api.Graph{Next: []int{}, Outs: []int{}}) {
+	if !aig.Same(toggle(), toggle()) || !aig.Same(api.Graph{}, api.Graph{Next: []int{}, Outs: []int{}}) {
 		t.Error("alike, and told not to be")
 	}
 	for i, change := range []func(g *api.Graph){
@@ -327,7 +338,7 @@ func TestSame(t *testing.T) {
 	} {
 		g := toggle()
 		change(&g)
-		if Same(g, toggle()) || Same(toggle(), g) {
+		if aig.Same(g, toggle()) || aig.Same(toggle(), g) {
 			t.Error(i)
 		}
 	}

@@ -1,4 +1,4 @@
-package aiger
+package aiger_test
 
 import (
 	"math/rand"
@@ -8,6 +8,7 @@ import (
 	"testing"
 
 	"patchbay/aig"
+	"patchbay/aiger"
 	"patchbay/api"
 	"patchbay/lower"
 	"patchbay/raise"
@@ -29,12 +30,12 @@ func TestHeader(t *testing.T) {
 		"aag 4000 4000 0 4000 0\n":         {4000, 4000, 0, 4000, 0},
 		"aag 4000 1 1 1 3998 1999 2000\n ": {4000, 1, 1, 1, 3998, 1999, 2000},
 	} {
-		h, behind, f := Header(s, "aag")
+		h, behind, f := aiger.Header(s, "aag")
 		if h != want || behind != strings.IndexByte(s, '\n')+1 || f != (api.Fail{}) {
 			t.Errorf("%q: %v %d %v", s, h, behind, f)
 		}
 	}
-	if h, behind, f := Header("xYz 1 1 0 0 0\n", "xYz"); h != [9]int{1, 1} || behind != 14 || f != (api.Fail{}) {
+	if h, behind, f := aiger.Header("xYz 1 1 0 0 0\n", "xYz"); h != [9]int{1, 1} || behind != 14 || f != (api.Fail{}) {
 		t.Error(h, behind, f)
 	}
 }
@@ -72,17 +73,17 @@ func TestHeaderWrong(t *testing.T) {
 		if e == 0 {
 			want = spot.Fail(s, 3, api.ErrSyntax)
 		}
-		if h, behind, f := Header(s, "aag"); h != [9]int{} || behind != 0 || f != want {
+		if h, behind, f := aiger.Header(s, "aag"); h != [9]int{} || behind != 0 || f != want {
 			t.Errorf("%q: %v %d %v", s, h, behind, f)
 		}
 		if e != 0 && strings.HasPrefix(s, "aag") {
-			if m, f := Parse(s); !lower.Same(m, api.Model{}) || f != want {
+			if m, f := aiger.Parse(s); !lower.Same(m, api.Model{}) || f != want {
 				t.Errorf("%q: %v %v", s, m, f)
 			}
 		}
 	}
 	for _, magic := range []string{"", "aa", "aag ", "a1g", "aag 0"} {
-		if h, behind, f := Header(magic+" 0 0 0 0 0\n", magic); h != [9]int{} || behind != 0 || f != (api.Fail{Err: api.ErrSyntax, Line: 1, Col: 1}) {
+		if h, behind, f := aiger.Header(magic+" 0 0 0 0 0\n", magic); h != [9]int{} || behind != 0 || f != (api.Fail{Err: api.ErrSyntax, Line: 1, Col: 1}) {
 			t.Error(magic, h, behind, f)
 		}
 	}
@@ -103,18 +104,18 @@ func TestSymbols(t *testing.T) {
 	} {
 		for _, at := range []int{0, 7} {
 			s := strings.Repeat("\n", at) + x.s
-			names, f := Symbols(s, at, many)
+			names, f := aiger.Symbols(s, at, many)
 			if got := strings.Join(slices.Concat(names[:]...), " "); got != x.want || f != (api.Fail{}) {
 				t.Errorf("%q: %v %v", s, got, f)
 			}
 		}
 	}
 	for _, at := range []int{-1, 6, 99} {
-		if names, f := Symbols("wrong", at, [5]int{1, -1, 0, -5, 2}); f != (api.Fail{}) || strings.Join(slices.Concat(names[:]...), " ") != "i0 c0 c1" {
+		if names, f := aiger.Symbols("wrong", at, [5]int{1, -1, 0, -5, 2}); f != (api.Fail{}) || strings.Join(slices.Concat(names[:]...), " ") != "i0 c0 c1" {
 			t.Error(at, names, f)
 		}
 	}
-	if names, f := Symbols("i3999 last\n", 0, [5]int{5000}); len(names[0]) != 4000 || names[0][3999] != "last" || f != (api.Fail{}) {
+	if names, f := aiger.Symbols("i3999 last\n", 0, [5]int{5000}); len(names[0]) != 4000 || names[0][3999] != "last" || f != (api.Fail{}) {
 		t.Error(len(names[0]), f)
 	}
 }
@@ -147,11 +148,11 @@ func TestSymbolsWrong(t *testing.T) {
 		if e == 0 {
 			want = spot.Fail(s, 1, api.ErrNumber)
 		}
-		if names, f := Symbols(s, 0, [5]int{2, 1, 1, 1, 0}); f != want || len(slices.Concat(names[:]...)) != 0 {
+		if names, f := aiger.Symbols(s, 0, [5]int{2, 1, 1, 1, 0}); f != want || len(slices.Concat(names[:]...)) != 0 {
 			t.Errorf("%q: %v %v", s, names, f)
 		}
 	}
-	if _, f := Symbols("i4000 x\n", 0, [5]int{5000}); f.Err != api.ErrArg {
+	if _, f := aiger.Symbols("i4000 x\n", 0, [5]int{5000}); f.Err != api.ErrArg {
 		t.Error(f)
 	}
 }
@@ -171,7 +172,7 @@ func TestParse(t *testing.T) {
 		},
 		"aag 1 1 0 1 0\n2\n2\ni0 a\no0 a\n": {Graph: api.Graph{Ins: 1, Outs: []int{2}}, Inputs: []string{"a"}, Outputs: []string{"a"}},
 	} {
-		m, f := Parse(s)
+		m, f := aiger.Parse(s)
 		if !lower.Same(m, want) || f != (api.Fail{}) {
 			t.Errorf("%q: %v %v", s, m, f)
 		}
@@ -180,7 +181,7 @@ func TestParse(t *testing.T) {
 
 func TestAndsComeAsGatesDo(t *testing.T) {
 	// 6 waits for 10, which waits for 12; 8 waits for none: it comes first, then 12, and then 10 lets 6 come ahead of 14.
-	m, f := Parse("aag 7 2 0 1 5\n2\n4\n7\n6 10 2\n8 2 4\n10 12 2\n12 4 2\n14 8 2\n")
+	m, f := aiger.Parse("aag 7 2 0 1 5\n2\n4\n7\n6 10 2\n8 2 4\n10 12 2\n12 4 2\n14 8 2\n")
 	want := api.Graph{Ins: 2, Ands: [][2]int{{2, 4}, {4, 2}, {8, 2}, {10, 2}, {6, 2}}, Outs: []int{13}}
 	if !aig.Same(m.Graph, want) || f != (api.Fail{}) {
 		t.Error(m.Graph, f)
@@ -238,7 +239,7 @@ func TestParseWrong(t *testing.T) {
 		if e == 0 {
 			want = spot.Fail(s, at+1, api.ErrArg)
 		}
-		if m, f := Parse(s); !lower.Same(m, api.Model{}) || f != want {
+		if m, f := aiger.Parse(s); !lower.Same(m, api.Model{}) || f != want {
 			t.Errorf("%q: %v, want %v", s, f, want)
 		}
 	}
@@ -252,10 +253,10 @@ func TestPrint(t *testing.T) {
 		Outputs: []string{"y", "z", "a"},
 	}
 	want := "aag 6 2 3 3 1\n2\n4\n6 11\n8 1 1\n10 4 10\n13\n13\n2\n12 4 2\ni0 a\ni1 b\nl0 p\nl1 q\nl2 r\no0 y\no1 z\no2 a\n"
-	if s, e := Print(m); s != want || e != api.OK {
+	if s, e := aiger.Print(m); s != want || e != api.OK {
 		t.Errorf("%q %v", s, e)
 	}
-	if s, e := Print(api.Model{}); s != "aag 0 0 0 0 0\n" || e != api.OK {
+	if s, e := aiger.Print(api.Model{}); s != "aag 0 0 0 0 0\n" || e != api.OK {
 		t.Error(s, e)
 	}
 	for i, change := range []func(m *api.Model){
@@ -267,17 +268,17 @@ func TestPrint(t *testing.T) {
 	} {
 		n, _ := raise.Normal(m)
 		change(&n)
-		if s, e := Print(n); s != "" || e != lower.Check(n) || e == api.OK {
+		if s, e := aiger.Print(n); s != "" || e != lower.Check(n) || e == api.OK {
 			t.Error(i, s, e)
 		}
 	}
 }
 
 func TestTail(t *testing.T) {
-	if s := Tail(api.Model{Inputs: []string{"a", "b"}, Outputs: []string{"", "x y"}, Latches: []string{"q"}}); s != "i0 a\ni1 b\nl0 q\no0 \no1 x y\n" {
+	if s := aiger.Tail(api.Model{Inputs: []string{"a", "b"}, Outputs: []string{"", "x y"}, Latches: []string{"q"}}); s != "i0 a\ni1 b\nl0 q\no0 \no1 x y\n" {
 		t.Errorf("%q", s)
 	}
-	if s := Tail(api.Model{}); s != "" {
+	if s := aiger.Tail(api.Model{}); s != "" {
 		t.Error(s)
 	}
 }
@@ -312,8 +313,8 @@ func TestWhatIsPrintedIsParsedAgain(t *testing.T) {
 	for range 1000 {
 		m := randomModel(r)
 		n, _ := raise.Normal(m)
-		s, e := Print(m)
-		back, f := Parse(s)
+		s, e := aiger.Print(m)
+		back, f := aiger.Parse(s)
 		if e != api.OK || f != (api.Fail{}) || !lower.Same(back, n) {
 			t.Fatal(m, s, back, f)
 		}
@@ -324,9 +325,9 @@ func TestManyAnds(t *testing.T) {
 	var b strings.Builder
 	b.WriteString("aag 4000 1 0 1 3999\n2\n8000\n")
 	for i := 4000; i > 1; i-- { // each one waits for the next line's
-		put(&b, 2*i, 2*i-2, 2*i-1)
+		b.WriteString(strconv.Itoa(2*i) + " " + strconv.Itoa(2*i-2) + " " + strconv.Itoa(2*i-1) + "\n")
 	}
-	m, f := Parse(b.String())
+	m, f := aiger.Parse(b.String())
 	if len(m.Graph.Ands) != 3999 || m.Graph.Outs[0] != 8000 || f != (api.Fail{}) {
 		t.Error(len(m.Graph.Ands), f)
 	}
@@ -335,7 +336,7 @@ func TestManyAnds(t *testing.T) {
 func FuzzParse(f *testing.F) {
 	f.Add("aag 9 2 2 2 2 1 1\n18\n4\n12 7 12\n10 0\n2\n11\n18\n1\n2 6 6\n6 19 12\nl1 q\nb0 bad\nc\nanything")
 	f.Fuzz(func(t *testing.T, s string) {
-		m, fail := Parse(s)
+		m, fail := aiger.Parse(s)
 		if fail.Err != api.OK {
 			if !lower.Same(m, api.Model{}) {
 				t.Error(m, fail)
@@ -345,8 +346,8 @@ func FuzzParse(f *testing.F) {
 		if e := lower.Check(m); e != api.OK {
 			t.Error(e)
 		}
-		printed, _ := Print(m)
-		if n, _ := raise.Normal(m); !lower.Same(n, first(Parse(printed))) {
+		printed, _ := aiger.Print(m)
+		if n, _ := raise.Normal(m); !lower.Same(n, first(aiger.Parse(printed))) {
 			t.Error(printed)
 		}
 	})

@@ -1,4 +1,4 @@
-package bench
+package bench_test
 
 import (
 	"math/rand"
@@ -8,6 +8,7 @@ import (
 	"testing"
 
 	"patchbay/api"
+	"patchbay/bench"
 	"patchbay/net"
 	"patchbay/order"
 	"patchbay/spot"
@@ -53,7 +54,7 @@ func TestExpand(t *testing.T) {
 		c := api.Circuit{Inputs: []string{"a", "b", "c"}, Outputs: []string{"a"}, Latches: []api.Latch{{Name: "q", Next: "a", Init: 2}}, Gates: x.gates}
 		want := c
 		want.Gates = x.want
-		got, e := Expand(c)
+		got, e := bench.Expand(c)
 		if !net.Same(got, want) || e != api.OK {
 			t.Errorf("%d: %v %v", i, got.Gates, e)
 		}
@@ -70,7 +71,7 @@ func TestExpandOfManyKids(t *testing.T) {
 	ins := strings.Fields("a b c d e f g h")
 	c := api.Circuit{Inputs: append(slices.Clone(ins), "i"), Gates: []api.Gate{nine("z", true)}}
 	want := []api.Gate{gate(api.OpNot, "n1", "a"), gate(api.OpNot, "n2", "b"), gate(api.OpOr, "n3", ins...), gate(api.OpNor, "z", "n3", "n1", "n2")}
-	got, e := Expand(c)
+	got, e := bench.Expand(c)
 	if !net.Same(got, api.Circuit{Inputs: c.Inputs, Gates: want}) || e != api.OK {
 		t.Error(got, e)
 	}
@@ -82,13 +83,13 @@ func TestExpandOfManyKids(t *testing.T) {
 	}
 	sixteen := append(nine("", false).Rows[:8], g.Rows...)
 	c.Gates = []api.Gate{covered("z", false, "a b c d e f g h", sixteen...)}
-	got, e = Expand(c)
+	got, e = bench.Expand(c)
 	last := got.Gates[len(got.Gates)-1]
 	if e != api.OK || len(got.Gates) != 8+1+1+1 || last.Op != api.OpOr || !slices.Equal(last.Ins, []string{"n10", "n8"}) {
 		t.Error(got.Gates, e)
 	}
 	c.Gates = []api.Gate{covered("z", false, "i a b c d e f g", "11------", "1-1-----", "1--1----", "1---1---", "1----1--", "1-----1-", "1------1", "10------", "1-0-----")}
-	got, e = Expand(c)
+	got, e = bench.Expand(c)
 	want = []api.Gate{
 		gate(api.OpNot, "n1", "a"), gate(api.OpNot, "n2", "b"), gate(api.OpOr, "n3", "a", "b", "c", "d", "e", "f", "g", "n1"),
 		gate(api.OpOr, "n4", "n3", "n2"), gate(api.OpAnd, "z", "i", "n4"),
@@ -100,10 +101,10 @@ func TestExpandOfManyKids(t *testing.T) {
 
 func TestExpandWrong(t *testing.T) {
 	for _, c := range []api.Circuit{{Outputs: []string{"z"}}, {Gates: []api.Gate{gate(api.OpNot, "z", "z")}}, {Inputs: make([]string, 201)}} {
-		if x, e := Expand(c); !net.Same(x, api.Circuit{}) || e != api.ErrArg {
+		if x, e := bench.Expand(c); !net.Same(x, api.Circuit{}) || e != api.ErrArg {
 			t.Error(x, e)
 		}
-		if s, e := Print(c); s != "" || e != api.ErrArg {
+		if s, e := bench.Print(c); s != "" || e != api.ErrArg {
 			t.Error(s, e)
 		}
 	}
@@ -112,25 +113,25 @@ func TestExpandWrong(t *testing.T) {
 		full.Inputs = append(full.Inputs, "i"+strconv.Itoa(i))
 	}
 	full.Gates = []api.Gate{covered("z", false, "a b", "10")}
-	if x, e := Expand(full); e != api.OK || len(net.Nets(x)) != 200 {
+	if x, e := bench.Expand(full); e != api.OK || len(net.Nets(x)) != 200 {
 		t.Error(e)
 	}
 	full.Inputs = append(full.Inputs, "more")
-	if x, e := Expand(full); !net.Same(x, api.Circuit{}) || e != api.ErrLimit {
+	if x, e := bench.Expand(full); !net.Same(x, api.Circuit{}) || e != api.ErrLimit {
 		t.Error(e)
 	}
-	if s, e := Print(full); s != "" || e != api.ErrLimit {
+	if s, e := bench.Print(full); s != "" || e != api.ErrLimit {
 		t.Error(s, e)
 	}
 	full.Gates = []api.Gate{gate(api.OpBuf, "z", "a")}
-	if _, e := Expand(full); e != api.OK {
+	if _, e := bench.Expand(full); e != api.OK {
 		t.Error(e)
 	}
 }
 
 func TestExpandSharesNothing(t *testing.T) {
 	c := api.Circuit{Inputs: []string{"a", "b"}, Outputs: []string{"z"}, Latches: []api.Latch{{Name: "q", Next: "a"}}, Gates: []api.Gate{gate(api.OpAnd, "z", "a", "b")}}
-	x, _ := Expand(c)
+	x, _ := bench.Expand(c)
 	x.Inputs[0], x.Outputs[0], x.Latches[0].Next, x.Gates[0].Ins[0] = "x", "x", "x", "x"
 	if c.Inputs[0] != "a" || c.Outputs[0] != "z" || c.Latches[0].Next != "a" || c.Gates[0].Ins[0] != "a" {
 		t.Error(c)
@@ -161,7 +162,7 @@ func TestParse(t *testing.T) {
 			},
 		},
 	} {
-		c, f := Parse(s)
+		c, f := bench.Parse(s)
 		if !net.Same(c, want) || f != (api.Fail{}) {
 			t.Errorf("%q: %v %v", s, c, f)
 		}
@@ -223,7 +224,7 @@ func TestParseWrong(t *testing.T) {
 	} {
 		at := strings.IndexByte(marked, '@')
 		s := marked[:at] + marked[at+1:]
-		if c, f := Parse(s); !net.Same(c, api.Circuit{}) || f != spot.Fail(s, at, e) {
+		if c, f := bench.Parse(s); !net.Same(c, api.Circuit{}) || f != spot.Fail(s, at, e) {
 			t.Errorf("%q: %v, want %v", s, f, spot.Fail(s, at, e))
 		}
 	}
@@ -258,10 +259,10 @@ k = XNOR(a, b)
 n1 = NOT(b)
 z = AND(a, n1)
 `
-	if s, e := Print(c); s != want || e != api.OK {
+	if s, e := bench.Print(c); s != want || e != api.OK {
 		t.Errorf("%s %v", s, e)
 	}
-	if s, e := Print(api.Circuit{}); s != "" || e != api.OK {
+	if s, e := bench.Print(api.Circuit{}); s != "" || e != api.OK {
 		t.Error(s, e)
 	}
 }
@@ -327,7 +328,7 @@ func TestExpandedAndParsedAgain(t *testing.T) {
 	r := rand.New(rand.NewSource(9))
 	for range 500 {
 		c := randomCircuit(r, []string{"a", "n", "x__", "(", "\\"})
-		x, e := Expand(c)
+		x, e := bench.Expand(c)
 		if err, name := order.Check(x); e != api.OK || err != api.OK {
 			t.Fatal(c, e, err, name)
 		}
@@ -342,12 +343,12 @@ func TestExpandedAndParsedAgain(t *testing.T) {
 				t.Fatal(c, x, state, ins)
 			}
 		}
-		s, e := Print(c)
-		back, f := Parse(s)
+		s, e := bench.Print(c)
+		back, f := bench.Parse(s)
 		if e != api.OK || f != (api.Fail{}) || !net.Same(back, x) {
 			t.Fatal(c, s, back, f)
 		}
-		if again, _ := Print(back); again != s {
+		if again, _ := bench.Print(back); again != s {
 			t.Fatal(s, again)
 		}
 	}
@@ -356,15 +357,15 @@ func TestExpandedAndParsedAgain(t *testing.T) {
 func FuzzParse(f *testing.F) {
 	f.Add("INPUT(a) OUTPUT(z) z = XNOR(a,q)q=DFFX(z) # x")
 	f.Fuzz(func(t *testing.T, s string) {
-		c, fail := Parse(s)
+		c, fail := bench.Parse(s)
 		if fail.Err != api.OK {
 			if !net.Same(c, api.Circuit{}) {
 				t.Error(c, fail)
 			}
 			return
 		}
-		printed, e := Print(c)
-		if back, _ := Parse(printed); e != api.OK || !net.Same(back, c) {
+		printed, e := bench.Print(c)
+		if back, _ := bench.Parse(printed); e != api.OK || !net.Same(back, c) {
 			t.Error(printed)
 		}
 	})

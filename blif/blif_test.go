@@ -1,4 +1,4 @@
-package blif
+package blif_test
 
 import (
 	"math/rand"
@@ -8,6 +8,7 @@ import (
 	"testing"
 
 	"patchbay/api"
+	"patchbay/blif"
 	"patchbay/net"
 	"patchbay/order"
 	"patchbay/spot"
@@ -39,7 +40,7 @@ func TestParse(t *testing.T) {
 			},
 		},
 	} {
-		c, f := Parse(s)
+		c, f := blif.Parse(s)
 		if !net.Same(c, want) || f != (api.Fail{}) {
 			t.Errorf("%q: %v %v", s, c, f)
 		}
@@ -112,7 +113,7 @@ func TestParseWrong(t *testing.T) {
 		if e == 0 { // the gate y is the first one that never comes
 			want = spot.Fail(s, at+6, api.ErrLoop)
 		}
-		if c, f := Parse(s); !net.Same(c, api.Circuit{}) || f != want {
+		if c, f := blif.Parse(s); !net.Same(c, api.Circuit{}) || f != want {
 			t.Errorf("%q: %v, want %v", s, f, want)
 		}
 	}
@@ -131,7 +132,7 @@ func TestPlain(t *testing.T) {
 		{api.Gate{Name: "z", Op: api.OpCover, Rows: []string{""}, Off: true}, api.Gate{Name: "z", Op: api.OpCover, Rows: []string{""}, Off: true}},
 		{api.Gate{Name: "z", Op: api.OpBuf, Off: true}, api.Gate{Name: "z", Op: api.OpBuf, Off: true}},
 	} {
-		got := Plain(x.g)
+		got := blif.Plain(x.g)
 		if !net.Same(api.Circuit{Gates: []api.Gate{got}}, api.Circuit{Gates: []api.Gate{x.want}}) {
 			t.Error(i, got)
 		}
@@ -195,14 +196,14 @@ func TestPrint(t *testing.T) {
 .names a c4
 .end
 `
-	if s, e := Print(c); s != want || e != api.OK {
+	if s, e := blif.Print(c); s != want || e != api.OK {
 		t.Errorf("%s %v", s, e)
 	}
-	if s, e := Print(api.Circuit{}); s != ".model top\n.inputs\n.outputs\n.end\n" || e != api.OK {
+	if s, e := blif.Print(api.Circuit{}); s != ".model top\n.inputs\n.outputs\n.end\n" || e != api.OK {
 		t.Error(s, e)
 	}
 	for _, c := range []api.Circuit{{Outputs: []string{"z"}}, {Gates: []api.Gate{gate(api.OpNot, "z", "z")}}, {Inputs: make([]string, 201)}} {
-		if s, e := Print(c); s != "" || e != api.ErrArg {
+		if s, e := blif.Print(c); s != "" || e != api.ErrArg {
 			t.Error(s, e)
 		}
 	}
@@ -212,7 +213,7 @@ func TestPrint(t *testing.T) {
 func plainly(c api.Circuit) api.Circuit {
 	c.Gates = slices.Clone(c.Gates)
 	for i, g := range c.Gates {
-		c.Gates[i] = Plain(g)
+		c.Gates[i] = blif.Plain(g)
 	}
 	return c
 }
@@ -225,12 +226,12 @@ func TestWhatIsPrintedIsParsedAgain(t *testing.T) {
 		if e, name := order.Check(c); e != api.OK {
 			t.Fatal(e, name)
 		}
-		s, e := Print(c)
-		back, f := Parse(s)
+		s, e := blif.Print(c)
+		back, f := blif.Parse(s)
 		if e != api.OK || f != (api.Fail{}) || !net.Same(back, plainly(c)) {
 			t.Fatal(c, s, back, f)
 		}
-		if again, _ := Print(back); again != s {
+		if again, _ := blif.Print(back); again != s {
 			t.Fatal(s, again)
 		}
 	}
@@ -285,15 +286,15 @@ func randomCircuit(r *rand.Rand, stems []string) api.Circuit {
 func FuzzParse(f *testing.F) {
 	f.Add(".model x\n.inputs a b\n.outputs z\n.latch a q 3\n.names a b z\n11 1\n-0 1\n.end")
 	f.Fuzz(func(t *testing.T, s string) {
-		c, fail := Parse(s)
+		c, fail := blif.Parse(s)
 		if fail.Err != api.OK {
 			if !net.Same(c, api.Circuit{}) {
 				t.Error(c, fail)
 			}
 			return
 		}
-		printed, e := Print(c)
-		back, _ := Parse(printed)
+		printed, e := blif.Print(c)
+		back, _ := blif.Parse(printed)
 		if e != api.OK || !net.Same(back, plainly(c)) {
 			t.Error(printed)
 		}

@@ -1,4 +1,4 @@
-package cnf
+package cnf_test
 
 import (
 	"math"
@@ -8,6 +8,7 @@ import (
 
 	"patchbay/aig"
 	"patchbay/api"
+	"patchbay/cnf"
 )
 
 func clauses(l ...[]int) []api.Clause {
@@ -31,7 +32,7 @@ func TestCheck(t *testing.T) {
 		{clauses([]int{0}), 2, api.ErrArg}, {clauses([]int{1}, []int{1, 3}), 2, api.ErrArg}, {clauses([]int{-3}), 2, api.ErrArg},
 		{clauses([]int{math.MinInt}), 2, api.ErrArg}, {clauses([]int{math.MaxInt}), 2, api.ErrArg}, {clauses([]int{1}), 0, api.ErrArg},
 	} {
-		if e := Check(x.l, x.vars); e != x.e {
+		if e := cnf.Check(x.l, x.vars); e != x.e {
 			t.Error(i, e)
 		}
 	}
@@ -53,7 +54,7 @@ func TestTrue(t *testing.T) {
 		{clauses([]int{1}), nil, false, api.ErrArg},
 		{nil, make([]bool, 20001), false, api.ErrLimit},
 	} {
-		if v, e := True(x.l, x.values); v != x.want || e != x.e {
+		if v, e := cnf.True(x.l, x.values); v != x.want || e != x.e {
 			t.Error(i, v, e)
 		}
 	}
@@ -65,8 +66,8 @@ func three() api.Graph {
 }
 
 func TestUnroll(t *testing.T) {
-	u, e := Unroll(three(), []int{0, 1, 2}, 2)
-	want := Cnf{
+	u, e := cnf.Unroll(three(), []int{0, 1, 2}, 2)
+	want := cnf.Cnf{
 		Vars: 8,
 		Clauses: clauses(
 			[]int{1},
@@ -77,15 +78,15 @@ func TestUnroll(t *testing.T) {
 		),
 		Lits: [][]int{{-1, 3, -1, 1, 2, 4, 5}, {-1, 6, -5, -1, 1, 7, 8}, {-1, 0, -8, -5, 1, 0, 0}},
 	}
-	if !Same(u, want) || e != api.OK {
+	if !cnf.Same(u, want) || e != api.OK {
 		t.Error(u, e)
 	}
-	u, e = Unroll(three(), []int{2, 2, 0}, 0)
-	if !Same(u, Cnf{Vars: 3, Clauses: clauses([]int{1}), Lits: [][]int{{-1, 0, 2, 3, -1, 0, 0}}}) || e != api.OK {
+	u, e = cnf.Unroll(three(), []int{2, 2, 0}, 0)
+	if !cnf.Same(u, cnf.Cnf{Vars: 3, Clauses: clauses([]int{1}), Lits: [][]int{{-1, 0, 2, 3, -1, 0, 0}}}) || e != api.OK {
 		t.Error(u, e)
 	}
-	u, e = Unroll(api.Graph{}, nil, 0)
-	if !Same(u, Cnf{Vars: 1, Clauses: clauses([]int{1}), Lits: [][]int{{-1}}}) || e != api.OK {
+	u, e = cnf.Unroll(api.Graph{}, nil, 0)
+	if !cnf.Same(u, cnf.Cnf{Vars: 1, Clauses: clauses([]int{1}), Lits: [][]int{{-1}}}) || e != api.OK {
 		t.Error(u, e)
 	}
 }
@@ -107,29 +108,29 @@ func TestUnrollWrong(t *testing.T) {
 		{wide, nil, 5, api.ErrLimit}, {wide, nil, 4, api.OK},
 		{one, []int{2}, 5, api.OK}, {three(), []int{0, 0, 0}, 40, api.OK},
 	} {
-		u, e := Unroll(x.g, x.begin, x.k)
-		if e != x.e || e != api.OK && !Same(u, Cnf{}) {
+		u, e := cnf.Unroll(x.g, x.begin, x.k)
+		if e != x.e || e != api.OK && !cnf.Same(u, cnf.Cnf{}) {
 			t.Error(i, e, u.Vars)
 		}
 		if x.k < 0 || x.k > 1000 || e == api.OK {
 			continue
 		}
-		if l, e := Values(x.g, x.begin, nil, make([][]bool, x.k)); l != nil || e != x.e {
+		if l, e := cnf.Values(x.g, x.begin, nil, make([][]bool, x.k)); l != nil || e != x.e {
 			t.Error("Values", i, l, e)
 		}
 	}
-	if u, _ := Unroll(one, []int{2}, 5); u.Vars != 19997 {
+	if u, _ := cnf.Unroll(one, []int{2}, 5); u.Vars != 19997 {
 		t.Error(u.Vars)
 	}
 }
 
 func TestLit(t *testing.T) {
-	u := Cnf{Lits: [][]int{{-1, 7}, {}, {-1, 0, 9}}}
+	u := cnf.Cnf{Lits: [][]int{{-1, 7}, {}, {-1, 0, 9}}}
 	for _, x := range [][3]int{
 		{0, 0, -1}, {0, 1, 1}, {0, 2, 7}, {0, 3, -7}, {0, 4, 0}, {0, -1, 0}, {0, -2, 0}, {0, math.MaxInt, 0}, {0, math.MinInt, 0},
 		{1, 0, 0}, {2, 2, 0}, {2, 3, 0}, {2, 5, -9}, {3, 0, 0}, {-1, 0, 0}, {math.MinInt, 0, 0},
 	} {
-		if got := Lit(u, x[0], x[1]); got != x[2] {
+		if got := cnf.Lit(u, x[0], x[1]); got != x[2] {
 			t.Error(x, got)
 		}
 	}
@@ -137,7 +138,7 @@ func TestLit(t *testing.T) {
 
 func TestValues(t *testing.T) {
 	seq := [][]bool{{true}, {false}}
-	l, e := Values(three(), []int{0, 1, 2}, []bool{false, true, true}, seq)
+	l, e := cnf.Values(three(), []int{0, 1, 2}, []bool{false, true, true}, seq)
 	// The first latch is false, then (the second and being false) true: then the first and is true, as the input is false.
 	if !slices.Equal(l, []bool{true, true, true, false, false, false, true, false}) || e != api.OK {
 		t.Error(l, e)
@@ -149,11 +150,11 @@ func TestValues(t *testing.T) {
 		{[]bool{false, true}, seq}, {[]bool{false, true, true, true}, seq}, {[]bool{true, true, true}, seq}, {[]bool{false, false, true}, seq},
 		{[]bool{false, true, true}, [][]bool{{true}, {}}}, {[]bool{false, true, true}, [][]bool{{true, true}}},
 	} {
-		if l, e := Values(three(), []int{0, 1, 2}, x.state, x.seq); l != nil || e != api.ErrState {
+		if l, e := cnf.Values(three(), []int{0, 1, 2}, x.state, x.seq); l != nil || e != api.ErrState {
 			t.Error(i, l, e)
 		}
 	}
-	if l, e := Values(api.Graph{}, nil, nil, nil); !slices.Equal(l, []bool{true}) || e != api.OK {
+	if l, e := cnf.Values(api.Graph{}, nil, nil, nil); !slices.Equal(l, []bool{true}) || e != api.OK {
 		t.Error(l, e)
 	}
 }
@@ -192,7 +193,7 @@ func runs(t *testing.T, g api.Graph, begin []int, k int) map[string]bool {
 			for i := range k {
 				seq = append(seq, all01[i*g.Ins:(i+1)*g.Ins])
 			}
-			l, e := Values(g, begin, state, seq)
+			l, e := cnf.Values(g, begin, state, seq)
 			if e == api.ErrState {
 				continue
 			}
@@ -216,7 +217,7 @@ func text(l []bool) []byte {
 
 // checkLits looks in each row of a run at the literals of the graph's numbers.
 func checkLits(t *testing.T, g api.Graph, begin []int, state []bool, seq [][]bool, l []bool) {
-	u, _ := Unroll(g, begin, len(seq))
+	u, _ := cnf.Unroll(g, begin, len(seq))
 	holds := func(lit int) bool {
 		if lit < 0 {
 			return !l[-lit-1]
@@ -226,14 +227,14 @@ func checkLits(t *testing.T, g api.Graph, begin []int, state []bool, seq [][]boo
 	for i, ins := range seq {
 		values, _ := aig.Values(g, state, ins)
 		for n, v := range values {
-			if holds(Lit(u, i, 2*n)) != v || holds(Lit(u, i, 2*n+1)) == v {
+			if holds(cnf.Lit(u, i, 2*n)) != v || holds(cnf.Lit(u, i, 2*n+1)) == v {
 				t.Fatal(g, begin, i, n)
 			}
 		}
 		_, state, _ = aig.Step(g, state, ins)
 	}
 	for i, v := range state {
-		if holds(Lit(u, len(seq), 2*(1+g.Ins+i))) != v {
+		if holds(cnf.Lit(u, len(seq), 2*(1+g.Ins+i))) != v {
 			t.Fatal(g, begin, state)
 		}
 	}
@@ -248,14 +249,14 @@ func TestClausesHoldJustInRuns(t *testing.T) {
 			begin[i] = r.Intn(3)
 		}
 		k := r.Intn(4)
-		u, e := Unroll(g, begin, k)
+		u, e := cnf.Unroll(g, begin, k)
 		if e != api.OK || u.Vars > 14 {
 			continue
 		}
 		all := runs(t, g, begin, k)
 		for x := range 1 << u.Vars {
 			values := bitsOf(x, u.Vars)
-			if holds, e := True(u.Clauses, values); holds != all[string(text(values))] || e != api.OK {
+			if holds, e := cnf.True(u.Clauses, values); holds != all[string(text(values))] || e != api.OK {
 				t.Fatal(g, begin, k, values, holds, e)
 			}
 		}
@@ -263,27 +264,27 @@ func TestClausesHoldJustInRuns(t *testing.T) {
 }
 
 func TestSame(t *testing.T) {
-	a := func() Cnf { return Cnf{Vars: 2, Clauses: clauses([]int{1, 2}), Lits: [][]int{{1}}} }
-	if !Same(a(), a()) || !Same(Cnf{}, Cnf{Clauses: []api.Clause{}, Lits: [][]int{}}) {
+	a := func() cnf.Cnf { return cnf.Cnf{Vars: 2, Clauses: clauses([]int{1, 2}), Lits: [][]int{{1}}} }
+	if !cnf.Same(a(), a()) || !cnf.Same(cnf.Cnf{}, cnf.Cnf{Clauses: []api.Clause{}, Lits: [][]int{}}) {
 		t.Error("alike, and told not to be")
 	}
-	for i, change := range []func(u *Cnf){
-		func(u *Cnf) { u.Vars = 3 },
-		func(u *Cnf) { u.Clauses[0][0] = -1 },
-		func(u *Cnf) { u.Clauses = nil },
-		func(u *Cnf) { u.Lits[0][0] = 2 },
-		func(u *Cnf) { u.Lits = append(u.Lits, nil) },
+	for i, change := range []func(u *cnf.Cnf){
+		func(u *cnf.Cnf) { u.Vars = 3 },
+		func(u *cnf.Cnf) { u.Clauses[0][0] = -1 },
+		func(u *cnf.Cnf) { u.Clauses = nil },
+		func(u *cnf.Cnf) { u.Lits[0][0] = 2 },
+		func(u *cnf.Cnf) { u.Lits = append(u.Lits, nil) },
 	} {
 		u := a()
 		change(&u)
-		if Same(u, a()) || Same(a(), u) {
+		if cnf.Same(u, a()) || cnf.Same(a(), u) {
 			t.Error(i)
 		}
 	}
 }
 
 func TestClausesShareNothing(t *testing.T) {
-	u, _ := Unroll(three(), []int{0, 1, 2}, 1)
+	u, _ := cnf.Unroll(three(), []int{0, 1, 2}, 1)
 	u.Clauses[1] = append(u.Clauses[1], 99)
 	if u.Clauses[2][0] == 99 {
 		t.Error(u.Clauses)

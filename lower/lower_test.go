@@ -1,4 +1,4 @@
-package lower
+package lower_test
 
 import (
 	"math/rand"
@@ -8,6 +8,7 @@ import (
 
 	"patchbay/aig"
 	"patchbay/api"
+	"patchbay/lower"
 	"patchbay/order"
 	"patchbay/step"
 )
@@ -49,7 +50,7 @@ func TestCheck(t *testing.T) {
 	} {
 		m := small()
 		x.change(&m)
-		if e := Check(m); e != x.e {
+		if e := lower.Check(m); e != x.e {
 			t.Error(i, e, "want", x.e)
 		}
 	}
@@ -58,19 +59,19 @@ func TestCheck(t *testing.T) {
 func TestPlace(t *testing.T) {
 	m := small()
 	for s, want := range map[string]int{"a": 1, "b": 2, "q": 3, "z": -1, "": -1} {
-		if n := Place(m, s); n != want {
+		if n := lower.Place(m, s); n != want {
 			t.Error(s, n)
 		}
 	}
 	m.Latches = []string{"b", "r", "r"}
 	m.Graph = api.Graph{}
-	if Place(m, "b") != 2 || Place(m, "r") != 4 || Place(api.Model{}, "a") != -1 {
+	if lower.Place(m, "b") != 2 || lower.Place(m, "r") != 4 || lower.Place(api.Model{}, "a") != -1 {
 		t.Error("place")
 	}
 }
 
 func TestSame(t *testing.T) {
-	if !Same(small(), small()) || !Same(api.Model{}, api.Model{Inputs: []string{}}) {
+	if !lower.Same(small(), small()) || !lower.Same(api.Model{}, api.Model{Inputs: []string{}}) {
 		t.Error("alike, and told not to be")
 	}
 	for i, change := range []func(m *api.Model){
@@ -82,7 +83,7 @@ func TestSame(t *testing.T) {
 	} {
 		m := small()
 		change(&m)
-		if Same(m, small()) || Same(small(), m) {
+		if lower.Same(m, small()) || lower.Same(small(), m) {
 			t.Error(i)
 		}
 	}
@@ -132,12 +133,12 @@ func TestGatesAreMadeSo(t *testing.T) {
 		if x.n == 0 {
 			c.Inputs = nil
 		}
-		m, e, name := Lower(c)
+		m, e, name := lower.Lower(c)
 		want := api.Model{
 			Graph:  api.Graph{Ins: x.n, Next: []int{x.out}, Init: []int{1}, Ands: x.ands, Outs: []int{x.out}},
 			Inputs: c.Inputs, Latches: []string{"q"}, Outputs: []string{"z"},
 		}
-		if !Same(m, want) || e != api.OK || name != "" {
+		if !lower.Same(m, want) || e != api.OK || name != "" {
 			t.Error(x, m.Graph, e, name)
 		}
 	}
@@ -151,7 +152,7 @@ func TestGatesComeInOrder(t *testing.T) {
 		{Name: "z", Op: api.OpAnd, Ins: []string{"b", "a", "c"}},
 	}}
 	want := api.Graph{Ins: 3, Ands: [][2]int{{6, 4}, {8, 6}, {4, 2}, {12, 6}}, Outs: []int{10, 14}}
-	if m, e, _ := Lower(c); !aig.Same(m.Graph, want) || e != api.OK {
+	if m, e, _ := lower.Lower(c); !aig.Same(m.Graph, want) || e != api.OK {
 		t.Error(m.Graph, e)
 	}
 }
@@ -180,12 +181,12 @@ func TestLowerWrong(t *testing.T) {
 		{api.Circuit{Inputs: make([]string, 201)}, api.ErrLimit, ""},
 		{wide, api.ErrLimit, ""},
 	} {
-		if m, e, name := Lower(x.c); !Same(m, api.Model{}) || e != x.e || name != x.name {
+		if m, e, name := lower.Lower(x.c); !lower.Same(m, api.Model{}) || e != x.e || name != x.name {
 			t.Error(i, e, name)
 		}
 	}
 	wide.Gates = wide.Gates[:190] // 9 inputs, and 190 times 7 times 3 ands
-	if m, e, _ := Lower(wide); e != api.OK || len(m.Graph.Ands) != 21 {
+	if m, e, _ := lower.Lower(wide); e != api.OK || len(m.Graph.Ands) != 21 {
 		t.Error(e, len(m.Graph.Ands))
 	}
 }
@@ -252,8 +253,8 @@ func TestGraphDoesWhatNetlistDoes(t *testing.T) {
 		if e, name := order.Check(c); e != api.OK {
 			t.Fatal(c, e, name)
 		}
-		m, e, name := Lower(c)
-		if e != api.OK || name != "" || Check(m) != api.OK || !aig.Strict(m.Graph) {
+		m, e, name := lower.Lower(c)
+		if e != api.OK || name != "" || lower.Check(m) != api.OK || !aig.Strict(m.Graph) {
 			t.Fatal(c, m, e, name)
 		}
 		for x := range 1 << (len(c.Inputs) + len(c.Latches)) {
@@ -269,7 +270,7 @@ func TestGraphDoesWhatNetlistDoes(t *testing.T) {
 
 func TestLowerSharesNothing(t *testing.T) {
 	c := of(api.OpNand, 2, nil, false)
-	m, _, _ := Lower(c)
+	m, _, _ := lower.Lower(c)
 	m.Inputs[0], m.Outputs[0] = "changed", "changed"
 	if c.Inputs[0] != "i0" || c.Outputs[0] != "z" {
 		t.Error(c)

@@ -1,4 +1,4 @@
-package net
+package net_test
 
 import (
 	"slices"
@@ -7,6 +7,7 @@ import (
 	"testing"
 
 	"patchbay/api"
+	"patchbay/net"
 )
 
 func many(stem string, n int) []string {
@@ -35,7 +36,7 @@ func TestCheckOfGood(t *testing.T) {
 	rows := api.Circuit{Inputs: many("i", 8), Gates: []api.Gate{{Name: "z", Op: api.OpCover, Ins: many("i", 8), Rows: slices.Repeat([]string{"01-01-01"}, 128)}}}
 	loop := api.Circuit{Gates: []api.Gate{{Name: "z", Op: api.OpNot, Ins: []string{"z"}}}}
 	for i, c := range []api.Circuit{{}, small(), full, rows, loop} {
-		if e, name := Check(c); e != api.OK || name != "" {
+		if e, name := net.Check(c); e != api.OK || name != "" {
 			t.Error(i, e, name)
 		}
 	}
@@ -75,25 +76,30 @@ func TestCheckOfWrong(t *testing.T) {
 	} {
 		c := small()
 		x.change(&c)
-		if e, name := Check(c); e != x.e || name != x.name {
+		if e, name := net.Check(c); e != x.e || name != x.name {
 			t.Errorf("%d: %v %q, want %v %q", i, e, name, x.e, x.name)
 		}
 	}
 }
 
+// same tells whether two gates are alike.
+func same(g, h api.Gate) bool {
+	return net.Same(api.Circuit{Gates: []api.Gate{g}}, api.Circuit{Gates: []api.Gate{h}})
+}
+
 func TestNetsAndPlace(t *testing.T) {
 	c := small()
-	l := Nets(c)
+	l := net.Nets(c)
 	if !slices.Equal(l, []string{"a", "b", "q", "z", "y"}) {
 		t.Error(l)
 	}
 	for i, s := range l {
-		if Place(c, s) != i {
+		if net.Place(c, s) != i {
 			t.Error(s)
 		}
 	}
 	c.Gates[1].Name = "a"
-	if Place(c, "a") != 0 || Place(c, "y") != -1 || Place(api.Circuit{}, "") != -1 {
+	if net.Place(c, "a") != 0 || net.Place(c, "y") != -1 || net.Place(api.Circuit{}, "") != -1 {
 		t.Error("place")
 	}
 	l[0] = "changed"
@@ -111,24 +117,24 @@ func TestGate(t *testing.T) {
 		}
 		for n := range 11 {
 			want := may[0] <= n && n <= may[1] && op >= 0 && op <= api.OpCover
-			if Gate(api.Gate{Op: op, Ins: make([]string, n)}) != want {
+			if net.Gate(api.Gate{Op: op, Ins: make([]string, n)}) != want {
 				t.Error(op, n)
 			}
 			row := []string{strings.Repeat("-", n)}
-			if Gate(api.Gate{Op: op, Ins: make([]string, n), Rows: row}) != (want && op == api.OpCover) {
+			if net.Gate(api.Gate{Op: op, Ins: make([]string, n), Rows: row}) != (want && op == api.OpCover) {
 				t.Error("rows", op, n)
 			}
-			if Gate(api.Gate{Op: op, Ins: make([]string, n), Off: true}) != (want && op == api.OpCover) {
+			if net.Gate(api.Gate{Op: op, Ins: make([]string, n), Off: true}) != (want && op == api.OpCover) {
 				t.Error("off", op, n)
 			}
 		}
 	}
 	for _, row := range []string{"", "1", "111", "1x", "2-", " 1", "0-1", "1\x00"} {
-		if Gate(api.Gate{Op: api.OpCover, Ins: []string{"a", "b"}, Rows: []string{"01", row}}) {
+		if net.Gate(api.Gate{Op: api.OpCover, Ins: []string{"a", "b"}, Rows: []string{"01", row}}) {
 			t.Errorf("%q", row)
 		}
 	}
-	if Gate(api.Gate{Op: api.OpCover, Ins: []string{"a"}, Rows: slices.Repeat([]string{"1"}, 129)}) {
+	if net.Gate(api.Gate{Op: api.OpCover, Ins: []string{"a"}, Rows: slices.Repeat([]string{"1"}, 129)}) {
 		t.Error("129 rows")
 	}
 }
@@ -143,7 +149,7 @@ func TestCanonOfOne(t *testing.T) {
 			want = api.OpNot
 		}
 		g := api.Gate{Name: "z", Op: op, Ins: []string{"a"}}
-		if h := Canon(g); h.Op != want || h.Name != "z" || !slices.Equal(h.Ins, g.Ins) {
+		if h := net.Canon(g); h.Op != want || h.Name != "z" || !slices.Equal(h.Ins, g.Ins) {
 			t.Error(g, h)
 		}
 		for _, g := range []api.Gate{
@@ -152,7 +158,7 @@ func TestCanonOfOne(t *testing.T) {
 			{Name: "z", Op: op, Ins: []string{"a"}, Off: true},
 			{Name: "z", Op: op, Ins: make([]string, 9)},
 		} {
-			if h := Canon(g); !sameGate(g, h) {
+			if h := net.Canon(g); !same(g, h) {
 				t.Error(g, h)
 			}
 		}
@@ -197,12 +203,12 @@ func TestCanonOfCovers(t *testing.T) {
 			}
 			g := api.Gate{Name: "z", Op: api.OpCover, Ins: ins, Rows: x.rows, Off: x.off}
 			want := api.Gate{Name: "z", Op: x.op, Ins: ins}
-			if h := Canon(g); !sameGate(h, want) {
+			if h := net.Canon(g); !same(h, want) {
 				t.Error(n, h, "want", want)
 			}
 			if x.op == api.OpZero || x.op == api.OpOne || x.op == api.OpXor || x.op == api.OpXnor || n == 1 {
 				g.Off = true
-				if h := Canon(g); !sameGate(h, g) {
+				if h := net.Canon(g); !same(h, g) {
 					t.Error("off", n, h)
 				}
 			}
@@ -220,8 +226,8 @@ func TestCanonLeavesOtherCovers(t *testing.T) {
 		{Ins: make([]string, 9), Rows: []string{"111111111"}}, {Ins: two, Rows: []string{"0x"}}, {Ins: []string{"a"}, Rows: []string{"-"}},
 	} {
 		g.Name, g.Op = "z", api.OpCover
-		h := Canon(g)
-		if !sameGate(g, h) || !sameGate(Canon(h), h) {
+		h := net.Canon(g)
+		if !same(g, h) || !same(net.Canon(h), h) {
 			t.Error(g, h)
 		}
 	}
@@ -235,8 +241,8 @@ func TestCanonTwiceIsCanon(t *testing.T) {
 				for _, d := range signs {
 					for _, off := range []bool{false, true} {
 						g := api.Gate{Name: "z", Op: api.OpCover, Ins: []string{"a", "b"}, Rows: []string{a + b, c + d}, Off: off}
-						h := Canon(g)
-						if !Gate(g) || !Gate(h) || !sameGate(Canon(h), h) {
+						h := net.Canon(g)
+						if !net.Gate(g) || !net.Gate(h) || !same(net.Canon(h), h) {
 							t.Error(g, h)
 						}
 					}
@@ -248,25 +254,25 @@ func TestCanonTwiceIsCanon(t *testing.T) {
 
 func TestCanonSharesNothing(t *testing.T) {
 	g := small().Gates[1]
-	h := Canon(g)
+	h := net.Canon(g)
 	h.Ins[0], h.Rows[0] = "changed", "changed"
-	if !sameGate(g, small().Gates[1]) {
+	if !same(g, small().Gates[1]) {
 		t.Error(g)
 	}
 	g = small().Gates[0]
-	Canon(g).Ins[0] = "changed"
+	net.Canon(g).Ins[0] = "changed"
 	if g.Ins[0] != "a" {
 		t.Error(g)
 	}
 }
 
 func TestSame(t *testing.T) {
-	if !Same(small(), small()) || !Same(api.Circuit{}, api.Circuit{Inputs: []string{}, Gates: []api.Gate{}}) {
+	if !net.Same(small(), small()) || !net.Same(api.Circuit{}, api.Circuit{Inputs: []string{}, Gates: []api.Gate{}}) {
 		t.Error("alike, and told not to be")
 	}
 	empty := small()
 	empty.Gates[0].Rows = []string{}
-	if !Same(empty, small()) {
+	if !net.Same(empty, small()) {
 		t.Error("nil and empty")
 	}
 	for i, change := range []func(c *api.Circuit){
@@ -285,7 +291,7 @@ func TestSame(t *testing.T) {
 	} {
 		c := small()
 		change(&c)
-		if Same(c, small()) || Same(small(), c) {
+		if net.Same(c, small()) || net.Same(small(), c) {
 			t.Error(i)
 		}
 	}

@@ -1,4 +1,4 @@
-package order
+package order_test
 
 import (
 	"math/rand"
@@ -8,6 +8,7 @@ import (
 
 	"patchbay/api"
 	"patchbay/net"
+	"patchbay/order"
 )
 
 func gate(name string, ins ...string) api.Gate {
@@ -48,11 +49,11 @@ func TestSort(t *testing.T) {
 		{[]api.Gate{gate("z", "q")}, []int{0}, nil},
 	} {
 		c := api.Circuit{Inputs: []string{"a", "b"}, Latches: []api.Latch{{Name: "q", Next: "q"}}, Gates: x.gates}
-		places, never := Sort(c)
+		places, never := order.Sort(c)
 		if !slices.Equal(places, x.places) || !slices.Equal(never, x.never) {
 			t.Error(i, places, never)
 		}
-		e, name := Check(c)
+		e, name := order.Check(c)
 		if len(x.never) == 0 && (e != api.OK || name != "") || len(x.never) > 0 && (e != api.ErrLoop || name != x.never[0]) {
 			t.Error(i, e, name)
 		}
@@ -61,20 +62,20 @@ func TestSort(t *testing.T) {
 
 func TestOfWrongNothing(t *testing.T) {
 	for i, c := range wrong() {
-		if places, never := Sort(c); places != nil || never != nil {
+		if places, never := order.Sort(c); places != nil || never != nil {
 			t.Error(i, places, never)
 		}
 		want, wantName := net.Check(c)
-		if e, name := Check(c); e != want || name != wantName || e == api.OK {
+		if e, name := order.Check(c); e != want || name != wantName || e == api.OK {
 			t.Error(i, e, name)
 		}
-		if l := Levels(c); l != nil {
+		if l := order.Levels(c); l != nil {
 			t.Error(i, l)
 		}
-		if l := Cone(c, []string{"", "a", "z"}); l != nil {
+		if l := order.Cone(c, []string{"", "a", "z"}); l != nil {
 			t.Error(i, l)
 		}
-		if u := Trim(c); !net.Same(u, api.Circuit{}) {
+		if u := order.Trim(c); !net.Same(u, api.Circuit{}) {
 			t.Error(i, u)
 		}
 	}
@@ -82,7 +83,7 @@ func TestOfWrongNothing(t *testing.T) {
 
 func TestErrorsAheadOfLoop(t *testing.T) {
 	c := api.Circuit{Gates: []api.Gate{gate("z", "z"), gate("y", "none")}}
-	if e, name := Check(c); e != api.ErrNone || name != "none" {
+	if e, name := order.Check(c); e != api.ErrNone || name != "none" {
 		t.Error(e, name)
 	}
 }
@@ -91,7 +92,7 @@ func TestLevels(t *testing.T) {
 	c := api.Circuit{Inputs: []string{"a"}, Latches: []api.Latch{{Name: "q", Next: "z"}}, Gates: []api.Gate{
 		gate("v", "z", "a"), gate("w", "a", "q"), gate("x", "w"), gate("y", "x", "w"), gate("z", "y", "w"), gate("r", "s"), gate("s", "r"), gate("t", "s", "a"), gate("u"),
 	}}
-	if l := Levels(c); !slices.Equal(l, []int{4, 0, 1, 2, 3, -1, -1, -1, 0}) {
+	if l := order.Levels(c); !slices.Equal(l, []int{4, 0, 1, 2, 3, -1, -1, -1, 0}) {
 		t.Error(l)
 	}
 }
@@ -109,7 +110,7 @@ func TestCone(t *testing.T) {
 		{[]string{"w"}, []string{"b", "w", "v"}},
 		{[]string{"p", "p", "b", "none"}, []string{"b", "p"}},
 	} {
-		if l := Cone(c, x.nets); !slices.Equal(l, x.want) {
+		if l := order.Cone(c, x.nets); !slices.Equal(l, x.want) {
 			t.Error(x.nets, l)
 		}
 	}
@@ -120,7 +121,7 @@ func TestTrim(t *testing.T) {
 		gate("z", "y"), gate("y", "a"), {Name: "u", Op: api.OpCover, Ins: []string{"q"}, Rows: []string{"-"}, Off: true}, gate("w", "w"),
 	}}
 	want := api.Circuit{Inputs: c.Inputs, Outputs: c.Outputs, Latches: c.Latches[1:], Gates: c.Gates[1:3]}
-	u := Trim(c)
+	u := order.Trim(c)
 	if !net.Same(u, want) {
 		t.Error(u)
 	}
@@ -128,7 +129,7 @@ func TestTrim(t *testing.T) {
 	if c.Inputs[0] != "a" || c.Outputs[0] != "u" || c.Latches[1].Name != "q" || c.Gates[2].Ins[0] != "q" || c.Gates[2].Rows[0] != "-" {
 		t.Error("Trim shares memory with the netlist")
 	}
-	if u := Trim(api.Circuit{Inputs: []string{"a"}}); !net.Same(u, api.Circuit{Inputs: []string{"a"}}) {
+	if u := order.Trim(api.Circuit{Inputs: []string{"a"}}); !net.Same(u, api.Circuit{Inputs: []string{"a"}}) {
 		t.Error(u)
 	}
 }
@@ -166,11 +167,11 @@ func TestEachGateComesBehindThoseItWaitsFor(t *testing.T) {
 			}
 			c.Gates = append(c.Gates, gate("g"+strconv.Itoa(i), ins...))
 		}
-		places, never := Sort(c)
+		places, never := order.Sort(c)
 		if want := sortSlowly(c); !slices.Equal(places, want) || len(places)+len(never) != n {
 			t.Fatal(c, places, want, never)
 		}
-		levels := Levels(c)
+		levels := order.Levels(c)
 		for i, g := range c.Gates {
 			if (levels[i] < 0) != slices.Contains(never, g.Name) {
 				t.Fatal(c, levels, never)

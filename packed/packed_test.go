@@ -1,4 +1,4 @@
-package packed
+package packed_test
 
 import (
 	"math"
@@ -11,8 +11,8 @@ import (
 	"patchbay/aig"
 	"patchbay/aiger"
 	"patchbay/api"
-	"patchbay/digits"
 	"patchbay/lower"
+	"patchbay/packed"
 	"patchbay/raise"
 	"patchbay/spot"
 )
@@ -31,7 +31,7 @@ func TestAnds(t *testing.T) {
 		{api.Graph{Ins: -1}, "", api.ErrLimit},
 		{api.Graph{Ins: 1, Outs: []int{4}}, "", api.ErrArg},
 	} {
-		if s, e := Ands(x.g); s != x.want || e != x.e {
+		if s, e := packed.Ands(x.g); s != x.want || e != x.e {
 			t.Errorf("%d: %q %v", i, s, e)
 		}
 	}
@@ -53,7 +53,7 @@ func TestUnands(t *testing.T) {
 		{"\x01\x01", 0, 1, 1, [][2]int{{1, 0}}, 2},
 		{"\x8e\x03\x01\x80", 0, 201, 1, [][2]int{{4, 3}}, 3},
 	} {
-		l, end, e := Unands(x.s, x.at, x.first, x.many)
+		l, end, e := packed.Unands(x.s, x.at, x.first, x.many)
 		if !slices.Equal(l, x.want) || end != x.end || e != api.OK {
 			t.Error(i, l, end, e)
 		}
@@ -75,7 +75,7 @@ func TestUnandsWrong(t *testing.T) {
 		{"\x00\x00", 0, 1, 1, 0, api.ErrArg}, {"\x03\x00", 0, 1, 1, 0, api.ErrArg}, {"\x01\x02", 0, 1, 1, 1, api.ErrArg}, {"\x02\x01", 0, 1, 1, 1, api.ErrArg},
 		{"\x02\x00\x05\x00", 0, 1, 2, 2, api.ErrArg}, {"\x03\x80", 0, 1, 1, 0, api.ErrArg},
 	} {
-		if l, end, e := Unands(x.s, x.at, x.first, x.many); l != nil || end != x.end || e != x.e {
+		if l, end, e := packed.Unands(x.s, x.at, x.first, x.many); l != nil || end != x.end || e != x.e {
 			t.Error(i, l, end, e)
 		}
 	}
@@ -83,7 +83,7 @@ func TestUnandsWrong(t *testing.T) {
 
 func TestUnandsOfMany(t *testing.T) {
 	s := strings.Repeat("\x01\x01", 4000)
-	l, end, e := Unands(s, 0, 4001, 4000)
+	l, end, e := packed.Unands(s, 0, 4001, 4000)
 	if len(l) != 4000 || l[3999] != [2]int{15999, 15998} || end != 8000 || e != api.OK {
 		t.Error(len(l), end, e)
 	}
@@ -103,7 +103,7 @@ func TestParse(t *testing.T) {
 			Inputs: []string{"i0", "i1", "i2", "i3", "i4", "i5", "i6", "i7", "i8", "x"}, Outputs: []string{"o0"},
 		},
 	} {
-		m, f := Parse(s)
+		m, f := packed.Parse(s)
 		if !lower.Same(m, want) || f != (api.Fail{}) {
 			t.Errorf("%q: %v %v", s, m, f)
 		}
@@ -147,7 +147,7 @@ func TestParseWrong(t *testing.T) {
 	} {
 		at := strings.IndexByte(marked, '@')
 		s := marked[:at] + marked[at+1:]
-		if m, f := Parse(s); !lower.Same(m, api.Model{}) || f != spot.Fail(s, at, e) {
+		if m, f := packed.Parse(s); !lower.Same(m, api.Model{}) || f != spot.Fail(s, at, e) {
 			t.Errorf("%q: %v %v, want %v", s, m, f, spot.Fail(s, at, e))
 		}
 	}
@@ -161,7 +161,7 @@ func TestPrint(t *testing.T) {
 		Outputs: []string{"y", "z", "a"},
 	}
 	want := "aig 6 2 3 3 1\n11\n1 1\n4 10\n13\n13\n2\n\x08\x02i0 a\ni1 b\nl0 p\nl1 q\nl2 r\no0 y\no1 z\no2 a\n"
-	if s, e := Print(m); s != want || e != api.OK {
+	if s, e := packed.Print(m); s != want || e != api.OK {
 		t.Errorf("%q %v", s, e)
 	}
 	for i, change := range []func(m *api.Model){
@@ -173,7 +173,7 @@ func TestPrint(t *testing.T) {
 	} {
 		n, _ := raise.Normal(m)
 		change(&n)
-		if s, e := Print(n); s != "" || e != lower.Check(n) || e == api.OK {
+		if s, e := packed.Print(n); s != "" || e != lower.Check(n) || e == api.OK {
 			t.Error(i, s, e)
 		}
 	}
@@ -209,8 +209,8 @@ func TestBothKindsAreOneAnothers(t *testing.T) {
 	for range 1000 {
 		m := randomModel(r)
 		n, _ := raise.Normal(m)
-		s, e := Print(m)
-		back, f := Parse(s)
+		s, e := packed.Print(m)
+		back, f := packed.Parse(s)
 		if e != api.OK || f != (api.Fail{}) || !lower.Same(back, n) {
 			t.Fatal(m, s, back, f)
 		}
@@ -218,46 +218,26 @@ func TestBothKindsAreOneAnothers(t *testing.T) {
 		if other, _ := aiger.Parse(letters); !lower.Same(other, back) {
 			t.Fatal(other, back)
 		}
-		bytes, _ := Ands(m.Graph)
-		l, end, e := Unands("?"+bytes, 1, 1+n.Graph.Ins+len(n.Graph.Next), len(n.Graph.Ands))
+		bytes, _ := packed.Ands(m.Graph)
+		l, end, e := packed.Unands("?"+bytes, 1, 1+n.Graph.Ins+len(n.Graph.Next), len(n.Graph.Ands))
 		if !slices.Equal(l, n.Graph.Ands) || end != 1+len(bytes) || e != api.OK {
 			t.Fatal(n.Graph, l, end, e)
 		}
 	}
 }
 
-func TestPiecesHaveNoRoomBehind(t *testing.T) {
-	b := []byte("\x81\x02\x03")
-	if l := cut(b, 0); string(l) != "\x81\x02" || cap(l) != 2 {
-		t.Error(l, cap(l))
-	}
-	d, _ := digits.Delta(300)
-	if n, size, e := number([]byte("?"+d+"?"), 1); n != 300 || size != 2 || e != api.OK {
-		t.Error(n, size, e)
-	}
-}
-
-func TestAndsCanBeLeft(t *testing.T) {
-	for own, and := range ands(api.Graph{Ins: 2, Ands: [][2]int{{4, 2}, {6, 2}}}) {
-		if own != 6 || and != [2]int{4, 2} {
-			t.Error(own, and)
-		}
-		break
-	}
-}
-
 func FuzzParse(f *testing.F) {
 	f.Add("aig 5 1 3 1 1 1 1\n11\n4 1\n10 8\n4\n10\n0\n\x02\x06l1 q\nc0 k\n")
 	f.Fuzz(func(t *testing.T, s string) {
-		m, fail := Parse(s)
+		m, fail := packed.Parse(s)
 		if fail.Err != api.OK {
 			if !lower.Same(m, api.Model{}) {
 				t.Error(m, fail)
 			}
 			return
 		}
-		printed, _ := Print(m)
-		back, _ := Parse(printed)
+		printed, _ := packed.Print(m)
+		back, _ := packed.Parse(printed)
 		if n, _ := raise.Normal(m); !lower.Same(n, back) || !aig.Strict(back.Graph) {
 			t.Error(printed)
 		}

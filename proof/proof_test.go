@@ -1,4 +1,4 @@
-package proof
+package proof_test
 
 import (
 	"math"
@@ -8,6 +8,7 @@ import (
 
 	"patchbay/api"
 	"patchbay/cnf"
+	"patchbay/proof"
 )
 
 func clauses(l ...[]int) []api.Clause {
@@ -46,7 +47,7 @@ func TestPropagate(t *testing.T) {
 		{clauses([]int{1, 2}, []int{1, -2}), 2, nil, nil, false},
 		{clauses([]int{1, 2}, []int{1, -2}), 2, []int{-1}, nil, true},
 	} {
-		holds, conflict, e := Propagate(x.l, x.vars, x.given)
+		holds, conflict, e := proof.Propagate(x.l, x.vars, x.given)
 		if !slices.Equal(holds, x.holds) || conflict != x.conflict || e != api.OK {
 			t.Error(i, holds, conflict, e)
 		}
@@ -64,20 +65,20 @@ func TestWrong(t *testing.T) {
 		{clauses([]int{2}), 1, []int{0}, api.ErrArg}, {nil, 1, []int{0}, api.ErrArg}, {nil, 1, []int{1, 2}, api.ErrArg}, {nil, 1, []int{-2}, api.ErrArg},
 		{clauses([]int{}), 1, []int{math.MinInt}, api.ErrArg}, {clauses([]int{1}, []int{-1}), 1, []int{math.MaxInt}, api.ErrArg},
 	} {
-		if l, conflict, e := Propagate(x.l, x.vars, x.c); l != nil || conflict || e != x.e {
+		if l, conflict, e := proof.Propagate(x.l, x.vars, x.c); l != nil || conflict || e != x.e {
 			t.Error(i, l, conflict, e)
 		}
-		if is, e := Rup(x.l, x.vars, x.c); is || e != x.e {
+		if is, e := proof.Rup(x.l, x.vars, x.c); is || e != x.e {
 			t.Error(i, is, e)
 		}
 		for _, steps := range [][]api.Clause{{x.c}, {{1}, {}, x.c}} {
 			if x.vars != 1 {
 				steps = steps[:1]
 			}
-			if is, e := Check(x.l, x.vars, steps); is || e != x.e {
+			if is, e := proof.Check(x.l, x.vars, steps); is || e != x.e {
 				t.Error(i, is, e)
 			}
-			if l, e := Prune(x.l, x.vars, steps); l != nil || e != x.e {
+			if l, e := proof.Prune(x.l, x.vars, steps); l != nil || e != x.e {
 				t.Error(i, l, e)
 			}
 		}
@@ -93,11 +94,11 @@ func TestRup(t *testing.T) {
 		{[]int{1}, true}, {[]int{1, 4}, true}, {[]int{}, false}, {[]int{2}, false}, {[]int{-1}, false}, {[]int{3, 4}, true}, {[]int{3}, false},
 		{[]int{2, -2}, true}, {[]int{5, -5}, true}, {[]int{5}, false}, {[]int{1, 1}, true},
 	} {
-		if is, e := Rup(l, 5, x.c); is != x.want || e != api.OK {
+		if is, e := proof.Rup(l, 5, x.c); is != x.want || e != api.OK {
 			t.Error(x, is, e)
 		}
 	}
-	if is, e := Rup(clauses([]int{}), 1, []int{1}); !is || e != api.OK {
+	if is, e := proof.Rup(clauses([]int{}), 1, []int{1}); !is || e != api.OK {
 		t.Error(is, e)
 	}
 }
@@ -127,7 +128,7 @@ func TestCheck(t *testing.T) {
 		{clauses([]int{}), clauses([]int{2}), true},
 		{nil, nil, false},
 	} {
-		if is, e := Check(x.l, 3, x.steps); is != x.want || e != api.OK {
+		if is, e := proof.Check(x.l, 3, x.steps); is != x.want || e != api.OK {
 			t.Error(i, is, e)
 		}
 	}
@@ -145,7 +146,7 @@ func TestPrune(t *testing.T) {
 		{clauses([]int{1, 2, 3}, []int{1, 2, -3}, []int{1, -2, 3}, []int{1, -2, -3}, []int{-1, 2, 3}, []int{-1, 2, -3}, []int{-1, -2, 3}, []int{-1, -2, -3}),
 			clauses([]int{1, 2}, []int{2, 3}, []int{1}, []int{2}, []int{-1, 2}), clauses([]int{1, 2}, []int{1}, []int{2})},
 	} {
-		l, e := Prune(x.l, 4, x.steps)
+		l, e := proof.Prune(x.l, 4, x.steps)
 		if !sameClauses(l, x.want) || e != api.OK {
 			t.Error(i, l, e)
 		}
@@ -227,7 +228,7 @@ func TestPropagateIsWhatIsSaid(t *testing.T) {
 			given = randomClauses(r, 1, vars, 3)[0]
 		}
 		want, wantConflict := propagateSlowly(l, given)
-		holds, conflict, e := Propagate(l, vars, given)
+		holds, conflict, e := proof.Propagate(l, vars, given)
 		if !slices.Equal(holds, want) || conflict != wantConflict || e != api.OK {
 			t.Fatal(l, given, holds, conflict, want, wantConflict)
 		}
@@ -272,11 +273,11 @@ func TestCheckAndPruneAreWhatIsSaid(t *testing.T) {
 		l := randomClauses(r, 4+r.Intn(14), vars, 3)
 		steps := randomClauses(r, r.Intn(8), vars, 2)
 		want := checkSlowly(l, steps)
-		is, e := Check(l, vars, steps)
+		is, e := proof.Check(l, vars, steps)
 		if is != want || e != api.OK {
 			t.Fatal(l, steps, is, want)
 		}
-		left, e := Prune(l, vars, steps)
+		left, e := proof.Prune(l, vars, steps)
 		if !sameClauses(left, pruneSlowly(l, steps)) || e != api.OK {
 			t.Fatal(l, steps, left, pruneSlowly(l, steps))
 		}
@@ -295,7 +296,7 @@ func TestWhatIsRupHoldsWhereverTheClausesDo(t *testing.T) {
 		vars := 1 + r.Intn(6)
 		l := randomClauses(r, r.Intn(10), vars, 3)
 		c := randomClauses(r, 1, vars, 3)
-		if is, _ := Rup(l, vars, c[0]); !is {
+		if is, _ := proof.Rup(l, vars, c[0]); !is {
 			continue
 		}
 		for x := range 1 << vars {
@@ -309,17 +310,5 @@ func TestWhatIsRupHoldsWhereverTheClausesDo(t *testing.T) {
 				t.Fatal(l, c, values)
 			}
 		}
-	}
-}
-
-func TestGoesOnCanBeLeft(t *testing.T) {
-	p := newProver(nil)
-	p.hold(1)
-	p.hold(2)
-	for lit := range p.goesOn() {
-		if lit != 1 {
-			t.Error(lit)
-		}
-		break
 	}
 }

@@ -1,4 +1,4 @@
-package raise
+package raise_test
 
 import (
 	"math/rand"
@@ -10,6 +10,7 @@ import (
 	"patchbay/api"
 	"patchbay/lower"
 	"patchbay/net"
+	"patchbay/raise"
 )
 
 func gate(op api.Op, name string, ins ...string) api.Gate {
@@ -52,7 +53,7 @@ func TestRaise(t *testing.T) {
 		if e := lower.Check(x.m); e != api.OK {
 			t.Fatal(i, e)
 		}
-		c, e := Raise(x.m)
+		c, e := raise.Raise(x.m)
 		if !net.Same(c, x.want) || e != api.OK {
 			t.Errorf("%d: %v\n%v %v", i, c, x.want, e)
 		}
@@ -68,10 +69,10 @@ func TestWrong(t *testing.T) {
 		{Graph: api.Graph{Ins: 2}, Inputs: []string{"a", "a"}},
 	} {
 		want := lower.Check(m)
-		if c, e := Raise(m); !net.Same(c, api.Circuit{}) || e != want || e == api.OK {
+		if c, e := raise.Raise(m); !net.Same(c, api.Circuit{}) || e != want || e == api.OK {
 			t.Error(i, c, e)
 		}
-		if n, e := Normal(m); !lower.Same(n, api.Model{}) || e != want {
+		if n, e := raise.Normal(m); !lower.Same(n, api.Model{}) || e != want {
 			t.Error(i, n, e)
 		}
 	}
@@ -112,7 +113,7 @@ func TestLimit(t *testing.T) {
 		{wide(200, 0), api.OK}, {wide(201, 0), api.ErrLimit}, {wide(1, 199), api.OK}, {wide(1, 200), api.ErrLimit}, {wide(2, 199), api.ErrLimit},
 		{named, api.OK}, {chain, api.OK}, {more, api.ErrLimit}, {wide(1, 201), api.ErrLimit},
 	} {
-		c, e := Raise(x.m)
+		c, e := raise.Raise(x.m)
 		if e != x.e || e != api.OK && !net.Same(c, api.Circuit{}) {
 			t.Error(i, e, len(net.Nets(c)))
 		}
@@ -125,7 +126,7 @@ func TestLimit(t *testing.T) {
 func TestNormal(t *testing.T) {
 	m := api.Model{Graph: api.Graph{Ins: 1, Ands: [][2]int{{2, 2}, {4, 2}}, Outs: []int{6}}, Inputs: []string{"a"}, Outputs: []string{"z"}}
 	want := api.Model{Graph: api.Graph{Ins: 1, Outs: []int{2}}, Inputs: []string{"a"}, Outputs: []string{"z"}}
-	n, e := Normal(m)
+	n, e := raise.Normal(m)
 	if !lower.Same(n, want) || e != api.OK {
 		t.Error(n, e)
 	}
@@ -149,7 +150,7 @@ func TestGates(t *testing.T) {
 		{api.Graph{Ins: 2, Next: []int{9, 5}, Init: []int{0, 0}, Ands: [][2]int{{5, 2}}}, 2},
 		{api.Graph{Ins: 1, Ands: [][2]int{{2, 1}}, Outs: []int{5}}, 0},
 	} {
-		if n := Gates(x.g); n != x.n {
+		if n := raise.Gates(x.g); n != x.n {
 			t.Error(i, n, "want", x.n)
 		}
 	}
@@ -193,11 +194,11 @@ func TestRaisedAndLoweredIsTheSameModel(t *testing.T) {
 	r := rand.New(rand.NewSource(5))
 	for range 2000 {
 		m := randomModel(r)
-		n, e := Normal(m)
+		n, e := raise.Normal(m)
 		if e != api.OK || !aig.Strict(n.Graph) {
 			t.Fatal(m, n, e)
 		}
-		c, e := Raise(m)
+		c, e := raise.Raise(m)
 		if e != api.OK {
 			t.Fatal(m, e)
 		}
@@ -215,8 +216,8 @@ func TestRaisedAndLoweredIsTheSameModel(t *testing.T) {
 		if slices.Contains(n.Graph.Next, 0) {
 			zero = 1
 		}
-		if inner != Gates(m.Graph)+zero {
-			t.Fatal(m, c, inner, Gates(m.Graph))
+		if inner != raise.Gates(m.Graph)+zero {
+			t.Fatal(m, c, inner, raise.Gates(m.Graph))
 		}
 	}
 }

@@ -1,4 +1,4 @@
-package solve
+package solve_test
 
 import (
 	"math"
@@ -9,6 +9,7 @@ import (
 	"patchbay/api"
 	"patchbay/cnf"
 	"patchbay/proof"
+	"patchbay/solve"
 )
 
 func clauses(l ...[]int) []api.Clause {
@@ -38,7 +39,7 @@ func may(l []api.Clause, vars int) bool {
 }
 
 // checkAnswer looks at all that can be seen of an answer.
-func checkAnswer(t *testing.T, l []api.Clause, vars, budget int, a Answer) {
+func checkAnswer(t *testing.T, l []api.Clause, vars, budget int, a solve.Answer) {
 	if a.Conflicts != len(a.Learned) || a.Conflicts > max(budget, 0) {
 		t.Fatal(l, vars, budget, a)
 	}
@@ -80,7 +81,7 @@ func TestSmall(t *testing.T) {
 		{clauses([]int{1, 2}, []int{1, -2}, []int{-1, 2}), 2, 1},
 		{clauses([]int{1, -1, 2}, []int{-2, -2}), 2, 1},
 	} {
-		a, e := Solve(x.l, x.vars, 100)
+		a, e := solve.Solve(x.l, x.vars, 100)
 		if a.Res != x.res || e != api.OK {
 			t.Error(i, a, e)
 		}
@@ -97,11 +98,11 @@ func TestWrong(t *testing.T) {
 		{nil, -1, api.ErrLimit}, {nil, 20001, api.ErrLimit}, {make([]api.Clause, 100001), 1, api.ErrLimit},
 		{clauses([]int{0}), 1, api.ErrArg}, {clauses([]int{}, []int{2}), 1, api.ErrArg}, {clauses([]int{math.MinInt}), 1, api.ErrArg},
 	} {
-		if a, e := Solve(x.l, x.vars, 10); !Same(a, Answer{}) || e != x.e {
+		if a, e := solve.Solve(x.l, x.vars, 10); !solve.Same(a, solve.Answer{}) || e != x.e {
 			t.Error(i, a, e)
 		}
 	}
-	if a, e := Solve(nil, 20000, -1); a.Res != 1 || len(a.Values) != 20000 || e != api.OK {
+	if a, e := solve.Solve(nil, 20000, -1); a.Res != 1 || len(a.Values) != 20000 || e != api.OK {
 		t.Error(a.Res, e)
 	}
 }
@@ -109,11 +110,11 @@ func TestWrong(t *testing.T) {
 func TestToldByClausesOfOneLiteral(t *testing.T) {
 	l := clauses([]int{1, -2, 3}, []int{-1}, []int{2}, []int{3}, []int{-3, 2})
 	for _, budget := range []int{math.MinInt, -1, 0, 1, 100} {
-		a, e := Solve(l, 3, budget)
+		a, e := solve.Solve(l, 3, budget)
 		if a.Res != 1 || !slices.Equal(a.Values, []bool{false, true, true}) || a.Conflicts != 0 || e != api.OK {
 			t.Error(budget, a, e)
 		}
-		if a, e := Solve(append(slices.Clone(l), api.Clause{-2, -3}), 3, budget); a.Res != 0 || a.Conflicts != 0 || e != api.OK {
+		if a, e := solve.Solve(append(slices.Clone(l), api.Clause{-2, -3}), 3, budget); a.Res != 0 || a.Conflicts != 0 || e != api.OK {
 			t.Error(budget, a, e)
 		}
 	}
@@ -151,7 +152,7 @@ func TestWhatIsToldIsSo(t *testing.T) {
 	for range 4000 {
 		vars := 1 + r.Intn(9)
 		l := randomClauses(r, r.Intn(8*vars), vars, 4)
-		a, e := Solve(l, vars, power(3, vars))
+		a, e := solve.Solve(l, vars, power(3, vars))
 		if e != api.OK || a.Res == 2 || (a.Res == 1) != may(l, vars) {
 			t.Fatal(l, vars, a, e)
 		}
@@ -185,14 +186,14 @@ func checkNew(t *testing.T, l, learned []api.Clause) {
 }
 
 // checkBudgets solves with all lesser budgets.
-func checkBudgets(t *testing.T, l []api.Clause, vars int, a Answer) {
+func checkBudgets(t *testing.T, l []api.Clause, vars int, a solve.Answer) {
 	for budget := range a.Conflicts + 3 {
-		b, e := Solve(l, vars, budget)
+		b, e := solve.Solve(l, vars, budget)
 		if e != api.OK {
 			t.Fatal(e)
 		}
 		checkAnswer(t, l, vars, budget, b)
-		if budget >= a.Conflicts && !Same(a, b) || budget < a.Conflicts && b.Res != 2 {
+		if budget >= a.Conflicts && !solve.Same(a, b) || budget < a.Conflicts && b.Res != 2 {
 			t.Fatal(l, budget, a, b)
 		}
 		if !slices.EqualFunc(b.Learned, a.Learned[:len(b.Learned)], func(c, d api.Clause) bool { return slices.Equal(c, d) }) {
@@ -221,20 +222,20 @@ func pigeons(many, holes int) ([]api.Clause, int) {
 func TestPigeons(t *testing.T) {
 	for n := 2; n < 7; n++ {
 		l, vars := pigeons(n, n)
-		a, e := Solve(l, vars, 100000)
+		a, e := solve.Solve(l, vars, 100000)
 		if a.Res != 1 || e != api.OK {
 			t.Error(n, a.Res, e)
 		}
 		checkAnswer(t, l, vars, 100000, a)
 		l, vars = pigeons(n+1, n)
-		a, e = Solve(l, vars, 100000)
+		a, e = solve.Solve(l, vars, 100000)
 		if a.Res != 0 || e != api.OK {
 			t.Error(n, a.Res, e)
 		}
 		checkAnswer(t, l, vars, 100000, a)
 	}
 	l, vars := pigeons(9, 8)
-	a, e := Solve(l, vars, 500)
+	a, e := solve.Solve(l, vars, 500)
 	if a.Res != 2 || a.Conflicts != 500 || e != api.OK {
 		t.Error(a.Res, a.Conflicts, e)
 	}
@@ -255,7 +256,7 @@ func TestLarge(t *testing.T) {
 			}
 			l = append(l, c)
 		}
-		a, e := Solve(l, 150, 1000000)
+		a, e := solve.Solve(l, 150, 1000000)
 		if a.Res == 2 || e != api.OK {
 			t.Error(a.Res, e)
 		}
@@ -268,12 +269,12 @@ func TestLarge(t *testing.T) {
 
 func TestNothingIsChanged(t *testing.T) {
 	l := clauses([]int{3, 2, 1}, []int{-1, -1, 2}, []int{3, -2}, []int{-3, 1})
-	a, _ := Solve(l, 3, 10)
+	a, _ := solve.Solve(l, 3, 10)
 	if !slices.Equal(l[0], []int{3, 2, 1}) || !slices.Equal(l[1], []int{-1, -1, 2}) || !slices.Equal(l[2], []int{3, -2}) {
 		t.Error(l)
 	}
-	b, _ := Solve(l, 3, 10)
-	if !Same(a, b) {
+	b, _ := solve.Solve(l, 3, 10)
+	if !solve.Same(a, b) {
 		t.Error(a, b)
 	}
 }
@@ -281,53 +282,36 @@ func TestNothingIsChanged(t *testing.T) {
 func TestLuby(t *testing.T) {
 	want := []int{0, 1, 1, 2, 1, 1, 2, 4, 1, 1, 2, 1, 1, 2, 4, 8, 1}
 	for i, w := range want {
-		if n := Luby(i); n != w {
+		if n := solve.Luby(i); n != w {
 			t.Error(i, n)
 		}
 	}
 	for _, x := range [][2]int{{-1, 0}, {math.MinInt, 0}, {1 << 31, 0}, {math.MaxInt, 0}, {1<<31 - 1, 1 << 30}, {1<<30 - 1, 1 << 29}, {1 << 30, 1}, {1<<31 - 2, 1 << 29}} {
-		if n := Luby(x[0]); n != x[1] {
+		if n := solve.Luby(x[0]); n != x[1] {
 			t.Error(x, n)
 		}
 	}
 }
 
 func TestSame(t *testing.T) {
-	a := func() Answer {
-		return Answer{Res: 1, Values: []bool{true}, Conflicts: 1, Learned: clauses([]int{1, 2})}
+	a := func() solve.Answer {
+		return solve.Answer{Res: 1, Values: []bool{true}, Conflicts: 1, Learned: clauses([]int{1, 2})}
 	}
-	if !Same(a(), a()) || !Same(Answer{}, Answer{Values: []bool{}, Learned: []api.Clause{}}) {
+	if !solve.Same(a(), a()) || !solve.Same(solve.Answer{}, solve.Answer{Values: []bool{}, Learned: []api.Clause{}}) {
 		t.Error("alike, and told not to be")
 	}
-	for i, change := range []func(b *Answer){
-		func(b *Answer) { b.Res = 0 },
-		func(b *Answer) { b.Values[0] = false },
-		func(b *Answer) { b.Values = nil },
-		func(b *Answer) { b.Conflicts = 2 },
-		func(b *Answer) { b.Learned[0][1] = 3 },
-		func(b *Answer) { b.Learned = nil },
+	for i, change := range []func(b *solve.Answer){
+		func(b *solve.Answer) { b.Res = 0 },
+		func(b *solve.Answer) { b.Values[0] = false },
+		func(b *solve.Answer) { b.Values = nil },
+		func(b *solve.Answer) { b.Conflicts = 2 },
+		func(b *solve.Answer) { b.Learned[0][1] = 3 },
+		func(b *solve.Answer) { b.Learned = nil },
 	} {
 		b := a()
 		change(&b)
-		if Same(a(), b) || Same(b, a()) {
+		if solve.Same(a(), b) || solve.Same(b, a()) {
 			t.Error(i)
-		}
-	}
-}
-
-func TestWeightsAreMadeLess(t *testing.T) {
-	q := newQueue(5)
-	for range 2000 {
-		q.raise(4)
-		q.raise(2)
-		q.grow()
-	}
-	if q.now >= lastWeight || q.weight[2] <= 0 || q.weight[2] > 1<<56 {
-		t.Error(q.now, q.weight)
-	}
-	for _, want := range []int{2, 4, 1, 3, 5} {
-		if n := q.take(); n != want {
-			t.Error(n, want)
 		}
 	}
 }

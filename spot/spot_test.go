@@ -1,4 +1,4 @@
-package spot
+package spot_test
 
 import (
 	"math"
@@ -7,36 +7,37 @@ import (
 	"testing"
 
 	"patchbay/api"
+	"patchbay/spot"
 )
 
 func TestPlaceOfEachByte(t *testing.T) {
 	s := "ab\nc"
 	want := [][2]int{{1, 1}, {1, 2}, {1, 3}, {2, 1}, {2, 2}}
 	for at, w := range want {
-		if line, col := Place(s, at); [2]int{line, col} != w {
+		if line, col := spot.Place(s, at); [2]int{line, col} != w {
 			t.Errorf("Place(%d) = %d, %d, want %v", at, line, col, w)
 		}
 	}
 }
 
 func TestPlaceCountsOnlyByte10(t *testing.T) {
-	if line, col := Place("a\r\xff\u2028b", 6); line != 1 || col != 7 {
+	if line, col := spot.Place("a\r\xff\u2028b", 6); line != 1 || col != 7 {
 		t.Error(line, col)
 	}
 }
 
 func TestPlaceOutside(t *testing.T) {
 	for _, at := range []int{-1, math.MinInt} {
-		if line, col := Place("\n\n", at); line != 1 || col != 1 {
+		if line, col := spot.Place("\n\n", at); line != 1 || col != 1 {
 			t.Error(at, line, col)
 		}
 	}
 	for _, at := range []int{4, math.MaxInt} {
-		if line, col := Place("\nab", at); line != 2 || col != 3 {
+		if line, col := spot.Place("\nab", at); line != 2 || col != 3 {
 			t.Error(at, line, col)
 		}
 	}
-	if line, col := Place("", 7); line != 1 || col != 1 {
+	if line, col := spot.Place("", 7); line != 1 || col != 1 {
 		t.Error(line, col)
 	}
 }
@@ -44,8 +45,8 @@ func TestPlaceOutside(t *testing.T) {
 func TestAtIsPlaceTurned(t *testing.T) {
 	for _, s := range []string{"", "a", "\n", "a\nbb\n\nc", "x\n"} {
 		for at := range len(s) + 1 {
-			line, col := Place(s, at)
-			if back, ok := At(s, line, col); back != at || !ok {
+			line, col := spot.Place(s, at)
+			if back, ok := spot.At(s, line, col); back != at || !ok {
 				t.Errorf("%q: place %d came back as %d, %v", s, at, back, ok)
 			}
 		}
@@ -54,7 +55,7 @@ func TestAtIsPlaceTurned(t *testing.T) {
 
 func TestAtOfNoPlace(t *testing.T) {
 	for _, x := range [][2]int{{0, 0}, {1, 0}, {0, 1}, {1, 4}, {2, 3}, {3, 1}, {-1, 1}, {math.MaxInt, 1}, {1, math.MaxInt}, {1, math.MinInt}} {
-		if at, ok := At("ab\nc", x[0], x[1]); at != 0 || ok {
+		if at, ok := spot.At("ab\nc", x[0], x[1]); at != 0 || ok {
 			t.Error(x, at, ok)
 		}
 	}
@@ -62,20 +63,20 @@ func TestAtOfNoPlace(t *testing.T) {
 
 func TestLinesAreOneMoreThanEnds(t *testing.T) {
 	for _, s := range []string{"", "a", "\n", "\n\n", "a\nb", "a\r\nb\n"} {
-		if l := Lines(s); !slices.Equal(l, strings.Split(s, "\n")) {
+		if l := spot.Lines(s); !slices.Equal(l, strings.Split(s, "\n")) {
 			t.Errorf("%q: %q", s, l)
 		}
 	}
 }
 
 func TestFail(t *testing.T) {
-	if f := Fail("a\nb", 2, api.ErrName); f != (api.Fail{Err: api.ErrName, Line: 2, Col: 1}) {
+	if f := spot.Fail("a\nb", 2, api.ErrName); f != (api.Fail{Err: api.ErrName, Line: 2, Col: 1}) {
 		t.Error(f)
 	}
-	if f := Fail("a\nb", 2, api.OK); f != (api.Fail{}) {
+	if f := spot.Fail("a\nb", 2, api.OK); f != (api.Fail{}) {
 		t.Error(f)
 	}
-	if f := Fail("a", -3, api.ErrLoop); f != (api.Fail{Err: api.ErrLoop, Line: 1, Col: 1}) {
+	if f := spot.Fail("a", -3, api.ErrLoop); f != (api.Fail{Err: api.ErrLoop, Line: 1, Col: 1}) {
 		t.Error(f)
 	}
 }
@@ -93,7 +94,7 @@ func TestMove(t *testing.T) {
 		{-3, -5, "a", [2]int{-3, -4}},
 		{-3, -5, "a\n", [2]int{-2, 1}},
 	} {
-		if line, col := Move(x.line, x.col, x.s); [2]int{line, col} != x.want {
+		if line, col := spot.Move(x.line, x.col, x.s); [2]int{line, col} != x.want {
 			t.Errorf("Move(%d, %d, %q) = %d, %d", x.line, x.col, x.s, line, col)
 		}
 	}
@@ -103,23 +104,11 @@ func TestMoveIsPlace(t *testing.T) {
 	s := "a\nbc\n\nd"
 	for i := range len(s) + 1 {
 		for j := i; j <= len(s); j++ {
-			line, col := Place(s, i)
-			line, col = Move(line, col, s[i:j])
-			if l, c := Place(s, j); l != line || c != col {
+			line, col := spot.Place(s, i)
+			line, col = spot.Move(line, col, s[i:j])
+			if l, c := spot.Place(s, j); l != line || c != col {
 				t.Error(i, j, line, col)
 			}
-		}
-	}
-}
-
-// Lines asks for all lines, so only a loop that ends early shows that the sequence can be left.
-func TestLinesCanBeLeft(t *testing.T) {
-	for l := range lines("a\nb\nc") {
-		if l == "b" {
-			break
-		}
-		if l == "c" {
-			t.Error("went on")
 		}
 	}
 }

@@ -1,4 +1,4 @@
-package step
+package step_test
 
 import (
 	"slices"
@@ -7,6 +7,7 @@ import (
 
 	"patchbay/api"
 	"patchbay/net"
+	"patchbay/step"
 )
 
 // ones is how many values are true.
@@ -46,7 +47,7 @@ func TestGate(t *testing.T) {
 			g := api.Gate{Op: op, Ins: make([]string, n)}
 			for x := range 1 << n {
 				ins := valuesOf(x, n)
-				got, e := Gate(g, ins)
+				got, e := step.Gate(g, ins)
 				if !net.Gate(g) {
 					if got || e != api.ErrArg {
 						t.Fatal(g, got, e)
@@ -70,7 +71,7 @@ func TestCover(t *testing.T) {
 	} {
 		g := api.Gate{Op: api.OpCover, Ins: []string{"a", "b"}, Rows: x.rows, Off: x.off}
 		for i := range 4 {
-			if got, e := Gate(g, valuesOf(i, 2)); got != (x.want[i] == '1') || e != api.OK {
+			if got, e := step.Gate(g, valuesOf(i, 2)); got != (x.want[i] == '1') || e != api.OK {
 				t.Error(x, i, got, e)
 			}
 		}
@@ -89,7 +90,7 @@ func TestGateWrong(t *testing.T) {
 		{api.Gate{Op: api.OpOne, Off: true}, nil},
 		{api.Gate{Op: api.OpCover, Rows: []string{"1"}}, nil},
 	} {
-		if v, e := Gate(x.g, x.ins); v || e != api.ErrArg {
+		if v, e := step.Gate(x.g, x.ins); v || e != api.ErrArg {
 			t.Error(i, v, e)
 		}
 	}
@@ -119,19 +120,19 @@ func bad() []api.Circuit {
 func TestOfWrong(t *testing.T) {
 	for i, c := range bad() {
 		state, ins := make([]bool, len(c.Latches)), make([]bool, len(c.Inputs))
-		if l, e := Start(c, nil); l != nil || e != api.ErrArg {
+		if l, e := step.Start(c, nil); l != nil || e != api.ErrArg {
 			t.Error(i, l, e)
 		}
-		if Allowed(c, []bool{false, true, false}) || Allowed(c, state) {
+		if step.Allowed(c, []bool{false, true, false}) || step.Allowed(c, state) {
 			t.Error(i)
 		}
-		if l, e := Values(c, state, ins); l != nil || e != api.ErrArg {
+		if l, e := step.Values(c, state, ins); l != nil || e != api.ErrArg {
 			t.Error(i, l, e)
 		}
-		if l, m, e := Step(c, nil, nil); l != nil || m != nil || e != api.ErrArg {
+		if l, m, e := step.Step(c, nil, nil); l != nil || m != nil || e != api.ErrArg {
 			t.Error(i, l, m, e)
 		}
-		if l, m, e := Run(c, state, make([][]bool, 41)); l != nil || m != nil || e != api.ErrArg {
+		if l, m, e := step.Run(c, state, make([][]bool, 41)); l != nil || m != nil || e != api.ErrArg {
 			t.Error(i, l, m, e)
 		}
 	}
@@ -145,17 +146,17 @@ func TestStartAndAllowed(t *testing.T) {
 		{[]bool{true}, []bool{false, true, true, false}},
 		{[]bool{false, true, true, true}, []bool{false, true, false, true}},
 	} {
-		state, e := Start(c, x.picks)
-		if !slices.Equal(state, x.want) || e != api.OK || !Allowed(c, state) {
+		state, e := step.Start(c, x.picks)
+		if !slices.Equal(state, x.want) || e != api.OK || !step.Allowed(c, state) {
 			t.Error(x, state, e)
 		}
 	}
 	for _, state := range [][]bool{nil, {false, true, false}, {false, true, false, false, false}, {true, true, false, false}, {false, false, false, false}} {
-		if Allowed(c, state) {
+		if step.Allowed(c, state) {
 			t.Error(state)
 		}
 	}
-	if state, e := Start(api.Circuit{}, []bool{true}); len(state) != 0 || e != api.OK || !Allowed(api.Circuit{}, nil) {
+	if state, e := step.Start(api.Circuit{}, []bool{true}); len(state) != 0 || e != api.OK || !step.Allowed(api.Circuit{}, nil) {
 		t.Error(state, e)
 	}
 }
@@ -172,7 +173,7 @@ func TestValues(t *testing.T) {
 	// en; q0, q1, x; d1, c, d0, nx
 	for _, want := range []string{"0 000 0 0 0 1", "1 000 0 0 1 1", "1 100 1 1 0 1", "1 111 0 1 0 0", "0 110 1 0 1 1"} {
 		all := bits(want)
-		l, e := Values(counter(), all[1:4], all[:1])
+		l, e := step.Values(counter(), all[1:4], all[:1])
 		if !slices.Equal(l, all) || e != api.OK {
 			t.Error(want, l, e)
 		}
@@ -180,7 +181,7 @@ func TestValues(t *testing.T) {
 }
 
 func TestStep(t *testing.T) {
-	outs, next, e := Step(counter(), bits("100"), bits("1"))
+	outs, next, e := step.Step(counter(), bits("100"), bits("1"))
 	if !slices.Equal(outs, bits("0101")) || !slices.Equal(next, bits("011")) || e != api.OK {
 		t.Error(outs, next, e)
 	}
@@ -189,20 +190,20 @@ func TestStep(t *testing.T) {
 func TestWrongState(t *testing.T) {
 	c := counter()
 	for i, x := range [][2][]bool{{nil, bits("1")}, {bits("1111"), bits("1")}, {bits("000"), nil}, {bits("000"), bits("11")}} {
-		if l, e := Values(c, x[0], x[1]); l != nil || e != api.ErrState {
+		if l, e := step.Values(c, x[0], x[1]); l != nil || e != api.ErrState {
 			t.Error(i, l, e)
 		}
-		if l, m, e := Step(c, x[0], x[1]); l != nil || m != nil || e != api.ErrState {
+		if l, m, e := step.Step(c, x[0], x[1]); l != nil || m != nil || e != api.ErrState {
 			t.Error(i, l, m, e)
 		}
-		if l, m, e := Run(c, x[0], [][]bool{x[1]}); l != nil || m != nil || e != api.ErrState {
+		if l, m, e := step.Run(c, x[0], [][]bool{x[1]}); l != nil || m != nil || e != api.ErrState {
 			t.Error(i, l, m, e)
 		}
-		if l, m, e := Run(c, bits("000"), [][]bool{bits("1"), nil}); l != nil || m != nil || e != api.ErrState {
+		if l, m, e := step.Run(c, bits("000"), [][]bool{bits("1"), nil}); l != nil || m != nil || e != api.ErrState {
 			t.Error(i, l, m, e)
 		}
 	}
-	if l, m, e := Run(c, nil, nil); l != nil || m != nil || e != api.ErrState {
+	if l, m, e := step.Run(c, nil, nil); l != nil || m != nil || e != api.ErrState {
 		t.Error(l, m, e)
 	}
 }
@@ -210,7 +211,7 @@ func TestWrongState(t *testing.T) {
 func TestRun(t *testing.T) {
 	c := counter()
 	seq := [][]bool{bits("1"), bits("1"), bits("0"), bits("1"), bits("1")}
-	rows, last, e := Run(c, bits("000"), seq)
+	rows, last, e := step.Run(c, bits("000"), seq)
 	want := []string{"0001", "0111", "1000", "1011", "1101"}
 	for i, w := range want {
 		if i >= len(rows) || !slices.Equal(rows[i], bits(w)) {
@@ -221,7 +222,7 @@ func TestRun(t *testing.T) {
 		t.Error(rows, last, e)
 	}
 	state := bits("110")
-	rows, last, e = Run(c, state, nil)
+	rows, last, e = step.Run(c, state, nil)
 	if len(rows) != 0 || !slices.Equal(last, state) || e != api.OK {
 		t.Error(rows, last, e)
 	}
@@ -233,7 +234,7 @@ func TestRun(t *testing.T) {
 
 func TestRunOfManySteps(t *testing.T) {
 	c := api.Circuit{Outputs: []string{"q"}, Latches: []api.Latch{{Name: "q", Next: "n"}}, Gates: []api.Gate{{Name: "n", Op: api.OpNot, Ins: []string{"q"}}}}
-	rows, last, e := Run(c, []bool{false}, make([][]bool, 40))
+	rows, last, e := step.Run(c, []bool{false}, make([][]bool, 40))
 	if len(rows) != 40 || last[0] || e != api.OK {
 		t.Error(len(rows), last, e)
 	}
@@ -242,7 +243,7 @@ func TestRunOfManySteps(t *testing.T) {
 			t.Error(i, row)
 		}
 	}
-	if rows, last, e := Run(c, nil, make([][]bool, 41)); rows != nil || last != nil || e != api.ErrLimit {
+	if rows, last, e := step.Run(c, nil, make([][]bool, 41)); rows != nil || last != nil || e != api.ErrLimit {
 		t.Error(rows, last, e)
 	}
 }
@@ -254,19 +255,10 @@ func TestOrderOfGatesDoesNotMatter(t *testing.T) {
 	d.Gates = append(d.Gates, api.Gate{Name: "more", Op: api.OpNor, Ins: []string{"c", "x"}})
 	for x := range 16 {
 		state, ins := valuesOf(x, 3), []bool{x>>3 == 1}
-		a, m, _ := Step(c, state, ins)
-		b, n, _ := Step(d, state, ins)
+		a, m, _ := step.Step(c, state, ins)
+		b, n, _ := step.Step(d, state, ins)
 		if !slices.Equal(a, b) || !slices.Equal(m, n) {
 			t.Error(x, a, b, m, n)
 		}
-	}
-}
-
-func TestStepsCanBeLeft(t *testing.T) {
-	for outs := range newMachine(counter()).steps(bits("000"), [][]bool{bits("1"), bits("1")}) {
-		if !slices.Equal(outs, bits("0001")) {
-			t.Error(outs)
-		}
-		break
 	}
 }

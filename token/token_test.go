@@ -1,4 +1,4 @@
-package token
+package token_test
 
 import (
 	"slices"
@@ -6,10 +6,11 @@ import (
 	"testing"
 
 	"patchbay/api"
+	"patchbay/token"
 )
 
 func TestBlif(t *testing.T) {
-	for s, want := range map[string][]Token{
+	for s, want := range map[string][]token.Token{
 		"":                nil,
 		" \t\r\n\n":       nil,
 		"a # b":           {{0, "a", 0}, {3, "", 5}},
@@ -29,21 +30,21 @@ func TestBlif(t *testing.T) {
 		"\x00\xff(=\x7f":  {{0, "\x00\xff(=\x7f", 0}, {3, "", 5}},
 		"a\r\tb":          {{0, "a", 0}, {0, "b", 3}, {3, "", 4}},
 	} {
-		if got := Blif(s); !slices.Equal(got, want) {
+		if got := token.Blif(s); !slices.Equal(got, want) {
 			t.Errorf("%q: %v, want %v", s, got, want)
 		}
 	}
 }
 
 func TestBench(t *testing.T) {
-	for s, want := range map[string][]Token{
+	for s, want := range map[string][]token.Token{
 		"":                       nil,
 		"# \xff (\n":             nil,
 		"z = AND(a, b)":          {{0, "z", 0}, {1, "=", 2}, {0, "AND", 4}, {1, "(", 7}, {0, "a", 8}, {1, ",", 9}, {0, "b", 11}, {1, ")", 12}},
 		"a#b=\nc":                {{0, "a", 0}, {0, "c", 5}},
 		"!~\\\"/;\t\r\n==((,,))": {{0, "!~\\\"/;", 0}, {1, "=", 9}, {1, "=", 10}, {1, "(", 11}, {1, "(", 12}, {1, ",", 13}, {1, ",", 14}, {1, ")", 15}, {1, ")", 16}},
 	} {
-		if got, at, e := Bench(s); !slices.Equal(got, want) || at != 0 || e != api.OK {
+		if got, at, e := token.Bench(s); !slices.Equal(got, want) || at != 0 || e != api.OK {
 			t.Errorf("%q: %v %d %v", s, got, at, e)
 		}
 	}
@@ -53,7 +54,7 @@ func TestBenchWrong(t *testing.T) {
 	for c := range 256 {
 		b := byte(c)
 		bad := b != 9 && b != 10 && b != 13 && (b < 32 || b > 126)
-		got, at, e := Bench("ab " + string([]byte{b}) + " c")
+		got, at, e := token.Bench("ab " + string([]byte{b}) + " c")
 		if bad != (e == api.ErrSyntax) || bad && (at != 3 || len(got) != 0) || !bad && at != 0 {
 			t.Error(c, got, at, e)
 		}
@@ -61,7 +62,7 @@ func TestBenchWrong(t *testing.T) {
 }
 
 func TestVerilog(t *testing.T) {
-	for s, want := range map[string][]Token{
+	for s, want := range map[string][]token.Token{
 		"":                     nil,
 		"// a\n/* b \n * / */": nil,
 		"and (z,a_1$);":        {{0, "and", 0}, {1, "(", 4}, {0, "z", 5}, {1, ",", 6}, {0, "a_1$", 7}, {1, ")", 11}, {1, ";", 12}},
@@ -74,7 +75,7 @@ func TestVerilog(t *testing.T) {
 		"a//":                  {{0, "a", 0}},
 		"a/*\xff*/\t\r":        {{0, "a", 0}},
 	} {
-		if got, at, e := Verilog(s); !slices.Equal(got, want) || at != 0 || e != api.OK {
+		if got, at, e := token.Verilog(s); !slices.Equal(got, want) || at != 0 || e != api.OK {
 			t.Errorf("%q: %v %d %v", s, got, at, e)
 		}
 	}
@@ -84,7 +85,7 @@ func TestVerilogWrong(t *testing.T) {
 	for s, want := range map[string]int{
 		"a /": 2, "a / b": 2, "a /*": 2, "a /*/": 2, "/**": 0, "a \\": 2, "a \\ b": 2, "a\\\n": 1, "a\\\x7f": 1, "a #": 2, "a.b": 1, "a[0]": 1, "\xe9": 0, "a\x00": 1,
 	} {
-		if got, at, e := Verilog(s); len(got) != 0 || at != want || e != api.ErrSyntax {
+		if got, at, e := token.Verilog(s); len(got) != 0 || at != want || e != api.ErrSyntax {
 			t.Errorf("%q: %v %d %v", s, got, at, e)
 		}
 	}
@@ -95,41 +96,41 @@ func TestVerilogBytes(t *testing.T) {
 	for c := range 256 {
 		b := byte(c)
 		ok := strings.IndexByte(good, b) >= 0 || '0' <= b && b <= '9' || 'a' <= b && b <= 'z' || 'A' <= b && b <= 'Z'
-		if _, _, e := Verilog("x " + string([]byte{b}) + " x"); ok != (e == api.OK) {
+		if _, _, e := token.Verilog("x " + string([]byte{b}) + " x"); ok != (e == api.OK) {
 			t.Error(c, e)
 		}
 	}
 }
 
 func TestSame(t *testing.T) {
-	a := []Token{{0, "a", 1}, {3, "", 2}}
-	if !Same(a, slices.Clone(a)) || !Same(nil, []Token{}) {
+	a := []token.Token{{0, "a", 1}, {3, "", 2}}
+	if !token.Same(a, slices.Clone(a)) || !token.Same(nil, []token.Token{}) {
 		t.Error("alike, and told not to be")
 	}
-	for _, b := range [][]Token{nil, a[:1], {{1, "a", 1}, {3, "", 2}}, {{0, "b", 1}, {3, "", 2}}, {{0, "a", 1}, {3, "", 3}}} {
-		if Same(a, b) || Same(b, a) {
+	for _, b := range [][]token.Token{nil, a[:1], {{1, "a", 1}, {3, "", 2}}, {{0, "b", 1}, {3, "", 2}}, {{0, "a", 1}, {3, "", 3}}} {
+		if token.Same(a, b) || token.Same(b, a) {
 			t.Error(b)
 		}
 	}
 }
 
 func TestTexts(t *testing.T) {
-	if l := Texts([]Token{{0, "a", 1}, {3, "", 2}, {1, "=", 3}}); !slices.Equal(l, []string{"a", "", "="}) {
+	if l := token.Texts([]token.Token{{0, "a", 1}, {3, "", 2}, {1, "=", 3}}); !slices.Equal(l, []string{"a", "", "="}) {
 		t.Error(l)
 	}
-	if l := Texts(nil); len(l) != 0 {
+	if l := token.Texts(nil); len(l) != 0 {
 		t.Error(l)
 	}
 }
 
 // words are the texts of the tokens that are words, as a text of Verilog needs them.
-func words(l []Token) []string {
+func words(l []token.Token) []string {
 	var all []string
 	for _, x := range l {
 		switch x.Kind {
-		case word:
+		case 0:
 			all = append(all, x.Text)
-		case escaped:
+		case 2:
 			all = append(all, "\\"+x.Text)
 		}
 	}
@@ -137,10 +138,10 @@ func words(l []Token) []string {
 }
 
 func TestWordsAreTheSameAgain(t *testing.T) {
-	readers := map[string]func(string) []Token{
-		"blif":    Blif,
-		"bench":   func(s string) []Token { l, _, _ := Bench(s); return l },
-		"verilog": func(s string) []Token { l, _, _ := Verilog(s); return l },
+	readers := map[string]func(string) []token.Token{
+		"blif":    token.Blif,
+		"bench":   func(s string) []token.Token { l, _, _ := token.Bench(s); return l },
+		"verilog": func(s string) []token.Token { l, _, _ := token.Verilog(s); return l },
 	}
 	for name, read := range readers {
 		for _, s := range []string{"a b\nc", ".names a\\b # x\n1 1", "z = DFF(q) # x", "\\a+b ~\\c&d e'1", "\\\\x y"} {
@@ -155,10 +156,10 @@ func TestWordsAreTheSameAgain(t *testing.T) {
 func FuzzAll(f *testing.F) {
 	f.Add("a\\\n#b/*'()")
 	f.Fuzz(func(t *testing.T, s string) {
-		for _, l := range [][]Token{Blif(s), first(Bench(s)), first(Verilog(s))} {
+		for _, l := range [][]token.Token{token.Blif(s), first(token.Bench(s)), first(token.Verilog(s))} {
 			last := -1
 			for _, x := range l {
-				if x.At <= last || x.At > len(s) || x.Kind != end && x.Text == "" {
+				if x.At <= last || x.At > len(s) || x.Kind != 3 && x.Text == "" {
 					t.Error(x)
 				}
 				last = x.At
@@ -167,4 +168,4 @@ func FuzzAll(f *testing.F) {
 	})
 }
 
-func first(l []Token, _ int, _ api.Errno) []Token { return l }
+func first(l []token.Token, _ int, _ api.Errno) []token.Token { return l }

@@ -1,4 +1,4 @@
-package trans
+package trans_test
 
 import (
 	"math/rand"
@@ -16,6 +16,7 @@ import (
 	"patchbay/packed"
 	"patchbay/raise"
 	"patchbay/step"
+	"patchbay/trans"
 	"patchbay/verilog"
 )
 
@@ -62,7 +63,7 @@ func printed(t *testing.T, f api.Format) string {
 
 func TestLetters(t *testing.T) {
 	for _, f := range append(slices.Clone(all), none...) {
-		if Letters(f) != (f == api.FmtBlif || f == api.FmtBench || f == api.FmtVerilog) {
+		if trans.Letters(f) != (f == api.FmtBlif || f == api.FmtBench || f == api.FmtVerilog) {
 			t.Error(f)
 		}
 	}
@@ -71,23 +72,23 @@ func TestLetters(t *testing.T) {
 func TestNoFormat(t *testing.T) {
 	want := api.Fail{Err: api.ErrForm}
 	for _, f := range none {
-		if m, fail := Denote(f, ""); !lower.Same(m, api.Model{}) || fail != want {
+		if m, fail := trans.Denote(f, ""); !lower.Same(m, api.Model{}) || fail != want {
 			t.Error(f, m, fail)
 		}
-		if c, fail := Read(f, ""); !net.Same(c, api.Circuit{}) || fail != want {
+		if c, fail := trans.Read(f, ""); !net.Same(c, api.Circuit{}) || fail != want {
 			t.Error(f, c, fail)
 		}
-		if s, e := Write(f, api.Circuit{Outputs: []string{"z"}}); s != "" || e != api.ErrForm {
+		if s, e := trans.Write(f, api.Circuit{Outputs: []string{"z"}}); s != "" || e != api.ErrForm {
 			t.Error(f, s, e)
 		}
-		if s, e := Put(f, api.Model{Inputs: []string{""}}); s != "" || e != api.ErrForm {
+		if s, e := trans.Put(f, api.Model{Inputs: []string{""}}); s != "" || e != api.ErrForm {
 			t.Error(f, s, e)
 		}
 		for _, g := range all {
-			if s, fail := Translate("?", f, g, api.Limits{}, false); s != "" || fail != want {
+			if s, fail := trans.Translate("?", f, g, api.Limits{}, false); s != "" || fail != want {
 				t.Error(f, s, fail)
 			}
-			if s, fail := Translate("?", g, f, api.Limits{}, true); s != "" || fail != want {
+			if s, fail := trans.Translate("?", g, f, api.Limits{}, true); s != "" || fail != want {
 				t.Error(f, s, fail)
 			}
 		}
@@ -107,27 +108,27 @@ func TestDenoteReadWritePut(t *testing.T) {
 		case api.FmtBench, api.FmtVerilog:
 			want = expanded
 		}
-		if got, fail := Denote(f, s); !lower.Same(got, m) || fail != (api.Fail{}) {
+		if got, fail := trans.Denote(f, s); !lower.Same(got, m) || fail != (api.Fail{}) {
 			t.Error(f, got, fail)
 		}
-		if got, fail := Read(f, s); !net.Same(got, want) || fail != (api.Fail{}) {
+		if got, fail := trans.Read(f, s); !net.Same(got, want) || fail != (api.Fail{}) {
 			t.Error(f, got, fail)
 		}
-		if got, e := Write(f, small()); got != s || e != api.OK {
+		if got, e := trans.Write(f, small()); got != s || e != api.OK {
 			t.Error(f, got, e)
 		}
 		put := s
-		if Letters(f) {
-			put, _ = Write(f, raised)
+		if trans.Letters(f) {
+			put, _ = trans.Write(f, raised)
 		}
-		if got, e := Put(f, m); got != put || e != api.OK {
+		if got, e := trans.Put(f, m); got != put || e != api.OK {
 			t.Error(f, got, e)
 		}
 	}
 }
 
 func TestDenoteIsNormal(t *testing.T) {
-	m, f := Denote(api.FmtAag, "aag 2 1 0 1 1\n2\n4\n4 2 2\n")
+	m, f := trans.Denote(api.FmtAag, "aag 2 1 0 1 1\n2\n4\n4 2 2\n")
 	if len(m.Graph.Ands) != 0 || m.Graph.Outs[0] != 2 || f != (api.Fail{}) {
 		t.Error(m, f)
 	}
@@ -152,17 +153,17 @@ func TestErrorsHavePlaces(t *testing.T) {
 		if want.Err == api.OK || want.Line == 0 {
 			t.Fatal(f, want)
 		}
-		if m, fail := Denote(f, s); !lower.Same(m, api.Model{}) || fail != want {
+		if m, fail := trans.Denote(f, s); !lower.Same(m, api.Model{}) || fail != want {
 			t.Error(f, m, fail)
 		}
-		if c, fail := Read(f, s); !net.Same(c, api.Circuit{}) || fail != want {
+		if c, fail := trans.Read(f, s); !net.Same(c, api.Circuit{}) || fail != want {
 			t.Error(f, c, fail)
 		}
 		for _, g := range all {
-			if u, fail := Translate(s, f, g, limit, false); u != "" || fail != want {
+			if u, fail := trans.Translate(s, f, g, limit, false); u != "" || fail != want {
 				t.Error(f, g, u, fail)
 			}
-			if u, fail := Translate(s, f, g, limit, true); u != "" || fail != want {
+			if u, fail := trans.Translate(s, f, g, limit, true); u != "" || fail != want {
 				t.Error(f, g, u, fail)
 			}
 		}
@@ -184,36 +185,36 @@ func wide(many int) api.Circuit {
 func TestErrorsWithoutPlaces(t *testing.T) {
 	nowhere := api.Fail{Err: api.ErrLimit}
 	c := wide(60)
-	s, _ := Write(api.FmtBench, c)
+	s, _ := trans.Write(api.FmtBench, c)
 	m, _, _ := lower.Lower(c)
 	inputs := api.Circuit{}
 	for i := range 201 {
 		inputs.Inputs = append(inputs.Inputs, "i"+strconv.Itoa(i))
 	}
 	for _, f := range all {
-		if s, e := Put(f, m); Letters(f) && (s != "" || e != api.ErrLimit) || !Letters(f) && e != api.OK {
+		if s, e := trans.Put(f, m); trans.Letters(f) && (s != "" || e != api.ErrLimit) || !trans.Letters(f) && e != api.OK {
 			t.Error(f, s, e)
 		}
-		if s, e := Put(f, api.Model{Inputs: []string{"a"}}); s != "" || e != api.ErrArg {
+		if s, e := trans.Put(f, api.Model{Inputs: []string{"a"}}); s != "" || e != api.ErrArg {
 			t.Error(f, s, e)
 		}
 		want := api.ErrLimit
-		if Letters(f) {
+		if trans.Letters(f) {
 			want = api.ErrArg
 		}
-		if s, e := Write(f, inputs); s != "" || e != want {
+		if s, e := trans.Write(f, inputs); s != "" || e != want {
 			t.Error(f, s, e)
 		}
-		if u, fail := Translate(s, api.FmtBench, f, api.Limits{Bytes: api.MaxBytes, Nets: 5000}, true); Letters(f) && (u != "" || fail != nowhere) || !Letters(f) && fail != (api.Fail{}) {
+		if u, fail := trans.Translate(s, api.FmtBench, f, api.Limits{Bytes: api.MaxBytes, Nets: 5000}, true); trans.Letters(f) && (u != "" || fail != nowhere) || !trans.Letters(f) && fail != (api.Fail{}) {
 			t.Error(f, u, fail)
 		}
 	}
-	letters, _ := Put(api.FmtAag, m)
-	if c, fail := Read(api.FmtAag, letters); !net.Same(c, api.Circuit{}) || fail != nowhere {
+	letters, _ := trans.Put(api.FmtAag, m)
+	if c, fail := trans.Read(api.FmtAag, letters); !net.Same(c, api.Circuit{}) || fail != nowhere {
 		t.Error(fail)
 	}
 	loop := "a = NOT(b) b = NOT(a) INPUT(x)"
-	if _, fail := Denote(api.FmtBench, loop); fail.Err != api.ErrLoop || fail.Line != 1 {
+	if _, fail := trans.Denote(api.FmtBench, loop); fail.Err != api.ErrLoop || fail.Line != 1 {
 		t.Error(fail)
 	}
 	big := wide(60)
@@ -226,20 +227,20 @@ func TestErrorsWithoutPlaces(t *testing.T) {
 		more.Gates = append(more.Gates, api.Gate{Name: "h" + strconv.Itoa(i), Op: api.OpXor, Ins: []string{"g" + strconv.Itoa(i%60), "h" + strconv.Itoa(max(i-1, 0)), "c", "d", "e", "f", "g", "i"}})
 	}
 	more.Gates[60].Ins[1] = "a"
-	s, e := Write(api.FmtBlif, more)
+	s, e := trans.Write(api.FmtBlif, more)
 	if e != api.OK {
 		t.Fatal(e)
 	}
-	if m, fail := Denote(api.FmtBlif, s); !lower.Same(m, api.Model{}) || fail != nowhere {
+	if m, fail := trans.Denote(api.FmtBlif, s); !lower.Same(m, api.Model{}) || fail != nowhere {
 		t.Error(fail)
 	}
 }
 
 func TestNets(t *testing.T) {
-	if n := Nets(small()); n != 5 {
+	if n := trans.Nets(small()); n != 5 {
 		t.Error(n)
 	}
-	if n := Nets(api.Circuit{Outputs: []string{"a"}}); n != 0 {
+	if n := trans.Nets(api.Circuit{Outputs: []string{"a"}}); n != 0 {
 		t.Error(n)
 	}
 }
@@ -258,7 +259,7 @@ func TestTranslate(t *testing.T) {
 		{"aag 1 1 0 1 0\n2\n3\n", api.FmtAag, api.FmtVerilog, false, "module top(i0, o0);\n  input i0;\n  output o0;\n  not (o0, i0);\nendmodule\n"},
 		{"aag 1 1 0 1 0\n2\n3\n", api.FmtAag, api.FmtAig, false, "aig 1 1 0 1 0\n3\ni0 i0\no0 o0\n"},
 	} {
-		if s, f := Translate(x.s, x.from, x.to, limit, x.graph); s != x.want || f != (api.Fail{}) {
+		if s, f := trans.Translate(x.s, x.from, x.to, limit, x.graph); s != x.want || f != (api.Fail{}) {
 			t.Errorf("%q: %q %v", x.s, s, f)
 		}
 	}
@@ -287,7 +288,7 @@ func TestTranslateLimits(t *testing.T) {
 		{"?", api.FmtBench, api.FmtBench, api.Limits{}, false, nowhere},
 		{"?", api.FmtBench, api.FmtBench, api.Limits{Bytes: 1, Nets: -1}, false, api.Fail{Err: api.ErrSyntax, Line: 1, Col: 2}},
 	} {
-		u, f := Translate(x.s, x.from, x.to, x.l, x.graph)
+		u, f := trans.Translate(x.s, x.from, x.to, x.l, x.graph)
 		if f != x.want || f.Err != api.OK && u != "" {
 			t.Error(i, u, f)
 		}
@@ -373,11 +374,11 @@ func TestThereAndBack(t *testing.T) {
 	for range 60 {
 		c := randomCircuit(r, []string{"a", "n", "x__", "(", "\\", ".", "i"})
 		for _, from := range all {
-			s, e := Write(from, c)
+			s, e := trans.Write(from, c)
 			if e != api.OK {
 				t.Fatal(c, e)
 			}
-			was, f := Read(from, s)
+			was, f := trans.Read(from, s)
 			if f != (api.Fail{}) {
 				t.Fatal(s, f)
 			}
@@ -392,23 +393,23 @@ func TestThereAndBack(t *testing.T) {
 }
 
 func thereAndBack(t *testing.T, s string, was api.Circuit, from, to api.Format, graph bool) {
-	there, f := Translate(s, from, to, limit, graph)
+	there, f := trans.Translate(s, from, to, limit, graph)
 	if f != (api.Fail{}) {
 		t.Fatal(s, f)
 	}
-	back, f := Translate(there, to, from, limit, graph)
+	back, f := trans.Translate(there, to, from, limit, graph)
 	if f != (api.Fail{}) {
 		t.Fatal(there, f)
 	}
-	c, f := Read(from, back)
+	c, f := trans.Read(from, back)
 	if f != (api.Fail{}) {
 		t.Fatal(back, f)
 	}
 	sameMachine(t, was, c)
-	if again, f := Translate(back, from, to, limit, graph); again != there || f != (api.Fail{}) {
+	if again, f := trans.Translate(back, from, to, limit, graph); again != there || f != (api.Fail{}) {
 		t.Fatalf("%v %v %v: %q\n%q %v", from, to, graph, there, again, f)
 	}
-	if Letters(from) && Letters(to) && !graph {
+	if trans.Letters(from) && trans.Letters(to) && !graph {
 		for _, l := range net.Nets(was) {
 			if net.Place(c, l) < 0 {
 				t.Fatal("a name is lost:", l, there)
@@ -417,27 +418,17 @@ func thereAndBack(t *testing.T, s string, was api.Circuit, from, to api.Format, 
 	}
 }
 
-func TestErrorsWrapTheirNumbers(t *testing.T) {
-	err := somewhere(api.Fail{Err: api.ErrLoop, Line: 2, Col: 3})
-	if err.Error() != "trans: error 7" || numberOf(err) != api.ErrLoop || failOf(err) != (api.Fail{Err: api.ErrLoop, Line: 2, Col: 3}) {
-		t.Error(err)
-	}
-	if somewhere(api.Fail{}) != nil || nowhere(api.OK) != nil {
-		t.Error("an error of OK")
-	}
-}
-
 func FuzzTranslate(f *testing.F) {
 	for i, s := range []string{"aag 1 1 0 1 0\n2\n3\n", "aig 2 1 0 1 1\n4\n\x02\x00", ".model m\n.inputs a\n.outputs a\n.end", "INPUT(a)", "module m();endmodule"} {
 		f.Add(s, i, i, false)
 	}
 	f.Fuzz(func(t *testing.T, s string, from, to int, graph bool) {
-		u, fail := Translate(s, api.Format(from), api.Format(to), limit, graph)
+		u, fail := trans.Translate(s, api.Format(from), api.Format(to), limit, graph)
 		if fail != (api.Fail{}) && (u != "" || fail.Err == api.OK) {
 			t.Error(u, fail)
 		}
 		if fail == (api.Fail{}) {
-			if _, f := Denote(api.Format(to), u); f != (api.Fail{}) {
+			if _, f := trans.Denote(api.Format(to), u); f != (api.Fail{}) {
 				t.Error(strings.ToValidUTF8(u, "?"), f)
 			}
 		}

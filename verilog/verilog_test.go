@@ -1,4 +1,4 @@
-package verilog
+package verilog_test
 
 import (
 	"math/rand"
@@ -11,6 +11,7 @@ import (
 	"patchbay/bench"
 	"patchbay/net"
 	"patchbay/spot"
+	"patchbay/verilog"
 )
 
 func gate(op api.Op, name string, ins ...string) api.Gate {
@@ -35,7 +36,7 @@ func TestParse(t *testing.T) {
 			Outputs: []string{"q"}, Latches: []api.Latch{{Name: "q", Next: "r"}, {Name: "r", Next: "s", Init: 1}, {Name: "s", Next: "q", Init: 2}},
 		},
 	} {
-		c, f := Parse(s)
+		c, f := verilog.Parse(s)
 		if !net.Same(c, want) || f != (api.Fail{}) {
 			t.Errorf("%q: %v %v", s, c, f)
 		}
@@ -68,7 +69,7 @@ func TestExpressions(t *testing.T) {
 			gate(api.OpNot, "n2", "a"), gate(api.OpNot, "z", "n2"), gate(api.OpNot, "n4", "b"), gate(api.OpAnd, "n3", "a", "n4"), gate(api.OpNot, "n5", "b"), gate(api.OpNot, "y", "n5"),
 		},
 	} {
-		c, f := Parse("module m(a,b);input a,b;" + s + "endmodule")
+		c, f := verilog.Parse("module m(a,b);input a,b;" + s + "endmodule")
 		if !net.Same(c, api.Circuit{Inputs: []string{"a", "b"}, Gates: want}) || f != (api.Fail{}) {
 			t.Errorf("%q: %v %v", s, c.Gates, f)
 		}
@@ -157,22 +158,22 @@ func TestParseWrong(t *testing.T) {
 	} {
 		at := strings.IndexByte(marked, '@')
 		s := marked[:at] + marked[at+1:]
-		if c, f := Parse(s); !net.Same(c, api.Circuit{}) || f != spot.Fail(s, at, e) {
+		if c, f := verilog.Parse(s); !net.Same(c, api.Circuit{}) || f != spot.Fail(s, at, e) {
 			t.Errorf("%q: %v, want %v", s, f, spot.Fail(s, at, e))
 		}
 	}
 }
 
 func TestManyGates(t *testing.T) {
-	c, f := Parse("module m(a); input a; assign z = " + strings.Repeat("~", 199) + "a; endmodule")
+	c, f := verilog.Parse("module m(a); input a; assign z = " + strings.Repeat("~", 199) + "a; endmodule")
 	if len(c.Gates) != 199 || c.Gates[198].Name != "z" || f != (api.Fail{}) {
 		t.Error(len(c.Gates), f)
 	}
-	c, f = Parse("module m(); assign z = " + strings.Repeat("(", 5000) + "1'b1" + strings.Repeat(")", 5000) + "; endmodule")
+	c, f = verilog.Parse("module m(); assign z = " + strings.Repeat("(", 5000) + "1'b1" + strings.Repeat(")", 5000) + "; endmodule")
 	if len(c.Gates) != 1 || f != (api.Fail{}) {
 		t.Error(c, f)
 	}
-	if _, f = Parse("module m(a); input a; assign z = " + strings.Repeat("~", 20000) + "a endmodule"); f.Err != api.ErrSyntax {
+	if _, f = verilog.Parse("module m(a); input a; assign z = " + strings.Repeat("~", 20000) + "a endmodule"); f.Err != api.ErrSyntax {
 		t.Error(f)
 	}
 }
@@ -184,7 +185,7 @@ func TestNames(t *testing.T) {
 		"module m(a, \\and ); a 1'b0": {"m", "a", "and", "a"},
 		"x$ 1 _ \\1'b0 " + strings.Repeat("a", 41) + " dff0 dff": {"x$", "_", "1'b0", "dff"},
 	} {
-		if l := Names(s); !slices.Equal(l, want) {
+		if l := verilog.Names(s); !slices.Equal(l, want) {
 			t.Errorf("%q: %q", s, l)
 		}
 	}
@@ -236,20 +237,20 @@ func TestPrint(t *testing.T) {
   and (z, a, n1);
 endmodule
 `
-	if s, e := Print(c); s != want || e != api.OK {
+	if s, e := verilog.Print(c); s != want || e != api.OK {
 		t.Errorf("%s %v", s, e)
 	}
-	if s, e := Print(api.Circuit{}); s != "module top();\nendmodule\n" || e != api.OK {
+	if s, e := verilog.Print(api.Circuit{}); s != "module top();\nendmodule\n" || e != api.OK {
 		t.Error(s, e)
 	}
-	if s, e := Print(api.Circuit{Outputs: []string{"z"}}); s != "" || e != api.ErrArg {
+	if s, e := verilog.Print(api.Circuit{Outputs: []string{"z"}}); s != "" || e != api.ErrArg {
 		t.Error(s, e)
 	}
 	full := api.Circuit{Gates: []api.Gate{{Name: "z", Op: api.OpCover, Ins: []string{"i1", "i2"}, Rows: []string{"10"}}}}
 	for i := range 199 {
 		full.Inputs = append(full.Inputs, "i"+strconv.Itoa(i))
 	}
-	if s, e := Print(full); s != "" || e != api.ErrLimit {
+	if s, e := verilog.Print(full); s != "" || e != api.ErrLimit {
 		t.Error(s, e)
 	}
 }
@@ -305,12 +306,12 @@ func TestWhatIsPrintedIsParsedAgain(t *testing.T) {
 	for range 500 {
 		c := randomCircuit(r, []string{"a", "n", "x__", "(", "\\", ";", "1'b"})
 		x, _ := bench.Expand(c)
-		s, e := Print(c)
-		back, f := Parse(s)
+		s, e := verilog.Print(c)
+		back, f := verilog.Parse(s)
 		if e != api.OK || f != (api.Fail{}) || !net.Same(back, x) {
 			t.Fatal(c, s, back, f)
 		}
-		if again, _ := Print(back); again != s {
+		if again, _ := verilog.Print(back); again != s {
 			t.Fatal(s, again)
 		}
 	}
@@ -319,15 +320,15 @@ func TestWhatIsPrintedIsParsedAgain(t *testing.T) {
 func FuzzParse(f *testing.F) {
 	f.Add("module m(a,z);input a;output z;dffx(q,a);assign z=~(a^q)&1'b1|\\n1 ;not(\\n1 ,a);endmodule")
 	f.Fuzz(func(t *testing.T, s string) {
-		c, fail := Parse(s)
+		c, fail := verilog.Parse(s)
 		if fail.Err != api.OK {
 			if !net.Same(c, api.Circuit{}) {
 				t.Error(c, fail)
 			}
 			return
 		}
-		printed, e := Print(c)
-		if back, _ := Parse(printed); e != api.OK || !net.Same(back, c) {
+		printed, e := verilog.Print(c)
+		if back, _ := verilog.Parse(printed); e != api.OK || !net.Same(back, c) {
 			t.Error(printed)
 		}
 	})

@@ -1,4 +1,4 @@
-package witness
+package witness_test
 
 import (
 	"math"
@@ -13,26 +13,27 @@ import (
 	"patchbay/lower"
 	"patchbay/spot"
 	"patchbay/trans"
+	"patchbay/witness"
 )
 
 func TestPrint(t *testing.T) {
 	for _, x := range []struct {
-		w    Witness
+		w    witness.Witness
 		want string
 	}{
-		{Witness{Steps: [][]int{{1}}}, "1\nb0\n\n1\n.\n"},
-		{Witness{}, "1\nb0\n\n.\n"},
-		{Witness{Bad: 2147483647, State: []int{0, 1, 2}, Steps: [][]int{{}, {2, 2}, {0}}}, "1\nb2147483647\n01x\n\nxx\n0\n.\n"},
+		{witness.Witness{Steps: [][]int{{1}}}, "1\nb0\n\n1\n.\n"},
+		{witness.Witness{}, "1\nb0\n\n.\n"},
+		{witness.Witness{Bad: 2147483647, State: []int{0, 1, 2}, Steps: [][]int{{}, {2, 2}, {0}}}, "1\nb2147483647\n01x\n\nxx\n0\n.\n"},
 	} {
-		if s, e := Print(x.w); s != x.want || e != api.OK {
+		if s, e := witness.Print(x.w); s != x.want || e != api.OK {
 			t.Errorf("%q %v", s, e)
 		}
-		if w, f := Parse(x.want); !Same(w, x.w) || f != (api.Fail{}) {
+		if w, f := witness.Parse(x.want); !witness.Same(w, x.w) || f != (api.Fail{}) {
 			t.Error(x.want, w, f)
 		}
 	}
-	for i, w := range []Witness{{Bad: -1}, {Bad: 1 << 31}, {State: []int{3}}, {State: []int{-1}}, {Steps: [][]int{{0}, {1, 5}}}, {Steps: [][]int{{math.MinInt}}}} {
-		if s, e := Print(w); s != "" || e != api.ErrArg {
+	for i, w := range []witness.Witness{{Bad: -1}, {Bad: 1 << 31}, {State: []int{3}}, {State: []int{-1}}, {Steps: [][]int{{0}, {1, 5}}}, {Steps: [][]int{{math.MinInt}}}} {
+		if s, e := witness.Print(w); s != "" || e != api.ErrArg {
 			t.Error(i, s, e)
 		}
 	}
@@ -77,7 +78,7 @@ func TestParseWrong(t *testing.T) {
 	} {
 		at := strings.IndexByte(marked, '@')
 		s := marked[:at] + marked[at+1:]
-		if w, f := Parse(s); !Same(w, Witness{}) || f != spot.Fail(s, at, e) {
+		if w, f := witness.Parse(s); !witness.Same(w, witness.Witness{}) || f != spot.Fail(s, at, e) {
 			t.Errorf("%q: %v %v, want %v", s, w, f, spot.Fail(s, at, e))
 		}
 	}
@@ -95,58 +96,60 @@ func toggle() api.Model {
 }
 
 func TestFits(t *testing.T) {
-	good := func() Witness { return Witness{Bad: 2, State: []int{0, 1, 2}, Steps: [][]int{{0, 1}, {2, 2}}} }
+	good := func() witness.Witness {
+		return witness.Witness{Bad: 2, State: []int{0, 1, 2}, Steps: [][]int{{0, 1}, {2, 2}}}
+	}
 	for i, x := range []struct {
-		change func(m *api.Model, w *Witness)
+		change func(m *api.Model, w *witness.Witness)
 		e      api.Errno
 	}{
-		{func(m *api.Model, w *Witness) {}, api.OK},
-		{func(m *api.Model, w *Witness) { w.State = []int{2, 2, 0} }, api.OK},
-		{func(m *api.Model, w *Witness) { w.Steps = slices.Repeat([][]int{{1, 1}}, 40) }, api.OK},
-		{func(m *api.Model, w *Witness) { m.Inputs[0] = ""; w.Bad = 9 }, api.ErrName},
-		{func(m *api.Model, w *Witness) { w.Bad = 3 }, api.ErrArg},
-		{func(m *api.Model, w *Witness) { w.Bad = -1; w.State[0] = 1 }, api.ErrArg},
-		{func(m *api.Model, w *Witness) { w.State = w.State[:2] }, api.ErrArg},
-		{func(m *api.Model, w *Witness) { w.State = append(w.State, 0) }, api.ErrArg},
-		{func(m *api.Model, w *Witness) { w.Steps[1] = []int{1} }, api.ErrArg},
-		{func(m *api.Model, w *Witness) { w.Steps[0] = []int{1, 0, 1} }, api.ErrArg},
-		{func(m *api.Model, w *Witness) { w.Steps = nil }, api.ErrArg},
-		{func(m *api.Model, w *Witness) { w.Steps = slices.Repeat([][]int{{1, 1}}, 41) }, api.ErrArg},
-		{func(m *api.Model, w *Witness) { w.State[2] = 3; w.State[0] = 1 }, api.ErrArg},
-		{func(m *api.Model, w *Witness) { w.State[0] = -1 }, api.ErrArg},
-		{func(m *api.Model, w *Witness) { w.Steps[1][1] = 3 }, api.ErrArg},
-		{func(m *api.Model, w *Witness) { w.State[0] = 1 }, api.ErrState},
-		{func(m *api.Model, w *Witness) { w.State[1] = 0 }, api.ErrState},
+		{func(m *api.Model, w *witness.Witness) {}, api.OK},
+		{func(m *api.Model, w *witness.Witness) { w.State = []int{2, 2, 0} }, api.OK},
+		{func(m *api.Model, w *witness.Witness) { w.Steps = slices.Repeat([][]int{{1, 1}}, 40) }, api.OK},
+		{func(m *api.Model, w *witness.Witness) { m.Inputs[0] = ""; w.Bad = 9 }, api.ErrName},
+		{func(m *api.Model, w *witness.Witness) { w.Bad = 3 }, api.ErrArg},
+		{func(m *api.Model, w *witness.Witness) { w.Bad = -1; w.State[0] = 1 }, api.ErrArg},
+		{func(m *api.Model, w *witness.Witness) { w.State = w.State[:2] }, api.ErrArg},
+		{func(m *api.Model, w *witness.Witness) { w.State = append(w.State, 0) }, api.ErrArg},
+		{func(m *api.Model, w *witness.Witness) { w.Steps[1] = []int{1} }, api.ErrArg},
+		{func(m *api.Model, w *witness.Witness) { w.Steps[0] = []int{1, 0, 1} }, api.ErrArg},
+		{func(m *api.Model, w *witness.Witness) { w.Steps = nil }, api.ErrArg},
+		{func(m *api.Model, w *witness.Witness) { w.Steps = slices.Repeat([][]int{{1, 1}}, 41) }, api.ErrArg},
+		{func(m *api.Model, w *witness.Witness) { w.State[2] = 3; w.State[0] = 1 }, api.ErrArg},
+		{func(m *api.Model, w *witness.Witness) { w.State[0] = -1 }, api.ErrArg},
+		{func(m *api.Model, w *witness.Witness) { w.Steps[1][1] = 3 }, api.ErrArg},
+		{func(m *api.Model, w *witness.Witness) { w.State[0] = 1 }, api.ErrState},
+		{func(m *api.Model, w *witness.Witness) { w.State[1] = 0 }, api.ErrState},
 	} {
 		m, w := toggle(), good()
 		x.change(&m, &w)
-		if e := Fits(m, w); e != x.e {
+		if e := witness.Fits(m, w); e != x.e {
 			t.Error(i, e, x.e)
 		}
-		state, seq, e := Start(m, w)
+		state, seq, e := witness.Start(m, w)
 		if e != x.e || e != api.OK && (state != nil || seq != nil) {
 			t.Error(i, state, seq, e)
 		}
-		if v, e := Replay(m, w); e != x.e || e != api.OK && v {
+		if v, e := witness.Replay(m, w); e != x.e || e != api.OK && v {
 			t.Error(i, v, e)
 		}
 		want := x.e
 		if want == api.ErrState {
 			want = api.OK
 		}
-		if u, e := Rename(m, toggle(), w); e != want || e != api.OK && !Same(u, Witness{}) {
+		if u, e := witness.Rename(m, toggle(), w); e != want || e != api.OK && !witness.Same(u, witness.Witness{}) {
 			t.Error(i, u, e)
 		}
 	}
 }
 
 func TestStart(t *testing.T) {
-	state, seq, e := Start(toggle(), Witness{State: []int{2, 2, 2}, Steps: [][]int{{0, 2}, {1, 1}}})
+	state, seq, e := witness.Start(toggle(), witness.Witness{State: []int{2, 2, 2}, Steps: [][]int{{0, 2}, {1, 1}}})
 	if !slices.Equal(state, []bool{false, true, false}) || e != api.OK || len(seq) != 2 ||
 		!slices.Equal(seq[0], []bool{false, false}) || !slices.Equal(seq[1], []bool{true, true}) {
 		t.Error(state, seq, e)
 	}
-	state, _, _ = Start(toggle(), Witness{State: []int{0, 1, 1}, Steps: [][]int{{0, 0}}})
+	state, _, _ = witness.Start(toggle(), witness.Witness{State: []int{0, 1, 1}, Steps: [][]int{{0, 0}}})
 	if !slices.Equal(state, []bool{false, true, true}) {
 		t.Error(state)
 	}
@@ -168,8 +171,8 @@ func TestReplay(t *testing.T) {
 		{"1\nb2\n01x\n00\n.\n", true},
 		{"1\nb2\n011\n00\n.\n", false},
 	} {
-		w, f := Parse(x.s)
-		if v, e := Replay(toggle(), w); v != x.want || e != api.OK || f != (api.Fail{}) {
+		w, f := witness.Parse(x.s)
+		if v, e := witness.Replay(toggle(), w); v != x.want || e != api.OK || f != (api.Fail{}) {
 			t.Errorf("%q: %v %v %v", x.s, v, e, f)
 		}
 	}
@@ -181,13 +184,13 @@ func TestRename(t *testing.T) {
 		Graph:  api.Graph{Ins: 2, Next: []int{0, 0, 0}, Init: []int{1, 1, 1}, Outs: []int{10, 0, 1}},
 		Inputs: []string{"b", "a"}, Latches: []string{"r", "p", "q"}, Outputs: []string{"q", "nr", "z"},
 	}
-	w := Witness{Bad: 0, State: []int{0, 1, 2}, Steps: [][]int{{0, 1}, {2, 0}}}
-	want := Witness{Bad: 2, State: []int{2, 1, 0}, Steps: [][]int{{1, 0}, {0, 2}}}
-	u, e := Rename(from, to, w)
-	if !Same(u, want) || e != api.OK {
+	w := witness.Witness{Bad: 0, State: []int{0, 1, 2}, Steps: [][]int{{0, 1}, {2, 0}}}
+	want := witness.Witness{Bad: 2, State: []int{2, 1, 0}, Steps: [][]int{{1, 0}, {0, 2}}}
+	u, e := witness.Rename(from, to, w)
+	if !witness.Same(u, want) || e != api.OK {
 		t.Error(u, e)
 	}
-	if v, e := Rename(to, from, u); !Same(v, w) || e != api.OK {
+	if v, e := witness.Rename(to, from, u); !witness.Same(v, w) || e != api.OK {
 		t.Error(v, e)
 	}
 	u.State[0], u.Steps[0][0] = 9, 9
@@ -208,38 +211,38 @@ func TestRename(t *testing.T) {
 		if e := lower.Check(bad); e != api.OK {
 			t.Fatal(i, e)
 		}
-		if u, e := Rename(from, bad, w); !Same(u, Witness{}) || e != api.ErrUnknown {
+		if u, e := witness.Rename(from, bad, w); !witness.Same(u, witness.Witness{}) || e != api.ErrUnknown {
 			t.Error(i, u, e)
 		}
-		if u, e := Rename(from, bad, Witness{}); !Same(u, Witness{}) || e != api.ErrArg {
+		if u, e := witness.Rename(from, bad, witness.Witness{}); !witness.Same(u, witness.Witness{}) || e != api.ErrArg {
 			t.Error(i, u, e)
 		}
 	}
 	bad := toggle()
 	bad.Outputs[0] = ""
-	if u, e := Rename(bad, api.Model{Inputs: []string{"x"}}, w); !Same(u, Witness{}) || e != api.ErrName {
+	if u, e := witness.Rename(bad, api.Model{Inputs: []string{"x"}}, w); !witness.Same(u, witness.Witness{}) || e != api.ErrName {
 		t.Error(u, e)
 	}
-	if u, e := Rename(from, bad, Witness{}); !Same(u, Witness{}) || e != api.ErrName {
+	if u, e := witness.Rename(from, bad, witness.Witness{}); !witness.Same(u, witness.Witness{}) || e != api.ErrName {
 		t.Error(u, e)
 	}
 }
 
 func TestSame(t *testing.T) {
-	a := func() Witness { return Witness{Bad: 1, State: []int{0}, Steps: [][]int{{1}, {}}} }
-	if !Same(a(), a()) || !Same(Witness{}, Witness{State: []int{}, Steps: [][]int{}}) {
+	a := func() witness.Witness { return witness.Witness{Bad: 1, State: []int{0}, Steps: [][]int{{1}, {}}} }
+	if !witness.Same(a(), a()) || !witness.Same(witness.Witness{}, witness.Witness{State: []int{}, Steps: [][]int{}}) {
 		t.Error("alike, and told not to be")
 	}
-	for i, change := range []func(w *Witness){
-		func(w *Witness) { w.Bad = 0 },
-		func(w *Witness) { w.State[0] = 1 },
-		func(w *Witness) { w.Steps[0][0] = 2 },
-		func(w *Witness) { w.Steps = w.Steps[:1] },
-		func(w *Witness) { w.Steps[1] = []int{0} },
+	for i, change := range []func(w *witness.Witness){
+		func(w *witness.Witness) { w.Bad = 0 },
+		func(w *witness.Witness) { w.State[0] = 1 },
+		func(w *witness.Witness) { w.Steps[0][0] = 2 },
+		func(w *witness.Witness) { w.Steps = w.Steps[:1] },
+		func(w *witness.Witness) { w.Steps[1] = []int{0} },
 	} {
 		w := a()
 		change(&w)
-		if Same(a(), w) || Same(w, a()) {
+		if witness.Same(a(), w) || witness.Same(w, a()) {
 			t.Error(i)
 		}
 	}
@@ -302,8 +305,8 @@ func randomModel(r *rand.Rand) api.Model {
 	return m
 }
 
-func randomWitness(r *rand.Rand, m api.Model) Witness {
-	w := Witness{Bad: r.Intn(len(m.Outputs))}
+func randomWitness(r *rand.Rand, m api.Model) witness.Witness {
+	w := witness.Witness{Bad: r.Intn(len(m.Outputs))}
 	for _, init := range m.Graph.Init {
 		v := []int{init, 2}[r.Intn(2)]
 		if init == 2 {
@@ -328,16 +331,16 @@ func TestRenamedIsOneOfTheSameMachine(t *testing.T) {
 		m := randomModel(r)
 		n := shuffled(r, m)
 		w := randomWitness(r, m)
-		v, e := Replay(m, w)
+		v, e := witness.Replay(m, w)
 		if e != api.OK || lower.Check(n) != api.OK {
 			t.Fatal(m, w, e)
 		}
-		u, e := Rename(m, n, w)
-		if got, err := Replay(n, u); got != v || e != api.OK || err != api.OK {
+		u, e := witness.Rename(m, n, w)
+		if got, err := witness.Replay(n, u); got != v || e != api.OK || err != api.OK {
 			t.Fatal(m, n, w, u, v, e)
 		}
-		s, _ := Print(u)
-		if back, f := Parse(s); !Same(back, u) || f != (api.Fail{}) {
+		s, _ := witness.Print(u)
+		if back, f := witness.Parse(s); !witness.Same(back, u) || f != (api.Fail{}) {
 			t.Fatal(s)
 		}
 		if v {
@@ -363,13 +366,13 @@ func TestWitnessOfATranslation(t *testing.T) {
 				t.Fatal(s, f, g)
 			}
 			w := randomWitness(r, n)
-			v, _ := Replay(n, w)
-			u, e := Rename(n, was, w)
-			if got, err := Replay(was, u); got != v || e != api.OK || err != api.OK {
+			v, _ := witness.Replay(n, w)
+			u, e := witness.Rename(n, was, w)
+			if got, err := witness.Replay(was, u); got != v || e != api.OK || err != api.OK {
 				t.Fatal(s, text, w)
 			}
-			back, e := Rename(was, n, u)
-			if !Same(back, w) || e != api.OK || !aig.Strict(n.Graph) {
+			back, e := witness.Rename(was, n, u)
+			if !witness.Same(back, w) || e != api.OK || !aig.Strict(n.Graph) {
 				t.Fatal(back, w)
 			}
 		}
@@ -379,12 +382,12 @@ func TestWitnessOfATranslation(t *testing.T) {
 func FuzzParse(f *testing.F) {
 	f.Add("1\nb0\n01x\n01x\n\n.\n")
 	f.Fuzz(func(t *testing.T, s string) {
-		w, fail := Parse(s)
+		w, fail := witness.Parse(s)
 		if fail == (api.Fail{}) {
-			if back, e := Print(w); back != s || e != api.OK {
+			if back, e := witness.Print(w); back != s || e != api.OK {
 				t.Error(back)
 			}
-		} else if !Same(w, Witness{}) || fail.Err != api.ErrSyntax && fail.Err != api.ErrNumber {
+		} else if !witness.Same(w, witness.Witness{}) || fail.Err != api.ErrSyntax && fail.Err != api.ErrNumber {
 			t.Error(w, fail)
 		}
 	})
