@@ -35,8 +35,10 @@ func TestHeader(t *testing.T) {
 			t.Errorf("%q: %v %d %v", s, h, behind, f)
 		}
 	}
-	if h, behind, f := aiger.Header("xYz 1 1 0 0 0\n", "xYz"); h != [9]int{1, 1} || behind != 14 || f != (api.Fail{}) {
-		t.Error(h, behind, f)
+	for _, magic := range []string{"xYz", "azm", "AZM"} {
+		if h, behind, f := aiger.Header(magic+" 1 1 0 0 0\n", magic); h != [9]int{1, 1} || behind != 14 || f != (api.Fail{}) {
+			t.Error(magic, h, behind, f)
+		}
 	}
 }
 
@@ -82,7 +84,7 @@ func TestHeaderWrong(t *testing.T) {
 			}
 		}
 	}
-	for _, magic := range []string{"", "aa", "aag ", "a1g", "aag 0"} {
+	for _, magic := range []string{"", "aa", "aag ", "a1g", "aag 0", "a`g", "a{g", "a@g", "a[g"} {
 		if h, behind, f := aiger.Header(magic+" 0 0 0 0 0\n", magic); h != [9]int{} || behind != 0 || f != (api.Fail{Err: api.ErrSyntax, Line: 1, Col: 1}) {
 			t.Error(magic, h, behind, f)
 		}
@@ -167,6 +169,8 @@ func TestParse(t *testing.T) {
 			},
 			Inputs: []string{"i0", "i1"}, Latches: []string{"l0", "q"}, Outputs: []string{"o0", "o1", "bad", "c0"},
 		},
+		"aag 0 0 0 0 0 2 0\n0\n1\nb1 x\n": {Graph: api.Graph{Outs: []int{0, 1}}, Outputs: []string{"b0", "x"}},
+		"aag 0 0 0 0 0 0 2\n0\n1\nc1 x\n": {Graph: api.Graph{Outs: []int{0, 1}}, Outputs: []string{"c0", "x"}},
 		"aag 3 1 2 0 0\n2\n4 2 0\n6 5 1\n": {
 			Graph: api.Graph{Ins: 1, Next: []int{2, 5}, Init: []int{0, 1}}, Inputs: []string{"i0"}, Latches: []string{"l0", "l1"},
 		},
@@ -223,6 +227,8 @@ func TestParseWrong(t *testing.T) {
 		"aag 2 1 0 0 1\n2\n4 0 0@":                             api.ErrSyntax,
 		"aag 1 0 0 1 0\n3\n@i0 x\n":                            0,
 		"aag 1 0 0 1 0\n3\n@?\n":                               api.ErrSyntax,
+		"aag 1 0 0 1 0\n@2\n":                                  api.ErrNone,
+		"aag 1 0 0 1 0\n@3\n":                                  api.ErrNone,
 		"aag 5 0 2 1 1\n4 @6 0\n2 8\n8\n10 6 8\n":              api.ErrNone,
 		"aag 5 0 2 1 1\n4 4 0\n2 @8\n8\n10 6 8\n":              api.ErrNone,
 		"aag 5 0 2 1 1\n4 4 0\n2 4\n@9\n10 6 8\n":              api.ErrNone,

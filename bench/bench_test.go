@@ -75,6 +75,11 @@ func TestExpandOfManyKids(t *testing.T) {
 	if !net.Same(got, api.Circuit{Inputs: c.Inputs, Gates: want}) || e != api.OK {
 		t.Error(got, e)
 	}
+	c.Gates[0].Rows = c.Gates[0].Rows[:8]
+	got, e = bench.Expand(c)
+	if !net.Same(got, api.Circuit{Inputs: c.Inputs, Gates: []api.Gate{gate(api.OpNor, "z", ins...)}}) || e != api.OK {
+		t.Error(got, e)
+	}
 	// The same ones as a kid: then what is left has a name of its own, too.
 	g := nine("z", false)
 	g.Rows = g.Rows[:8]
@@ -122,6 +127,17 @@ func TestExpandWrong(t *testing.T) {
 	}
 	if s, e := bench.Print(full); s != "" || e != api.ErrLimit {
 		t.Error(s, e)
+	}
+	full.Inputs, full.Latches = full.Inputs[:150], make([]api.Latch, 49)
+	for i := range full.Latches {
+		full.Latches[i] = api.Latch{Name: "q" + strconv.Itoa(i), Next: "a"}
+	}
+	if _, e := bench.Expand(full); e != api.ErrLimit {
+		t.Error(e)
+	}
+	full.Latches = full.Latches[1:]
+	if _, e := bench.Expand(full); e != api.OK {
+		t.Error(e)
 	}
 	full.Gates = []api.Gate{gate(api.OpBuf, "z", "a")}
 	if _, e := bench.Expand(full); e != api.OK {

@@ -106,6 +106,8 @@ func TestUnrollWrong(t *testing.T) {
 		{three(), []int{0, 3, 0}, 99, api.ErrArg}, {three(), []int{0, 0, -1}, 0, api.ErrArg},
 		{three(), []int{0, 0, 0}, -1, api.ErrLimit}, {three(), []int{0, 0, 0}, 41, api.ErrLimit}, {three(), []int{0, 0, 0}, math.MaxInt, api.ErrLimit}, {three(), []int{0, 0, 0}, math.MinInt, api.ErrLimit},
 		{wide, nil, 5, api.ErrLimit}, {wide, nil, 4, api.OK},
+		{api.Graph{Ins: 2857}, nil, 7, api.OK}, {api.Graph{Ins: 2856, Ands: [][2]int{{2, 2}}}, nil, 7, api.OK},
+		{api.Graph{Ins: 2857, Next: []int{0}, Init: []int{0}}, []int{1}, 7, api.OK}, {api.Graph{Ins: 2857, Next: []int{0}, Init: []int{0}}, []int{2}, 7, api.ErrLimit},
 		{one, []int{2}, 5, api.OK}, {three(), []int{0, 0, 0}, 40, api.OK},
 	} {
 		u, e := cnf.Unroll(x.g, x.begin, x.k)

@@ -62,6 +62,12 @@ func TestJoin(t *testing.T) {
 	if !slices.Equal(m.Begin, []int{0, 0, 2, 0}) || !match || e != api.OK {
 		t.Error(m, match, e)
 	}
+	q := api.Model{Graph: api.Graph{Next: []int{2}, Init: []int{0}}, Latches: []string{"q"}}
+	m, _, _ = cross.Join(q, q)
+	m.Begin[0] = 9
+	if m.Graph.Init[0] != 0 {
+		t.Error("Begin shares memory with the graph")
+	}
 	if m, match, e = cross.Join(api.Model{}, api.Model{}); !aig.Same(m.Graph, api.Graph{}) || !match || e != api.OK {
 		t.Error(m, match, e)
 	}
@@ -85,6 +91,18 @@ func TestWrong(t *testing.T) {
 		m.Outputs, m.Graph.Outs = []string{"z"}, []int{last + out}
 		return m
 	}
+	latches := func(ins, many, ands int) api.Model {
+		m := wide(ins)
+		for i := range many {
+			m.Latches = append(m.Latches, "q"+strconv.Itoa(i))
+			m.Graph.Next, m.Graph.Init = append(m.Graph.Next, 0), append(m.Graph.Init, 0)
+		}
+		for i := range ands {
+			m.Graph.Ands = append(m.Graph.Ands, [2]int{4 + 2*i, 2})
+			m.Graph.Next[i] = 2 * (1 + ins + many + i)
+		}
+		return m
+	}
 	for i, x := range []struct {
 		change func(a, b *api.Model)
 		e      api.Errno
@@ -98,6 +116,16 @@ func TestWrong(t *testing.T) {
 		{func(a, b *api.Model) { *a, *b = half(1997, 0), half(1998, 1) }, api.OK},
 		{func(a, b *api.Model) { *a, *b = half(1998, 0), half(1998, 1) }, api.ErrLimit},
 		{func(a, b *api.Model) { *a, *b = half(1999, 0), half(2000, 0) }, api.ErrLimit},
+		{func(a, b *api.Model) { *a, *b = half(1999, 0), half(1999, 0) }, api.ErrLimit},
+		{func(a, b *api.Model) { *a, *b = half(1998, 0), half(1999, 0) }, api.ErrLimit},
+		{func(a, b *api.Model) { *a, *b = latches(1000, 1000, 0), latches(1000, 1000, 0) }, api.OK}, // 3000 of both
+		{func(a, b *api.Model) { *a, *b = latches(2000, 1000, 0), latches(2000, 1000, 0) }, api.OK},
+		{func(a, b *api.Model) { *a, *b = latches(2000, 1001, 0), latches(2000, 1000, 0) }, api.ErrLimit},
+		{func(a, b *api.Model) { *a, *b = latches(2000, 1000, 0), latches(2000, 1001, 0) }, api.ErrLimit},
+		{func(a, b *api.Model) { *a, *b = latches(2001, 1000, 0), latches(2001, 1000, 0) }, api.ErrLimit},
+		{func(a, b *api.Model) { *a, *b = latches(2000, 999, 1), latches(2000, 999, 1) }, api.OK},
+		{func(a, b *api.Model) { *a, *b = latches(2000, 999, 2), latches(2000, 999, 1) }, api.ErrLimit},
+		{func(a, b *api.Model) { *a, *b = latches(2000, 999, 1), latches(2000, 999, 2) }, api.ErrLimit},
 	} {
 		a, b := two()
 		x.change(&a, &b)
@@ -152,6 +180,26 @@ func TestFirstOutputThatDiffers(t *testing.T) {
 		t.Error(x, e)
 	}
 	if v, e := cross.Replay(a, b, x); !v || e != api.OK {
+		t.Error(v, e)
+	}
+}
+
+func TestInputsAreTold(t *testing.T) {
+	a := api.Model{Graph: api.Graph{Ins: 3, Ands: [][2]int{{6, 5}}, Outs: []int{8}}, Inputs: []string{"i", "j", "k"}, Outputs: []string{"z"}}
+	b := api.Model{Graph: api.Graph{Ins: 3, Outs: []int{0}}, Inputs: []string{"k", "j", "i"}, Outputs: []string{"z"}}
+	x, e := cross.Cross(a, b, 2, 10)
+	if x.Res != 1 || len(x.Seq) != 1 || len(x.Seq[0]) != 3 || x.Seq[0][1] || !x.Seq[0][2] || e != api.OK {
+		t.Error(x, e)
+	}
+}
+
+func TestReplayOfManySteps(t *testing.T) {
+	a := api.Model{Graph: api.Graph{Outs: []int{0}}, Outputs: []string{"z"}}
+	b := api.Model{Graph: api.Graph{Outs: []int{1}}, Outputs: []string{"z"}}
+	if v, e := cross.Replay(a, b, cross.Answer{Seq: make([][]bool, 40)}); !v || e != api.OK {
+		t.Error(v, e)
+	}
+	if v, e := cross.Replay(a, b, cross.Answer{Seq: make([][]bool, 41)}); v || e != api.ErrArg {
 		t.Error(v, e)
 	}
 }

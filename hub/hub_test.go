@@ -182,6 +182,43 @@ func TestErrors(t *testing.T) {
 	}
 }
 
+func TestLimits(t *testing.T) {
+	limit := api.Fail{Err: api.ErrLimit}
+	a := act(4, threeSteps)
+	a.L.Bytes = len(counter)
+	if got := hub.Do(a); got != (hub.Told{Res: 1}) {
+		t.Error(got)
+	}
+	a.Text, a.More, a.L.Bytes = "", counter, len(counter)
+	if got := hub.Do(a); got.Fail.Err != api.ErrSyntax || got.In != 1 {
+		t.Error(got)
+	}
+	// Three nets, and a graph of two inputs and three ands.
+	for kind := range 6 {
+		a = act(kind, "")
+		a.Text, a.L.Nets = "INPUT(a) INPUT(b) OUTPUT(z) z = XOR(a, b)", 4
+		if got := hub.Do(a); (got != hub.Told{Fail: limit}) != (kind == 0) {
+			t.Error(kind, got)
+		}
+	}
+	for nets, want := range []bool{true, true, true, true, true, false, false} {
+		a = act(5, "")
+		a.From, a.Text, a.L.Nets = api.FmtAag, "aag 5 2 1 0 2\n2\n4\n6 10\n8 6 2\n10 8 4\n", nets
+		if got := hub.Do(a); (got.Fail == limit) != want {
+			t.Error(nets, got)
+		}
+	}
+	many := "aag 201 0 201 0 0\n"
+	for i := range 201 {
+		many += strconv.Itoa(2*i+2) + " 0\n"
+	}
+	a = act(2, "")
+	a.From, a.To, a.Text, a.L.Nets = api.FmtAag, api.FmtAig, many, 1000
+	if got := hub.Do(a); got != (hub.Told{Fail: limit}) {
+		t.Error(got)
+	}
+}
+
 func lines(n int) string {
 	s := ""
 	for i := range n {

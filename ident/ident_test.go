@@ -66,6 +66,23 @@ func TestLegal(t *testing.T) {
 	}
 }
 
+func TestLegalBytes(t *testing.T) {
+	for c := range 256 {
+		s := string([]byte{byte(c)})
+		letter := 'a' <= c && c <= 'z' || 'A' <= c && c <= 'Z' || c == '_'
+		if ident.Legal(api.FmtVerilog, s) != letter {
+			t.Errorf("%q", s)
+		}
+		if ident.Legal(api.FmtVerilog, "a"+s) != (letter || '0' <= c && c <= '9' || c == '$') {
+			t.Errorf("a%q", s)
+		}
+		seen := 33 <= c && c <= 126
+		if ident.Legal(api.FmtBlif, "a"+s) != (seen && c != '#' && c != '\\') || ident.Legal(api.FmtBench, "a"+s) != (seen && !strings.Contains("=(),#", s)) {
+			t.Errorf("a%q", s)
+		}
+	}
+}
+
 func TestSpell(t *testing.T) {
 	for _, x := range []struct {
 		f       api.Format

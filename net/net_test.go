@@ -34,11 +34,27 @@ func small() api.Circuit {
 func TestCheckOfGood(t *testing.T) {
 	full := api.Circuit{Inputs: many("i", 200), Outputs: many("i", 200)}
 	rows := api.Circuit{Inputs: many("i", 8), Gates: []api.Gate{{Name: "z", Op: api.OpCover, Ins: many("i", 8), Rows: slices.Repeat([]string{"01-01-01"}, 128)}}}
+	begins := api.Circuit{Latches: []api.Latch{{Name: "p", Next: "p"}, {Name: "q", Next: "p", Init: 1}, {Name: "r", Next: "p", Init: 2}}}
 	loop := api.Circuit{Gates: []api.Gate{{Name: "z", Op: api.OpNot, Ins: []string{"z"}}}}
-	for i, c := range []api.Circuit{{}, small(), full, rows, loop} {
+	for i, c := range []api.Circuit{{}, small(), full, rows, begins, loop} {
 		if e, name := net.Check(c); e != api.OK || name != "" {
 			t.Error(i, e, name)
 		}
+	}
+}
+
+// What stands behind a list, in the same memory, is not changed either.
+func TestNothingBehindIsChanged(t *testing.T) {
+	names := []string{"a", "z", "behind"}
+	c := small()
+	c.Inputs, c.Outputs = names[:1], names[1:2]
+	c.Gates[1].Ins[0] = "a"
+	if e, name := net.Check(c); e != api.OK {
+		t.Error(e, name)
+	}
+	net.Nets(c)
+	if !slices.Equal(names, []string{"a", "z", "behind"}) {
+		t.Error(names)
 	}
 }
 
@@ -105,6 +121,11 @@ func TestNetsAndPlace(t *testing.T) {
 	l[0] = "changed"
 	if c.Inputs[0] != "a" {
 		t.Error("Nets shares memory with the netlist")
+	}
+	d := api.Circuit{Inputs: []string{"a"}}
+	net.Nets(d)[0] = "changed"
+	if d.Inputs[0] != "a" {
+		t.Error("Nets shares memory with the inputs")
 	}
 }
 

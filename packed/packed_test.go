@@ -97,7 +97,9 @@ func TestParse(t *testing.T) {
 			Graph:  api.Graph{Ins: 1, Next: []int{11, 4, 10}, Init: []int{0, 1, 2}, Ands: [][2]int{{8, 2}}, Outs: []int{4, 10, 0}},
 			Inputs: []string{"i0"}, Latches: []string{"l0", "q", "l2"}, Outputs: []string{"o0", "b0", "k"},
 		},
-		"aig 1 0 1 0 0\n3 0\n": {Graph: api.Graph{Next: []int{3}, Init: []int{0}}, Latches: []string{"l0"}},
+		"aig 0 0 0 0 0 2 0\n0\n1\nb1 x\n": {Graph: api.Graph{Outs: []int{0, 1}}, Outputs: []string{"b0", "x"}},
+		"aig 0 0 0 0 0 0 2\n0\n1\nc1 x\n": {Graph: api.Graph{Outs: []int{0, 1}}, Outputs: []string{"c0", "x"}},
+		"aig 1 0 1 0 0\n3 0\n":            {Graph: api.Graph{Next: []int{3}, Init: []int{0}}, Latches: []string{"l0"}},
 		"aig 11 10 0 1 1\n22\n\x0a\x0ai9 x\n": {
 			Graph:  api.Graph{Ins: 10, Ands: [][2]int{{12, 2}}, Outs: []int{22}},
 			Inputs: []string{"i0", "i1", "i2", "i3", "i4", "i5", "i6", "i7", "i8", "x"}, Outputs: []string{"o0"},

@@ -130,8 +130,11 @@ func TestNormal(t *testing.T) {
 	if !lower.Same(n, want) || e != api.OK {
 		t.Error(n, e)
 	}
-	n.Inputs[0], n.Outputs[0] = "x", "x"
-	if m.Inputs[0] != "a" || m.Outputs[0] != "z" {
+	m.Latches, m.Graph.Next, m.Graph.Init = []string{"q"}, []int{3}, []int{1}
+	m.Graph.Ands, m.Graph.Outs = nil, []int{2}
+	n, _ = raise.Normal(m)
+	n.Inputs[0], n.Outputs[0], n.Latches[0], n.Graph.Next[0], n.Graph.Init[0] = "x", "x", "x", 0, 0
+	if m.Inputs[0] != "a" || m.Outputs[0] != "z" || m.Latches[0] != "q" || m.Graph.Next[0] != 3 || m.Graph.Init[0] != 1 {
 		t.Error("Normal shares memory with the model")
 	}
 }

@@ -180,6 +180,16 @@ func TestValues(t *testing.T) {
 	}
 }
 
+func TestNothingBehindIsChanged(t *testing.T) {
+	all := bits("1 100 000")
+	if l, e := step.Values(counter(), all[1:4], all[:1]); !slices.Equal(l, bits("1 100 1 1 0 1")) || e != api.OK {
+		t.Error(l, e)
+	}
+	if !slices.Equal(all, bits("1 100 000")) {
+		t.Error(all)
+	}
+}
+
 func TestStep(t *testing.T) {
 	outs, next, e := step.Step(counter(), bits("100"), bits("1"))
 	if !slices.Equal(outs, bits("0101")) || !slices.Equal(next, bits("011")) || e != api.OK {

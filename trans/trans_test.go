@@ -282,6 +282,8 @@ func TestTranslateLimits(t *testing.T) {
 		{s, api.FmtBench, api.FmtBlif, api.Limits{Bytes: len(s), Nets: 0}, true, nowhere},
 		{s, api.FmtBench, api.FmtAag, api.Limits{Bytes: len(s), Nets: 1}, false, api.Fail{}},
 		{s, api.FmtBench, api.FmtAag, api.Limits{Bytes: len(s), Nets: 0}, false, nowhere},
+		{"aag 5 2 1 0 2\n2\n4\n6 10\n8 6 2\n10 8 4\n", api.FmtAag, api.FmtAig, api.Limits{Bytes: 99, Nets: 5}, false, api.Fail{}},
+		{"aag 5 2 1 0 2\n2\n4\n6 10\n8 6 2\n10 8 4\n", api.FmtAag, api.FmtAig, api.Limits{Bytes: 99, Nets: 4}, false, nowhere},
 		{"", api.FmtBench, api.FmtBench, api.Limits{}, false, api.Fail{}},
 		{"", api.FmtBench, api.FmtBench, api.Limits{Bytes: -1}, false, nowhere},
 		{"", api.FmtBench, api.FmtBench, api.Limits{Nets: -1}, false, nowhere},
