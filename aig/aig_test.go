@@ -8,6 +8,7 @@ import (
 
 	"patchbay/aig"
 	"patchbay/api"
+	"patchbay/sample"
 )
 
 // toggle has an input 1, a latch 2, and ands 3 to 5 that are an exclusive or of both.
@@ -168,26 +169,6 @@ func copied(g api.Graph) api.Graph {
 	return g
 }
 
-// randomGraph has some ands of any literals that may be.
-func randomGraph(r *rand.Rand) api.Graph {
-	g := api.Graph{Ins: r.Intn(4)}
-	for range r.Intn(3) {
-		g.Next = append(g.Next, 0)
-		g.Init = append(g.Init, r.Intn(3))
-	}
-	for range r.Intn(12) {
-		top := 2 + 2*topOf(g)
-		g.Ands = append(g.Ands, [2]int{r.Intn(top), r.Intn(top)})
-	}
-	for i := range g.Next {
-		g.Next[i] = r.Intn(2 + 2*topOf(g))
-	}
-	for range r.Intn(4) {
-		g.Outs = append(g.Outs, r.Intn(2+2*topOf(g)))
-	}
-	return g
-}
-
 // normalSlowly makes ands by And, as the document has it, and then leaves out, one by one, what nothing leads to.
 func normalSlowly(g api.Graph) api.Graph {
 	h := api.Graph{Ins: g.Ins, Next: make([]int, len(g.Next)), Init: g.Init}
@@ -233,18 +214,11 @@ func normalSlowly(g api.Graph) api.Graph {
 	return h
 }
 
-func bitsOf(x, n int) []bool {
-	l := make([]bool, n)
-	for i := range l {
-		l[i] = x>>i&1 == 1
-	}
-	return l
-}
-
 func TestNormalHolds(t *testing.T) {
 	r := rand.New(rand.NewSource(2))
+	size := sample.Size{Inputs: [2]int{0, 3}, Latches: [2]int{0, 2}, Gates: [2]int{0, 11}, Outputs: [2]int{0, 3}}
 	for range 2000 {
-		g := randomGraph(r)
+		g := sample.Model(r.Intn, size, "x").Graph
 		was := copied(g)
 		h, e := aig.Normal(g)
 		if e != api.OK || !aig.Strict(h) || !aig.Same(g, was) || !aig.Same(h, normalSlowly(g)) {
@@ -257,7 +231,7 @@ func TestNormalHolds(t *testing.T) {
 			t.Fatal("Strict", g, h)
 		}
 		for x := range 1 << (g.Ins + len(g.Next)) {
-			ins, state := bitsOf(x, g.Ins), bitsOf(x>>g.Ins, len(g.Next))
+			ins, state := sample.Bits(x, g.Ins), sample.Bits(x>>g.Ins, len(g.Next))
 			a, m, _ := aig.Step(g, state, ins)
 			b, n, _ := aig.Step(h, state, ins)
 			if !slices.Equal(a, b) || !slices.Equal(m, n) {

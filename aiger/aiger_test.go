@@ -12,6 +12,7 @@ import (
 	"patchbay/api"
 	"patchbay/lower"
 	"patchbay/raise"
+	"patchbay/sample"
 	"patchbay/spot"
 )
 
@@ -289,35 +290,11 @@ func TestTail(t *testing.T) {
 	}
 }
 
-func randomModel(r *rand.Rand) api.Model {
-	var m api.Model
-	g := &m.Graph
-	g.Ins = r.Intn(4)
-	for i := range g.Ins {
-		m.Inputs = append(m.Inputs, "in"+strconv.Itoa(i))
-	}
-	for i := range r.Intn(4) {
-		m.Latches = append(m.Latches, "#"+strconv.Itoa(i))
-		g.Next, g.Init = append(g.Next, 0), append(g.Init, r.Intn(3))
-	}
-	numbers := 1 + g.Ins + len(g.Next)
-	for range r.Intn(12) {
-		g.Ands = append(g.Ands, [2]int{r.Intn(2 * numbers), r.Intn(2 * numbers)})
-		numbers++
-	}
-	for i := range g.Next {
-		g.Next[i] = r.Intn(2 * numbers)
-	}
-	for i := range r.Intn(5) {
-		m.Outputs, g.Outs = append(m.Outputs, "l"+strconv.Itoa(i)), append(g.Outs, r.Intn(2*numbers))
-	}
-	return m
-}
-
 func TestWhatIsPrintedIsParsedAgain(t *testing.T) {
 	r := rand.New(rand.NewSource(6))
+	size := sample.Size{Inputs: [2]int{0, 3}, Latches: [2]int{0, 3}, Gates: [2]int{0, 11}, Outputs: [2]int{0, 4}}
 	for range 1000 {
-		m := randomModel(r)
+		m := sample.Model(r.Intn, size, "in", "#", "l")
 		n, _ := raise.Normal(m)
 		s, e := aiger.Print(m)
 		back, f := aiger.Parse(s)

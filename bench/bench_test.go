@@ -11,6 +11,7 @@ import (
 	"patchbay/bench"
 	"patchbay/net"
 	"patchbay/order"
+	"patchbay/sample"
 	"patchbay/spot"
 	"patchbay/step"
 )
@@ -283,67 +284,11 @@ z = AND(a, n1)
 	}
 }
 
-func randomCircuit(r *rand.Rand, stems []string) api.Circuit {
-	var c api.Circuit
-	name := func(i int) string { return stems[r.Intn(len(stems))] + strconv.Itoa(i) }
-	for i := range 1 + r.Intn(3) {
-		c.Inputs = append(c.Inputs, name(i))
-	}
-	nets := slices.Clone(c.Inputs)
-	for i := range r.Intn(3) {
-		c.Latches = append(c.Latches, api.Latch{Name: name(10 + i), Init: r.Intn(3)})
-		nets = append(nets, c.Latches[i].Name)
-	}
-	for i := range r.Intn(8) {
-		g := api.Gate{Name: name(20 + i), Op: api.Op(r.Intn(11))}
-		if r.Intn(2) == 0 {
-			g.Op = api.OpCover
-		}
-		n := 2 + r.Intn(7)
-		switch g.Op {
-		case api.OpZero, api.OpOne:
-			n = 0
-		case api.OpBuf, api.OpNot:
-			n = 1
-		case api.OpCover:
-			n = r.Intn(7)
-			g.Off = r.Intn(2) == 0
-			for range r.Intn(6) {
-				row := ""
-				for range n {
-					row += []string{"0", "1", "-"}[r.Intn(3)]
-				}
-				g.Rows = append(g.Rows, row)
-			}
-		}
-		for range n {
-			g.Ins = append(g.Ins, nets[r.Intn(len(nets))])
-		}
-		nets = append(nets, g.Name)
-		c.Gates = append(c.Gates, g)
-	}
-	for i := range c.Latches {
-		c.Latches[i].Next = nets[r.Intn(len(nets))]
-	}
-	for _, i := range r.Perm(len(nets))[:r.Intn(len(nets)+1)] {
-		c.Outputs = append(c.Outputs, nets[i])
-	}
-	r.Shuffle(len(c.Gates), func(i, j int) { c.Gates[i], c.Gates[j] = c.Gates[j], c.Gates[i] })
-	return c
-}
-
-func bitsOf(x, n int) []bool {
-	l := make([]bool, n)
-	for i := range l {
-		l[i] = x>>i&1 == 1
-	}
-	return l
-}
-
 func TestExpandedAndParsedAgain(t *testing.T) {
 	r := rand.New(rand.NewSource(9))
+	size := sample.Size{Inputs: [2]int{1, 3}, Latches: [2]int{0, 2}, Gates: [2]int{0, 9}, Outputs: [2]int{0, 9}, Width: [2]int{2, 8}}
 	for range 500 {
-		c := randomCircuit(r, []string{"a", "n", "x__", "(", "\\"})
+		c := sample.Circuit(r.Intn, size, "a", "n", "x__", "(", "\\")
 		x, e := bench.Expand(c)
 		if err, name := order.Check(x); e != api.OK || err != api.OK {
 			t.Fatal(c, e, err, name)
@@ -352,7 +297,7 @@ func TestExpandedAndParsedAgain(t *testing.T) {
 			t.Fatal(x)
 		}
 		for i := range 1 << (len(c.Inputs) + len(c.Latches)) {
-			ins, state := bitsOf(i, len(c.Inputs)), bitsOf(i>>len(c.Inputs), len(c.Latches))
+			ins, state := sample.Bits(i, len(c.Inputs)), sample.Bits(i>>len(c.Inputs), len(c.Latches))
 			a, m, _ := step.Step(c, state, ins)
 			b, n, _ := step.Step(x, state, ins)
 			if !slices.Equal(a, b) || !slices.Equal(m, n) {

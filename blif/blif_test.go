@@ -3,7 +3,6 @@ package blif_test
 import (
 	"math/rand"
 	"slices"
-	"strconv"
 	"strings"
 	"testing"
 
@@ -11,6 +10,7 @@ import (
 	"patchbay/blif"
 	"patchbay/net"
 	"patchbay/order"
+	"patchbay/sample"
 	"patchbay/spot"
 )
 
@@ -220,9 +220,9 @@ func plainly(c api.Circuit) api.Circuit {
 
 func TestWhatIsPrintedIsParsedAgain(t *testing.T) {
 	r := rand.New(rand.NewSource(8))
-	stems := []string{"a", ".", "#", "x__", "\\", "INPUT("}
+	size := sample.Size{Inputs: [2]int{1, 4}, Latches: [2]int{0, 3}, Gates: [2]int{0, 9}, Outputs: [2]int{0, 9}, Width: [2]int{2, 8}}
 	for range 500 {
-		c := randomCircuit(r, stems)
+		c := sample.Circuit(r.Intn, size, "a", ".", "#", "x__", "\\", "INPUT(")
 		if e, name := order.Check(c); e != api.OK {
 			t.Fatal(e, name)
 		}
@@ -235,52 +235,6 @@ func TestWhatIsPrintedIsParsedAgain(t *testing.T) {
 			t.Fatal(s, again)
 		}
 	}
-}
-
-func randomCircuit(r *rand.Rand, stems []string) api.Circuit {
-	var c api.Circuit
-	name := func(i int) string { return stems[r.Intn(len(stems))] + strconv.Itoa(i) }
-	for i := range 1 + r.Intn(4) {
-		c.Inputs = append(c.Inputs, name(i))
-	}
-	nets := slices.Clone(c.Inputs)
-	for i := range r.Intn(4) {
-		c.Latches = append(c.Latches, api.Latch{Name: name(10 + i), Init: r.Intn(3)})
-		nets = append(nets, c.Latches[i].Name)
-	}
-	for i := range r.Intn(10) {
-		g := api.Gate{Name: name(20 + i), Op: api.Op(r.Intn(11))}
-		n := 2 + r.Intn(7)
-		switch g.Op {
-		case api.OpZero, api.OpOne:
-			n = 0
-		case api.OpBuf, api.OpNot:
-			n = 1
-		case api.OpCover:
-			n = r.Intn(9)
-			g.Off = r.Intn(2) == 0
-			for range r.Intn(6) {
-				row := ""
-				for range n {
-					row += []string{"0", "1", "-"}[r.Intn(3)]
-				}
-				g.Rows = append(g.Rows, row)
-			}
-		}
-		for range n {
-			g.Ins = append(g.Ins, nets[r.Intn(len(nets))])
-		}
-		nets = append(nets, g.Name)
-		c.Gates = append(c.Gates, g)
-	}
-	for i := range c.Latches {
-		c.Latches[i].Next = nets[r.Intn(len(nets))]
-	}
-	for _, i := range r.Perm(len(nets))[:r.Intn(len(nets)+1)] {
-		c.Outputs = append(c.Outputs, nets[i])
-	}
-	r.Shuffle(len(c.Gates), func(i, j int) { c.Gates[i], c.Gates[j] = c.Gates[j], c.Gates[i] })
-	return c
 }
 
 func FuzzParse(f *testing.F) {

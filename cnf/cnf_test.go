@@ -9,6 +9,7 @@ import (
 	"patchbay/aig"
 	"patchbay/api"
 	"patchbay/cnf"
+	"patchbay/sample"
 )
 
 func clauses(l ...[]int) []api.Clause {
@@ -161,36 +162,12 @@ func TestValues(t *testing.T) {
 	}
 }
 
-func bitsOf(x, n int) []bool {
-	l := make([]bool, n)
-	for i := range l {
-		l[i] = x>>i&1 == 1
-	}
-	return l
-}
-
-func randomGraph(r *rand.Rand) api.Graph {
-	g := api.Graph{Ins: r.Intn(3)}
-	for range r.Intn(3) {
-		g.Next, g.Init = append(g.Next, 0), append(g.Init, 0)
-	}
-	numbers := 1 + g.Ins + len(g.Next)
-	for range r.Intn(4) {
-		g.Ands = append(g.Ands, [2]int{r.Intn(2 * numbers), r.Intn(2 * numbers)})
-		numbers++
-	}
-	for i := range g.Next {
-		g.Next[i] = r.Intn(2 * numbers)
-	}
-	return g
-}
-
 // runs are the values of all runs of k steps.
 func runs(t *testing.T, g api.Graph, begin []int, k int) map[string]bool {
 	all := map[string]bool{}
 	for x := range 1 << len(begin) {
 		for y := range 1 << (k * g.Ins) {
-			state, all01 := bitsOf(x, len(begin)), bitsOf(y, k*g.Ins)
+			state, all01 := sample.Bits(x, len(begin)), sample.Bits(y, k*g.Ins)
 			var seq [][]bool
 			for i := range k {
 				seq = append(seq, all01[i*g.Ins:(i+1)*g.Ins])
@@ -244,8 +221,9 @@ func checkLits(t *testing.T, g api.Graph, begin []int, state []bool, seq [][]boo
 
 func TestClausesHoldJustInRuns(t *testing.T) {
 	r := rand.New(rand.NewSource(12))
+	size := sample.Size{Inputs: [2]int{0, 2}, Latches: [2]int{0, 2}, Gates: [2]int{0, 3}}
 	for range 200 {
-		g := randomGraph(r)
+		g := sample.Model(r.Intn, size, "x").Graph
 		begin := make([]int, len(g.Next))
 		for i := range begin {
 			begin[i] = r.Intn(3)
@@ -257,7 +235,7 @@ func TestClausesHoldJustInRuns(t *testing.T) {
 		}
 		all := runs(t, g, begin, k)
 		for x := range 1 << u.Vars {
-			values := bitsOf(x, u.Vars)
+			values := sample.Bits(x, u.Vars)
 			if holds, e := cnf.True(u.Clauses, values); holds != all[string(text(values))] || e != api.OK {
 				t.Fatal(g, begin, k, values, holds, e)
 			}

@@ -11,6 +11,7 @@ import (
 	"patchbay/api"
 	"patchbay/cross"
 	"patchbay/lower"
+	"patchbay/sample"
 )
 
 // two models of the inputs a and b, of a latch q that both have, and of the outputs y and z.
@@ -242,35 +243,14 @@ func TestReplay(t *testing.T) {
 	}
 }
 
-func bitsOf(x, n int) []bool {
-	l := make([]bool, n)
-	for i := range l {
-		l[i] = x>>i&1 == 1
-	}
-	return l
-}
-
+// randomModel has one input and two outputs, of the same names always, and some of four latches.
 func randomModel(r *rand.Rand) api.Model {
-	var m api.Model
-	g := &m.Graph
-	g.Ins = 1
-	for _, i := range r.Perm(1) {
-		m.Inputs = append(m.Inputs, "in"+strconv.Itoa(i))
+	m := sample.Model(r.Intn, sample.Size{Inputs: [2]int{1, 1}, Latches: [2]int{0, 3}, Gates: [2]int{0, 7}, Outputs: [2]int{2, 2}}, "x")
+	for i, j := range r.Perm(4)[:len(m.Latches)] {
+		m.Latches[i] = "q" + strconv.Itoa(j)
 	}
-	for _, i := range r.Perm(4)[:r.Intn(4)] {
-		m.Latches = append(m.Latches, "q"+strconv.Itoa(i))
-		g.Next, g.Init = append(g.Next, 0), append(g.Init, r.Intn(3))
-	}
-	numbers := 1 + g.Ins + len(g.Next)
-	for range r.Intn(8) {
-		g.Ands = append(g.Ands, [2]int{r.Intn(2 * numbers), r.Intn(2 * numbers)})
-		numbers++
-	}
-	for i := range g.Next {
-		g.Next[i] = r.Intn(2 * numbers)
-	}
-	for _, i := range r.Perm(2) {
-		m.Outputs, g.Outs = append(m.Outputs, "z"+strconv.Itoa(i)), append(g.Outs, r.Intn(2*numbers))
+	if r.Intn(2) == 0 {
+		slices.Reverse(m.Outputs)
 	}
 	return m
 }
@@ -279,7 +259,7 @@ func randomModel(r *rand.Rand) api.Model {
 func differAt(a, b api.Model, k int) int {
 	for n := 1; n <= k; n++ {
 		for x := range 1 << (len(a.Latches) + len(b.Latches)) {
-			stateA, stateB := bitsOf(x, len(a.Latches)), bitsOf(x>>len(a.Latches), len(b.Latches))
+			stateA, stateB := sample.Bits(x, len(a.Latches)), sample.Bits(x>>len(a.Latches), len(b.Latches))
 			for y := range 1 << n {
 				var seq [][]bool
 				for i := range n {

@@ -13,6 +13,7 @@ import (
 	"patchbay/hub"
 	"patchbay/inv"
 	"patchbay/lower"
+	"patchbay/sample"
 	"patchbay/trans"
 	"patchbay/witness"
 )
@@ -287,44 +288,12 @@ func TestSame(t *testing.T) {
 	}
 }
 
-func randomModel(r *rand.Rand) api.Model {
-	var m api.Model
-	g := &m.Graph
-	g.Ins = r.Intn(3)
-	for i := range g.Ins {
-		m.Inputs = append(m.Inputs, "(in"+strconv.Itoa(i))
-	}
-	for i := range 1 + r.Intn(3) {
-		m.Latches = append(m.Latches, "#"+strconv.Itoa(i))
-		g.Next, g.Init = append(g.Next, 0), append(g.Init, r.Intn(3))
-	}
-	numbers := 1 + g.Ins + len(g.Next)
-	for range r.Intn(8) {
-		g.Ands = append(g.Ands, [2]int{r.Intn(2 * numbers), r.Intn(2 * numbers)})
-		numbers++
-	}
-	for i := range g.Next {
-		g.Next[i] = r.Intn(2 * numbers)
-	}
-	for i := range 1 + r.Intn(3) {
-		m.Outputs, g.Outs = append(m.Outputs, "and"+strconv.Itoa(i)), append(g.Outs, r.Intn(2*numbers))
-	}
-	return m
-}
-
-func bitsOf(x, n int) []bool {
-	l := make([]bool, n)
-	for i := range l {
-		l[i] = x>>i&1 == 1
-	}
-	return l
-}
-
 // A witness, or an invariant, of a translation is one of what was translated; and what is told to hold holds in every state that is reached.
 func TestGoesAlong(t *testing.T) {
 	r := rand.New(rand.NewSource(24))
+	size := sample.Size{Inputs: [2]int{0, 2}, Latches: [2]int{1, 3}, Gates: [2]int{0, 7}, Outputs: [2]int{1, 3}}
 	for range 150 {
-		m := randomModel(r)
+		m := sample.Model(r.Intn, size, "(in", "#", "and")
 		from, to := api.Format(r.Intn(5)), api.Format(r.Intn(5))
 		s, e := trans.Put(from, m)
 		if e != api.OK {
@@ -386,11 +355,11 @@ func holdsInAll(t *testing.T, m api.Model, l [][]inv.Lit, bad int) {
 			if !reached[x] {
 				continue
 			}
-			if v, _ := inv.Holds(m, l, bitsOf(x, n)); !v {
+			if v, _ := inv.Holds(m, l, sample.Bits(x, n)); !v {
 				t.Fatal(m, l, x)
 			}
 			for y := range 1 << m.Graph.Ins {
-				outs, next, _ := aig.Step(m.Graph, bitsOf(x, n), bitsOf(y, m.Graph.Ins))
+				outs, next, _ := aig.Step(m.Graph, sample.Bits(x, n), sample.Bits(y, m.Graph.Ins))
 				reached[number(next)] = true
 				if outs[bad] {
 					t.Fatal(m, l, bad, x, y)

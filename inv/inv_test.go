@@ -12,6 +12,7 @@ import (
 	"patchbay/api"
 	"patchbay/inv"
 	"patchbay/lower"
+	"patchbay/sample"
 	"patchbay/spot"
 	"patchbay/table"
 	"patchbay/trans"
@@ -238,37 +239,6 @@ func TestCheckIsUnknown(t *testing.T) {
 	}
 }
 
-func bitsOf(x, n int) []bool {
-	l := make([]bool, n)
-	for i := range l {
-		l[i] = x>>i&1 == 1
-	}
-	return l
-}
-
-func randomModel(r *rand.Rand) api.Model {
-	var m api.Model
-	g := &m.Graph
-	g.Ins = r.Intn(2)
-	for i := range g.Ins {
-		m.Inputs = append(m.Inputs, "in"+strconv.Itoa(i))
-	}
-	for i := range 1 + r.Intn(3) {
-		m.Latches = append(m.Latches, "(q"+strconv.Itoa(i))
-		g.Next, g.Init = append(g.Next, 0), append(g.Init, r.Intn(3))
-	}
-	numbers := 1 + g.Ins + len(g.Next)
-	for range r.Intn(6) {
-		g.Ands = append(g.Ands, [2]int{r.Intn(2 * numbers), r.Intn(2 * numbers)})
-		numbers++
-	}
-	for i := range g.Next {
-		g.Next[i] = r.Intn(2 * numbers)
-	}
-	m.Outputs, g.Outs = []string{"z"}, []int{r.Intn(2 * numbers)}
-	return m
-}
-
 func randomInvariant(r *rand.Rand, m api.Model) [][]inv.Lit {
 	var l [][]inv.Lit
 	for range r.Intn(4) {
@@ -294,7 +264,7 @@ func first(m api.Model, l [][]inv.Lit, bad int) (inv.Verdict, map[string]bool) {
 	}
 	for i, c := range l {
 		for x := range 1 << n {
-			state := bitsOf(x, n)
+			state := sample.Bits(x, n)
 			allowed := true
 			for j, init := range m.Graph.Init {
 				allowed = allowed && (init == 2 || state[j] == (init == 1))
@@ -309,7 +279,7 @@ func first(m api.Model, l [][]inv.Lit, bad int) (inv.Verdict, map[string]bool) {
 	}
 	for i := range len(l) + 1 {
 		for x := range 1 << (n + m.Graph.Ins) {
-			state, ins := bitsOf(x, n), bitsOf(x>>n, m.Graph.Ins)
+			state, ins := sample.Bits(x, n), sample.Bits(x>>n, m.Graph.Ins)
 			if v, _ := inv.Holds(m, l, state); !v {
 				continue
 			}
@@ -334,9 +304,10 @@ func first(m api.Model, l [][]inv.Lit, bad int) (inv.Verdict, map[string]bool) {
 
 func TestVerdictIsSo(t *testing.T) {
 	r := rand.New(rand.NewSource(20))
+	size := sample.Size{Inputs: [2]int{0, 1}, Latches: [2]int{1, 3}, Gates: [2]int{0, 5}, Outputs: [2]int{1, 1}}
 	var seen [4]int
 	for range 3000 {
-		m := randomModel(r)
+		m := sample.Model(r.Intn, size, "(q", "in")
 		l := randomInvariant(r, m)
 		bad := r.Intn(2) - 1
 		want, states := first(m, l, bad)
@@ -366,9 +337,10 @@ func TestVerdictIsSo(t *testing.T) {
 
 func TestInvariantOfATranslation(t *testing.T) {
 	r := rand.New(rand.NewSource(21))
+	size := sample.Size{Inputs: [2]int{0, 1}, Latches: [2]int{1, 3}, Gates: [2]int{0, 5}, Outputs: [2]int{1, 1}}
 	limits := api.Limits{Bytes: api.MaxBytes, Nets: api.MaxNets}
 	for range 40 {
-		m := randomModel(r)
+		m := sample.Model(r.Intn, size, "(q", "in")
 		s, _ := trans.Put(api.FmtBlif, m)
 		was, _ := trans.Denote(api.FmtBlif, s)
 		l := randomInvariant(r, m)
@@ -391,8 +363,9 @@ func TestInvariantOfATranslation(t *testing.T) {
 
 func TestUnknownIsNotToldOfFewVariables(t *testing.T) {
 	r := rand.New(rand.NewSource(22))
+	size := sample.Size{Inputs: [2]int{0, 1}, Latches: [2]int{1, 3}, Gates: [2]int{0, 5}, Outputs: [2]int{1, 1}}
 	for range 2000 {
-		m := randomModel(r)
+		m := sample.Model(r.Intn, size, "(q", "in")
 		if 1+len(m.Latches)+len(m.Inputs)+len(m.Graph.Ands) > 6 {
 			continue
 		}

@@ -10,6 +10,7 @@ import (
 	"patchbay/api"
 	"patchbay/lower"
 	"patchbay/order"
+	"patchbay/sample"
 	"patchbay/step"
 )
 
@@ -191,65 +192,11 @@ func TestLowerWrong(t *testing.T) {
 	}
 }
 
-// randomCircuit has gates of all ops, in any order, without loops.
-func randomCircuit(r *rand.Rand) api.Circuit {
-	var c api.Circuit
-	var nets []string
-	for i := range 1 + r.Intn(4) {
-		c.Inputs = append(c.Inputs, "i"+strconv.Itoa(i))
-	}
-	nets = append(nets, c.Inputs...)
-	for i := range r.Intn(4) {
-		c.Latches = append(c.Latches, api.Latch{Name: "q" + strconv.Itoa(i), Init: r.Intn(3)})
-		nets = append(nets, c.Latches[i].Name)
-	}
-	for i := range r.Intn(10) {
-		g := api.Gate{Name: "g" + strconv.Itoa(i), Op: api.Op(r.Intn(11))}
-		n := 2 + r.Intn(4)
-		switch g.Op {
-		case api.OpZero, api.OpOne:
-			n = 0
-		case api.OpBuf, api.OpNot:
-			n = 1
-		case api.OpCover:
-			n = r.Intn(5)
-			g.Off = r.Intn(2) == 0
-			for range r.Intn(6) {
-				row := ""
-				for range n {
-					row += []string{"0", "1", "-"}[r.Intn(3)]
-				}
-				g.Rows = append(g.Rows, row)
-			}
-		}
-		for range n {
-			g.Ins = append(g.Ins, nets[r.Intn(len(nets))])
-		}
-		nets = append(nets, g.Name)
-		c.Gates = append(c.Gates, g)
-	}
-	for i := range c.Latches {
-		c.Latches[i].Next = nets[r.Intn(len(nets))]
-	}
-	for _, i := range r.Perm(len(nets))[:1+r.Intn(len(nets))] {
-		c.Outputs = append(c.Outputs, nets[i])
-	}
-	r.Shuffle(len(c.Gates), func(i, j int) { c.Gates[i], c.Gates[j] = c.Gates[j], c.Gates[i] })
-	return c
-}
-
-func bitsOf(x, n int) []bool {
-	l := make([]bool, n)
-	for i := range l {
-		l[i] = x>>i&1 == 1
-	}
-	return l
-}
-
 func TestGraphDoesWhatNetlistDoes(t *testing.T) {
 	r := rand.New(rand.NewSource(4))
+	size := sample.Size{Inputs: [2]int{1, 4}, Latches: [2]int{0, 3}, Gates: [2]int{0, 9}, Outputs: [2]int{1, 9}, Width: [2]int{2, 5}}
 	for range 500 {
-		c := randomCircuit(r)
+		c := sample.Circuit(r.Intn, size, "g")
 		if e, name := order.Check(c); e != api.OK {
 			t.Fatal(c, e, name)
 		}
@@ -258,7 +205,7 @@ func TestGraphDoesWhatNetlistDoes(t *testing.T) {
 			t.Fatal(c, m, e, name)
 		}
 		for x := range 1 << (len(c.Inputs) + len(c.Latches)) {
-			ins, state := bitsOf(x, len(c.Inputs)), bitsOf(x>>len(c.Inputs), len(c.Latches))
+			ins, state := sample.Bits(x, len(c.Inputs)), sample.Bits(x>>len(c.Inputs), len(c.Latches))
 			a, n, _ := step.Step(c, state, ins)
 			b, o, _ := aig.Step(m.Graph, state, ins)
 			if !slices.Equal(a, b) || !slices.Equal(n, o) {

@@ -11,6 +11,7 @@ import (
 	"patchbay/lower"
 	"patchbay/net"
 	"patchbay/raise"
+	"patchbay/sample"
 )
 
 func gate(op api.Op, name string, ins ...string) api.Gate {
@@ -159,44 +160,14 @@ func TestGates(t *testing.T) {
 	}
 }
 
-func randomModel(r *rand.Rand) api.Model {
-	var m api.Model
-	g := &m.Graph
-	names := r.Perm(20)
-	name := func() string {
-		s := "n" + strconv.Itoa(names[0])
-		names = names[1:]
-		return s
-	}
-	g.Ins = r.Intn(4)
-	for range g.Ins {
-		m.Inputs = append(m.Inputs, name())
-	}
-	for range r.Intn(4) {
-		m.Latches = append(m.Latches, name())
-		g.Next, g.Init = append(g.Next, 0), append(g.Init, r.Intn(3))
-	}
-	numbers := 1 + g.Ins + len(g.Next)
-	for range r.Intn(12) {
-		g.Ands = append(g.Ands, [2]int{r.Intn(2 * numbers), r.Intn(2 * numbers)})
-		numbers++
-	}
-	for i := range g.Next {
-		g.Next[i] = r.Intn(2 * numbers)
-	}
-	for range r.Intn(5) {
-		m.Outputs, g.Outs = append(m.Outputs, name()), append(g.Outs, r.Intn(2*numbers))
-	}
-	if g.Ins > 0 && r.Intn(2) == 0 {
-		m.Outputs, g.Outs = append(m.Outputs, m.Inputs[0]), append(g.Outs, 2)
-	}
-	return m
-}
-
 func TestRaisedAndLoweredIsTheSameModel(t *testing.T) {
 	r := rand.New(rand.NewSource(5))
+	size := sample.Size{Inputs: [2]int{0, 3}, Latches: [2]int{0, 3}, Gates: [2]int{0, 11}, Outputs: [2]int{0, 4}}
 	for range 2000 {
-		m := randomModel(r)
+		m := sample.Model(r.Intn, size, "n")
+		if len(m.Inputs) > 0 && r.Intn(2) == 0 {
+			m.Outputs, m.Graph.Outs = append(m.Outputs, m.Inputs[0]), append(m.Graph.Outs, 2)
+		}
 		n, e := raise.Normal(m)
 		if e != api.OK || !aig.Strict(n.Graph) {
 			t.Fatal(m, n, e)

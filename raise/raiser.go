@@ -58,7 +58,7 @@ func (r *raiser) raise() api.Circuit {
 	c := api.Circuit{Inputs: slices.Clone(r.m.Inputs), Outputs: slices.Clone(r.m.Outputs)}
 	r.tell = func(g api.Gate) { c.Gates = append(c.Gates, g) }
 	for i, a := range r.m.Graph.Ands {
-		r.make(2*(1+len(r.m.Inputs)+len(r.m.Latches)+i), and(a))
+		r.build(2*(1+len(r.m.Inputs)+len(r.m.Latches)+i), and(a))
 	}
 	for i, s := range r.m.Latches {
 		c.Latches = append(c.Latches, api.Latch{Name: s, Next: r.net(r.m.Graph.Next[i]), Init: r.m.Graph.Init[i]})
@@ -77,13 +77,13 @@ func (r *raiser) net(lit int) string {
 		return r.used[i]
 	}
 	if lit <= 1 {
-		return r.make(lit, constant(lit))
+		return r.build(lit, constant(lit))
 	}
-	return r.make(lit, turned(lit))
+	return r.build(lit, turned(lit))
 }
 
-// make makes the net of a literal, and its name.
-func (r *raiser) make(lit int, by maker) string {
+// build makes the net of a literal, and its name.
+func (r *raiser) build(lit int, by maker) string {
 	op, ins := by.made(r)
 	name := ident.Fresh(r.used, stem)
 	r.nets[lit] = len(r.used)

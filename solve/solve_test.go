@@ -9,6 +9,7 @@ import (
 	"patchbay/api"
 	"patchbay/cnf"
 	"patchbay/proof"
+	"patchbay/sample"
 	"patchbay/solve"
 )
 
@@ -20,18 +21,10 @@ func clauses(l ...[]int) []api.Clause {
 	return all
 }
 
-func bitsOf(x, n int) []bool {
-	l := make([]bool, n)
-	for i := range l {
-		l[i] = x>>i&1 == 1
-	}
-	return l
-}
-
 // may tells, of all values, whether some let clauses hold.
 func may(l []api.Clause, vars int) bool {
 	for x := range 1 << vars {
-		if v, _ := cnf.True(l, bitsOf(x, vars)); v {
+		if v, _ := cnf.True(l, sample.Bits(x, vars)); v {
 			return true
 		}
 	}

@@ -15,6 +15,7 @@ import (
 	"patchbay/net"
 	"patchbay/packed"
 	"patchbay/raise"
+	"patchbay/sample"
 	"patchbay/step"
 	"patchbay/trans"
 	"patchbay/verilog"
@@ -297,60 +298,6 @@ func TestTranslateLimits(t *testing.T) {
 	}
 }
 
-func randomCircuit(r *rand.Rand, stems []string) api.Circuit {
-	var c api.Circuit
-	name := func(i int) string { return stems[r.Intn(len(stems))] + strconv.Itoa(i) }
-	for i := range 1 + r.Intn(3) {
-		c.Inputs = append(c.Inputs, name(i))
-	}
-	nets := slices.Clone(c.Inputs)
-	for i := range r.Intn(3) {
-		c.Latches = append(c.Latches, api.Latch{Name: name(10 + i), Init: r.Intn(3)})
-		nets = append(nets, c.Latches[i].Name)
-	}
-	for i := range r.Intn(7) {
-		g := api.Gate{Name: name(20 + i), Op: api.Op(r.Intn(11))}
-		n := 2 + r.Intn(4)
-		switch g.Op {
-		case api.OpZero, api.OpOne:
-			n = 0
-		case api.OpBuf, api.OpNot:
-			n = 1
-		case api.OpCover:
-			n = r.Intn(5)
-			g.Off = r.Intn(2) == 0
-			for range r.Intn(5) {
-				row := ""
-				for range n {
-					row += []string{"0", "1", "-"}[r.Intn(3)]
-				}
-				g.Rows = append(g.Rows, row)
-			}
-		}
-		for range n {
-			g.Ins = append(g.Ins, nets[r.Intn(len(nets))])
-		}
-		nets = append(nets, g.Name)
-		c.Gates = append(c.Gates, g)
-	}
-	for i := range c.Latches {
-		c.Latches[i].Next = nets[r.Intn(len(nets))]
-	}
-	for _, i := range r.Perm(len(nets))[:r.Intn(len(nets)+1)] {
-		c.Outputs = append(c.Outputs, nets[i])
-	}
-	r.Shuffle(len(c.Gates), func(i, j int) { c.Gates[i], c.Gates[j] = c.Gates[j], c.Gates[i] })
-	return c
-}
-
-func bitsOf(x, n int) []bool {
-	l := make([]bool, n)
-	for i := range l {
-		l[i] = x>>i&1 == 1
-	}
-	return l
-}
-
 // sameMachine tells whether two netlists have the same names, in order, begin and do the same.
 func sameMachine(t *testing.T, a, b api.Circuit) {
 	if !slices.Equal(a.Inputs, b.Inputs) || !slices.Equal(a.Outputs, b.Outputs) || len(a.Latches) != len(b.Latches) {
@@ -362,7 +309,7 @@ func sameMachine(t *testing.T, a, b api.Circuit) {
 		}
 	}
 	for i := range 1 << (len(a.Inputs) + len(a.Latches)) {
-		ins, state := bitsOf(i, len(a.Inputs)), bitsOf(i>>len(a.Inputs), len(a.Latches))
+		ins, state := sample.Bits(i, len(a.Inputs)), sample.Bits(i>>len(a.Inputs), len(a.Latches))
 		x, m, _ := step.Step(a, state, ins)
 		y, n, _ := step.Step(b, state, ins)
 		if !slices.Equal(x, y) || !slices.Equal(m, n) {
@@ -373,8 +320,9 @@ func sameMachine(t *testing.T, a, b api.Circuit) {
 
 func TestThereAndBack(t *testing.T) {
 	r := rand.New(rand.NewSource(11))
+	size := sample.Size{Inputs: [2]int{1, 3}, Latches: [2]int{0, 2}, Gates: [2]int{0, 7}, Outputs: [2]int{0, 9}, Width: [2]int{2, 5}}
 	for range 60 {
-		c := randomCircuit(r, []string{"a", "n", "x__", "(", "\\", ".", "i"})
+		c := sample.Circuit(r.Intn, size, "a", "n", "x__", "(", "\\", ".", "i")
 		for _, from := range all {
 			s, e := trans.Write(from, c)
 			if e != api.OK {

@@ -36,8 +36,8 @@ func (p *parser) put(name string, op api.Op, ins ...string) {
 	p.c.Gates = append(p.c.Gates, api.Gate{Name: name, Op: op, Ins: ins})
 }
 
-// make makes a gate of a name that is not used.
-func (p *parser) make(op api.Op, ins ...string) operand {
+// fresh makes a gate of a name that is not used.
+func (p *parser) fresh(op api.Op, ins ...string) operand {
 	name := ""
 	if len(p.c.Gates) < api.MaxNets { // of more the netlist is none, whatever their names
 		name = ident.Fresh(p.used, stem)
@@ -59,7 +59,7 @@ func (p *parser) joined(mark string, op api.Op, part func() operand) operand {
 	for p.is(markKind, mark) {
 		p.at++
 		right := part()
-		left = p.make(op, left.net, right.net)
+		left = p.fresh(op, left.net, right.net)
 	}
 	return left
 }
@@ -68,7 +68,7 @@ func (p *parser) atom() operand {
 	switch {
 	case p.is(markKind, "~"):
 		p.at++
-		return p.make(api.OpNot, p.atom().net)
+		return p.fresh(api.OpNot, p.atom().net)
 	case p.is(markKind, "("):
 		p.at++
 		inner := p.expression()
@@ -76,10 +76,10 @@ func (p *parser) atom() operand {
 		return inner
 	case p.is(wordKind, zeroWord):
 		p.at++
-		return p.make(api.OpZero)
+		return p.fresh(api.OpZero)
 	case p.is(wordKind, oneWord):
 		p.at++
-		return p.make(api.OpOne)
+		return p.fresh(api.OpOne)
 	}
 	return operand{net: p.name()}
 }

@@ -10,6 +10,7 @@ import (
 	"patchbay/api"
 	"patchbay/bench"
 	"patchbay/net"
+	"patchbay/sample"
 	"patchbay/spot"
 	"patchbay/verilog"
 )
@@ -255,56 +256,11 @@ endmodule
 	}
 }
 
-func randomCircuit(r *rand.Rand, stems []string) api.Circuit {
-	var c api.Circuit
-	name := func(i int) string { return stems[r.Intn(len(stems))] + strconv.Itoa(i) }
-	for i := range 1 + r.Intn(3) {
-		c.Inputs = append(c.Inputs, name(i))
-	}
-	nets := slices.Clone(c.Inputs)
-	for i := range r.Intn(3) {
-		c.Latches = append(c.Latches, api.Latch{Name: name(10 + i), Init: r.Intn(3)})
-		nets = append(nets, c.Latches[i].Name)
-	}
-	for i := range r.Intn(8) {
-		g := api.Gate{Name: name(20 + i), Op: api.Op(r.Intn(11))}
-		n := 2 + r.Intn(7)
-		switch g.Op {
-		case api.OpZero, api.OpOne:
-			n = 0
-		case api.OpBuf, api.OpNot:
-			n = 1
-		case api.OpCover:
-			n = r.Intn(7)
-			g.Off = r.Intn(2) == 0
-			for range r.Intn(6) {
-				row := ""
-				for range n {
-					row += []string{"0", "1", "-"}[r.Intn(3)]
-				}
-				g.Rows = append(g.Rows, row)
-			}
-		}
-		for range n {
-			g.Ins = append(g.Ins, nets[r.Intn(len(nets))])
-		}
-		nets = append(nets, g.Name)
-		c.Gates = append(c.Gates, g)
-	}
-	for i := range c.Latches {
-		c.Latches[i].Next = nets[r.Intn(len(nets))]
-	}
-	for _, i := range r.Perm(len(nets))[:r.Intn(len(nets)+1)] {
-		c.Outputs = append(c.Outputs, nets[i])
-	}
-	r.Shuffle(len(c.Gates), func(i, j int) { c.Gates[i], c.Gates[j] = c.Gates[j], c.Gates[i] })
-	return c
-}
-
 func TestWhatIsPrintedIsParsedAgain(t *testing.T) {
 	r := rand.New(rand.NewSource(10))
+	size := sample.Size{Inputs: [2]int{1, 3}, Latches: [2]int{0, 2}, Gates: [2]int{0, 9}, Outputs: [2]int{0, 9}, Width: [2]int{2, 8}}
 	for range 500 {
-		c := randomCircuit(r, []string{"a", "n", "x__", "(", "\\", ";", "1'b"})
+		c := sample.Circuit(r.Intn, size, "a", "n", "x__", "(", "\\", ";", "1'b")
 		x, _ := bench.Expand(c)
 		s, e := verilog.Print(c)
 		back, f := verilog.Parse(s)

@@ -23,7 +23,7 @@ const library = " bytes cmp container/heap errors iter maps math math/bits slice
 // calls is, package by package, which of the project's it may call beside api: the document's map.
 func calls() map[string]string {
 	return map[string]string{
-		"api": "", "spot": "", "digits": "", "token": "", "ident": "token", "table": "ident", "net": "ident", "order": "net",
+		"api": "", "sample": "", "spot": "", "digits": "", "token": "", "ident": "token", "table": "ident", "net": "ident", "order": "net",
 		"step": "net order", "aig": "", "cover": "", "lower": "ident net order aig cover", "raise": "ident net aig lower",
 		"aiger": "spot digits ident aig lower raise", "packed": "spot digits aig lower raise aiger",
 		"blif": "spot token ident net order", "bench": "spot token ident net order cover",

@@ -4,13 +4,13 @@ import (
 	"math"
 	"math/rand"
 	"slices"
-	"strconv"
 	"strings"
 	"testing"
 
 	"patchbay/aig"
 	"patchbay/api"
 	"patchbay/lower"
+	"patchbay/sample"
 	"patchbay/spot"
 	"patchbay/trans"
 	"patchbay/witness"
@@ -280,31 +280,6 @@ func shuffled(r *rand.Rand, m api.Model) api.Model {
 	return n
 }
 
-func randomModel(r *rand.Rand) api.Model {
-	var m api.Model
-	g := &m.Graph
-	g.Ins = r.Intn(3)
-	for i := range g.Ins {
-		m.Inputs = append(m.Inputs, "(in"+strconv.Itoa(i))
-	}
-	for i := range r.Intn(4) {
-		m.Latches = append(m.Latches, "#"+strconv.Itoa(i))
-		g.Next, g.Init = append(g.Next, 0), append(g.Init, r.Intn(3))
-	}
-	numbers := 1 + g.Ins + len(g.Next)
-	for range r.Intn(10) {
-		g.Ands = append(g.Ands, [2]int{r.Intn(2 * numbers), r.Intn(2 * numbers)})
-		numbers++
-	}
-	for i := range g.Next {
-		g.Next[i] = r.Intn(2 * numbers)
-	}
-	for i := range 1 + r.Intn(4) {
-		m.Outputs, g.Outs = append(m.Outputs, "l"+strconv.Itoa(i)), append(g.Outs, r.Intn(2*numbers))
-	}
-	return m
-}
-
 func randomWitness(r *rand.Rand, m api.Model) witness.Witness {
 	w := witness.Witness{Bad: r.Intn(len(m.Outputs))}
 	for _, init := range m.Graph.Init {
@@ -326,9 +301,10 @@ func randomWitness(r *rand.Rand, m api.Model) witness.Witness {
 
 func TestRenamedIsOneOfTheSameMachine(t *testing.T) {
 	r := rand.New(rand.NewSource(18))
+	size := sample.Size{Inputs: [2]int{0, 2}, Latches: [2]int{0, 3}, Gates: [2]int{0, 9}, Outputs: [2]int{1, 4}}
 	trues := 0
 	for range 1000 {
-		m := randomModel(r)
+		m := sample.Model(r.Intn, size, "(in", "#", "l")
 		n := shuffled(r, m)
 		w := randomWitness(r, m)
 		v, e := witness.Replay(m, w)
@@ -354,9 +330,10 @@ func TestRenamedIsOneOfTheSameMachine(t *testing.T) {
 
 func TestWitnessOfATranslation(t *testing.T) {
 	r := rand.New(rand.NewSource(19))
+	size := sample.Size{Inputs: [2]int{0, 2}, Latches: [2]int{0, 3}, Gates: [2]int{0, 9}, Outputs: [2]int{1, 4}}
 	limits := api.Limits{Bytes: api.MaxBytes, Nets: api.MaxNets}
 	for range 50 {
-		m := randomModel(r)
+		m := sample.Model(r.Intn, size, "(in", "#", "l")
 		s, _ := trans.Put(api.FmtAag, m)
 		was, _ := trans.Denote(api.FmtAag, s)
 		for to := api.FmtAag; to <= api.FmtVerilog; to++ {
